@@ -1,0 +1,147 @@
+package delta_test
+
+import (
+	"reflect"
+	"slices"
+	"testing"
+
+	"nameplan/api"
+	"nameplan/delta"
+	"nameplan/sample"
+	"nameplan/value"
+	"nameplan/zone"
+)
+
+var text, nums, signed = sample.Text, sample.Nums, sample.Signed
+
+func serial(z api.Zone, n int) api.Zone {
+	s, _, _ := zone.Find(z, api.Question{Name: z.Apex, Type: 4})
+	s.Set.Data[0].N = n
+	out, e := zone.Put(z, s)
+	if e != api.OK {
+		panic(e)
+	}
+	return out
+}
+
+// P11.1, P11.2: serial numbers.
+func TestSerials(t *testing.T) {
+	for _, a := range []int{0, 1, 2, 32766, 32767, 32768, 32769, 65534, 65535} {
+		n, e := delta.After(a)
+		if is, _ := delta.Less(a, n); n != (a+1)%65536 || e != api.OK || !is {
+			t.Error(a, n, e)
+		}
+		for _, b := range []int{0, 1, 32766, 32767, 32768, 65534, 65535} {
+			ab, e := delta.Less(a, b)
+			ba, _ := delta.Less(b, a)
+			d := (b - a + 65536) % 65536
+			if e != api.OK || ab != (d >= 1 && d <= 32767) || (d != 0 && d != 32768) != (ab != ba) {
+				t.Error(a, b, ab, ba)
+			}
+		}
+		for _, b := range []int{-1, 65536} {
+			x, e := delta.Less(a, b)
+			y, f := delta.Less(b, a)
+			n, g := delta.After(b)
+			if x || y || n != 0 || e != api.ErrArg || f != e || g != e {
+				t.Error(a, b)
+			}
+		}
+	}
+}
+
+// P11.1: the example of the document.
+func TestExample(t *testing.T) {
+	a := sample.With(sample.Bare("x", 1, "h"), signed("w.x", 1, 5, nums(7)))
+	b := sample.With(sample.Bare("x", 2, "h"), signed("v.x", 1, 5, nums(7)))
+	d, e := delta.Diff(a, b)
+	if e != api.OK || !reflect.DeepEqual(d, api.Delta{Apex: "x", From: 1, To: 2, Drop: []api.Question{{Name: "w.x", Type: 1}}, Put: []api.Signed{b.Sets[1], b.Sets[2]}}) {
+		t.Error(d, e)
+	}
+	if d, e := delta.Diff(b, a); e != api.ErrOld || d.Apex != "" {
+		t.Error(d, e)
+	}
+	if d, e := delta.Diff(a, sample.Bare("y", 2, "h")); e != api.ErrArg || d.Apex != "" {
+		t.Error(d, e)
+	}
+	f := d
+	f.From, f.To, f.Drop, f.Put = 2, 3, []api.Question{{Name: "v.x", Type: 1}, {Name: "w.x", Type: 1}, {Name: "v.x", Type: 1}}, []api.Signed{signed("x", 4, 1, nums(3))}
+	j, e := delta.Join(d, f)
+	if e != api.OK || !reflect.DeepEqual(j, api.Delta{Apex: "x", From: 1, To: 3, Drop: []api.Question{{Name: "v.x", Type: 1}, {Name: "w.x", Type: 1}}, Put: f.Put}) {
+		t.Error(j, e)
+	}
+}
+
+// P11.1: errors of Apply and Join.
+func TestErrors(t *testing.T) {
+	z := sample.With(sample.Bare("x", 1, "h"), signed("w.x", 1, 5, nums(7)))
+	start := signed("x", 4, 1, nums(2))
+	good := api.Delta{Apex: "x", From: 1, To: 2, Put: []api.Signed{start}}
+	for i, c := range []struct {
+		change func(d *api.Delta)
+		e      api.Errno
+	}{
+		{func(d *api.Delta) {}, api.OK}, {func(d *api.Delta) { d.Apex = "y" }, api.ErrArg}, {func(d *api.Delta) { d.Apex = "*" }, api.ErrArg}, {func(d *api.Delta) { d.From = -1 }, api.ErrArg}, {func(d *api.Delta) { d.To = 1 }, api.ErrArg}, {func(d *api.Delta) { d.To = 32769 }, api.ErrArg},
+		{func(d *api.Delta) { d.Drop = []api.Question{{Name: "x", Type: 9}} }, api.ErrArg}, {func(d *api.Delta) { d.Drop = []api.Question{{Name: "x", Type: 4}} }, api.ErrArg},
+		{func(d *api.Delta) { d.Put = []api.Signed{start, start} }, api.ErrArg}, {func(d *api.Delta) { d.Put = []api.Signed{signed("w.x", 1, 5)} }, api.ErrArg}, {func(d *api.Delta) { d.Put = []api.Signed{signed("w.x", 1, 5, nums(1)), start} }, api.ErrArg},
+		{func(d *api.Delta) { d.From, d.To = 2, 3 }, api.ErrOld}, {func(d *api.Delta) { d.To = 3 }, api.ErrClash}, {func(d *api.Delta) { d.Drop = []api.Question{{Name: "x", Type: 2}} }, api.ErrClash}, {func(d *api.Delta) { d.Put = nil }, api.ErrClash},
+		{func(d *api.Delta) { d.Put = append(d.Put, signed("y", 1, 5, nums(1))) }, api.ErrClash}, {func(d *api.Delta) { d.Drop = []api.Question{{Name: "nothing", Type: 2}} }, api.OK},
+	} {
+		d := good
+		d.Put = slices.Clone(good.Put)
+		c.change(&d)
+		if out, e := delta.Apply(z, d); e != c.e || (e != api.OK) != (out.Apex == "") {
+			t.Error(i, e)
+		}
+	}
+	if out, e := delta.Apply(api.Zone{}, good); e != api.ErrArg || out.Apex != "" {
+		t.Error(e)
+	}
+	other := good
+	other.Apex, other.From, other.To = "y", 2, 3
+	far := good
+	far.From, far.To = 2, 32769
+	for i, c := range []struct {
+		e    api.Delta
+		want api.Errno
+	}{{other, api.ErrArg}, {api.Delta{}, api.ErrArg}, {good, api.ErrOld}, {far, api.ErrOld}} {
+		if out, e := delta.Join(good, c.e); e != c.want || out.Apex != "" {
+			t.Error(i, e)
+		}
+	}
+}
+
+// P11.3 to P11.7: differences of arbitrary versions.
+func TestLaws(t *testing.T) {
+	d := sample.New(15)
+	for i := range 100 {
+		n := i * 700 % 65536
+		a, b, c := serial(d.Zone("x"), n), serial(d.Zone("x"), (n+5)%65536), serial(d.Zone("x"), (n+9)%65536)
+		x, e1 := delta.Diff(a, b)
+		y, e2 := delta.Diff(b, c)
+		j, e3 := delta.Join(x, y)
+		if e1 != api.OK || e2 != api.OK || e3 != api.OK {
+			t.Fatal(e1, e2, e3)
+		}
+		ab, e := delta.Apply(a, x)
+		if e != api.OK || !value.SameZone(ab, b) || !zone.Valid(ab) {
+			t.Error(e)
+		}
+		if ac, e := delta.Apply(a, j); e != api.OK || !value.SameZone(ac, c) {
+			t.Error(e)
+		}
+		if out, e := delta.Apply(b, x); e != api.ErrOld || out.Apex != "" {
+			t.Error(e)
+		}
+		for _, s := range x.Put {
+			if r, ok, _ := zone.Find(a, api.Question{Name: s.Set.Name, Type: s.Set.Type}); ok && value.SameSigned(r, s) {
+				t.Error("both have", s)
+			}
+		}
+		for _, q := range x.Drop {
+			if _, ok, _ := zone.Find(a, q); !ok {
+				t.Error("the first zone does not have", q)
+			}
+		}
+	}
+}
