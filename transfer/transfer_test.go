@@ -1,0 +1,129 @@
+package transfer_test
+
+import (
+	"reflect"
+	"slices"
+	"testing"
+
+	"nameplan/api"
+	"nameplan/sample"
+	"nameplan/transfer"
+)
+
+func with(z api.Zone, seen int) api.Secondary {
+	return api.Secondary{Has: true, Zone: z, Seen: seen}
+}
+
+// P14.1: what a primary gives.
+func TestServe(t *testing.T) {
+	l := sample.New(18).Versions("x", 3, 1)
+	for i, c := range []struct {
+		has    bool
+		serial int
+		full   bool
+		n      int
+	}{{true, 2, false, 1}, {true, 1, false, 2}, {true, 3, false, 0}, {true, 7, true, 0}, {false, 2, true, 0}, {false, -5, true, 0}} {
+		o, e := transfer.Serve(l, c.has, c.serial)
+		if e != api.OK || o.Full != c.full || len(o.Deltas) != c.n || c.full != reflect.DeepEqual(o.Zone, l[2]) {
+			t.Error(i, o, e)
+		}
+	}
+	back := slices.Clone(l)
+	slices.Reverse(back)
+	for i, c := range []struct {
+		l      []api.Zone
+		serial int
+		e      api.Errno
+	}{{nil, 0, api.ErrNone}, {nil, -1, api.ErrArg}, {l, 65536, api.ErrArg}, {back, 1, api.ErrArg}, {append(slices.Clone(l), l[2]), 1, api.ErrArg}, {append(slices.Clone(l), sample.Bare("y", 4, "a")), 1, api.ErrArg}, {append(slices.Clone(l), api.Zone{}), 1, api.ErrArg}} {
+		if o, e := transfer.Serve(c.l, true, c.serial); e != c.e || o.Full || len(o.Deltas) > 0 {
+			t.Error(i, e)
+		}
+	}
+}
+
+// P14.1: errors of Take, Pull and Expired; P14.6: no way back.
+func TestTake(t *testing.T) {
+	l := sample.New(19).Versions("x", 4, 65533)
+	full := func(z api.Zone) api.Offer { return api.Offer{Full: true, Zone: z} }
+	steps, _ := transfer.Serve(l, true, 65533)
+	other := sample.With(l[1], sample.Signed("other.x", 1, 1, sample.Nums(1)))
+	for i, c := range []struct {
+		s  api.Secondary
+		o  api.Offer
+		at int
+		e  api.Errno
+	}{
+		{api.Secondary{}, full(l[1]), 0, api.OK}, {api.Secondary{Seen: 5}, full(l[1]), 4, api.ErrArg}, {api.Secondary{}, full(l[1]), 10000001, api.ErrArg}, {api.Secondary{Seen: -1}, full(l[1]), 4, api.ErrArg}, {api.Secondary{Has: true}, full(l[1]), 4, api.ErrArg}, {api.Secondary{Zone: l[0]}, full(l[1]), 4, api.ErrArg},
+		{api.Secondary{}, full(api.Zone{}), 0, api.ErrArg}, {api.Secondary{}, api.Offer{Zone: l[0]}, 0, api.ErrArg}, {api.Secondary{}, api.Offer{Full: true, Zone: l[0], Deltas: steps.Deltas}, 0, api.ErrArg},
+		{with(l[0], 0), full(sample.Bare("y", 0, "a")), 0, api.ErrArg}, {with(sample.Bare("y", 65533, "a"), 0), steps, 0, api.ErrArg}, {api.Secondary{}, api.Offer{}, 0, api.ErrState}, {api.Secondary{}, steps, 0, api.ErrState},
+		{with(l[2], 0), full(l[1]), 0, api.ErrOld}, {with(l[1], 0), full(other), 0, api.ErrClash}, {with(l[1], 3), full(l[1]), 3, api.OK}, {with(l[1], 0), full(l[3]), 0, api.OK}, {with(l[1], 0), steps, 0, api.ErrOld}, {with(l[0], 0), steps, 0, api.OK}, {with(l[0], 0), api.Offer{}, 0, api.OK},
+		{with(l[0], 0), api.Offer{Deltas: []api.Delta{steps.Deltas[0], steps.Deltas[2]}}, 0, api.ErrArg}, {with(l[0], 0), api.Offer{Deltas: []api.Delta{{}}}, 0, api.ErrArg},
+	} {
+		s, e := transfer.Take(c.s, c.o, c.at)
+		if e != c.e || s.Has != (e == api.OK) || e != api.OK && (s.Seen != 0 || s.Zone.Apex != "") || e == api.OK && s.Seen != c.at {
+			t.Error(i, e)
+		}
+	}
+	for want, s := range map[api.Errno]api.Secondary{api.ErrArg: {Has: true}, api.ErrOld: with(sample.Bare("x", 5, "a"), 0)} {
+		if _, e := transfer.Pull(s, l, 0); e != want {
+			t.Error(e)
+		}
+	}
+	if _, e := transfer.Pull(api.Secondary{}, nil, 0); e != api.ErrNone {
+		t.Error(e)
+	}
+	if _, e := transfer.Pull(with(sample.Bare("y", 5, "a"), 0), l, 0); e != api.ErrArg {
+		t.Error(e)
+	}
+}
+
+// P14.7: patience.
+func TestExpired(t *testing.T) {
+	z := sample.Bare("x", 1, "a")
+	for i, c := range []struct {
+		s            api.Secondary
+		at, patience int
+		want         bool
+		e            api.Errno
+	}{{with(z, 5), 5, 0, false, api.OK}, {with(z, 5), 8, 3, false, api.OK}, {with(z, 5), 9, 3, true, api.OK}, {api.Secondary{}, 0, 9, true, api.OK}, {with(z, 5), 4, 3, false, api.ErrArg}, {with(z, 5), 5, -1, false, api.ErrArg}, {with(z, 5), 10000001, 3, false, api.ErrArg}, {api.Secondary{Has: true}, 5, 3, false, api.ErrArg}, {with(z, 5), 10000000, 1 << 62, false, api.OK}} {
+		if is, e := transfer.Expired(c.s, c.at, c.patience); is != c.want || e != c.e {
+			t.Error(i, is, e)
+		}
+	}
+}
+
+// P14.2 to P14.5: secondaries come to the newest version.
+func TestPull(t *testing.T) {
+	d := sample.New(20)
+	for range 40 {
+		l := d.Versions("x", 1+d.Roll(6), 65530+d.Roll(6))
+		var s, late api.Secondary
+		for i := range l {
+			o, _ := transfer.Serve(l[:i+1], s.Has, 0)
+			if s.Has {
+				n := s.Zone
+				for _, z := range n.Sets {
+					if z.Set.Type == 4 {
+						o, _ = transfer.Serve(l[:i+1], true, z.Set.Data[0].N)
+					}
+				}
+				if o.Full {
+					t.Error("a whole zone")
+				}
+			}
+			var e api.Errno
+			if s, e = transfer.Pull(s, l[:i+1], i); e != api.OK || !reflect.DeepEqual(s, with(l[i], i)) {
+				t.Error(e)
+			}
+			if again, e := transfer.Pull(s, l[:i+1], i+1); e != api.OK || !reflect.DeepEqual(again, with(l[i], i+1)) {
+				t.Error(e)
+			}
+			if d.Roll(2) == 0 {
+				late, _ = transfer.Pull(late, l[:i+1], i)
+			}
+		}
+		if late, e := transfer.Pull(late, l, 50); e != api.OK || !reflect.DeepEqual(late.Zone, s.Zone) {
+			t.Error(e)
+		}
+	}
+}
