@@ -3,6 +3,7 @@ package value
 
 import (
 	"slices"
+	"strconv"
 
 	"nameplan/api"
 )
@@ -51,3 +52,45 @@ func SameSigneds(a, b []api.Signed) bool { return slices.EqualFunc(a, b, SameSig
 
 // SameZone reports whether two zones are equal.
 func SameZone(a, b api.Zone) bool { return a.Apex == b.Apex && SameSigneds(a.Sets, b.Sets) }
+
+// Key returns a text that tells a valid signed set from all others.
+func Key(s api.Signed) string {
+	b := make([]byte, 0, 96)
+	number := func(l ...int) {
+		for _, n := range l {
+			b = append(strconv.AppendInt(b, int64(n), 36), '/')
+		}
+	}
+	b = append(append(b, s.Set.Name...), '/')
+	number(s.Set.Type, s.Set.Life)
+	for _, d := range s.Set.Data {
+		b = append(append(b, d.Text...), '/')
+		number(d.N, d.M)
+	}
+	for _, g := range s.Sigs {
+		b = append(append(append(b, '!'), g.Zone...), '/')
+		number(g.Key, g.Alg, g.From, g.Until)
+		b = append(strconv.AppendUint(b, g.Sum, 36), '/')
+	}
+	return string(b)
+}
+
+// Placed returns a copy of a zone that a host serves.
+func Placed(p api.Placed) api.Placed { return api.Placed{Host: p.Host, Zone: Zone(p.Zone)} }
+
+// Copied returns a copy of a version that a host serves for a while.
+func Copied(c api.Copy) api.Copy {
+	c.Zone = Zone(c.Zone)
+	return c
+}
+
+// Answer returns a copy of an answer.
+func Answer(a api.Answer) api.Answer {
+	a.Sets = Signeds(a.Sets)
+	return a
+}
+
+// SameAnswer reports whether two answers are equal.
+func SameAnswer(a, b api.Answer) bool {
+	return a.Kind == b.Kind && a.Cut == b.Cut && SameSigneds(a.Sets, b.Sets)
+}

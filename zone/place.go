@@ -3,6 +3,7 @@ package zone
 import (
 	"nameplan/api"
 	"nameplan/name"
+	"nameplan/siglist"
 )
 
 // placed is a zone with the cut that each of its sets is behind (empty, if it is behind none).
@@ -92,7 +93,7 @@ func (p placed) misplaced(i int) bool {
 
 func (p placed) wronglySigned(i int) bool {
 	sigs := p.Sets[i].Sigs
-	return len(sigs) > 0 && p.foreign(i) || !inForm(sigs, p.Apex)
+	return len(sigs) > 0 && p.foreign(i) || !siglist.InForm(sigs, p.Apex)
 }
 
 // apexHolds reports whether what is needed at the apex is there, and nothing that may not.
