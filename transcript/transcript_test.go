@@ -1,0 +1,221 @@
+package transcript_test
+
+import (
+	"bytes"
+	"reflect"
+	"slices"
+	"testing"
+
+	"nameplan/api"
+	"nameplan/cache"
+	"nameplan/course"
+	"nameplan/history"
+	"nameplan/sample"
+	"nameplan/sign"
+	"nameplan/transcript"
+	"nameplan/value"
+	"nameplan/world"
+)
+
+func q(n string, typ int) api.Question { return api.Question{Name: n, Type: typ} }
+
+// resolve lets a resolver run over the tree, and returns its transcript and its cache.
+func resolve(t *testing.T, c api.Cache, x api.Question, pick int) (api.Transcript, api.Cache) {
+	h := sample.Tree()
+	w, _ := history.At(h, 50)
+	r := course.New(course.Setting{Anchor: h.Anchor, Hints: h.Hints, Drift: h.Drift}, x, 50, c)
+	out := api.Transcript{Q: x, At: 50, Cache: c}
+	for {
+		ask, v, done := r.Step()
+		if done {
+			out.Result = v
+			return out, r.Cache()
+		}
+		addr := ask.Left[pick%len(ask.Left)]
+		a, e := world.Ask(w, addr, ask.Q)
+		if e != api.OK {
+			t.Fatal(e)
+		}
+		out.Heard = append(out.Heard, api.Heard{At: 50, Addr: addr, Q: ask.Q, Answer: a})
+		r.Hear(ask, addr, a)
+	}
+}
+
+func replay(x api.Transcript) (api.Verdict, api.Errno) {
+	h := sample.Tree()
+	return transcript.Replay(x, h.Anchor, h.Hints, h.Drift)
+}
+
+func check(t *testing.T, x api.Transcript, want bool) {
+	t.Helper()
+	h := sample.Tree()
+	if ok, e := transcript.Check(x, h.Anchor, h.Hints, h.Drift); ok != want || e != api.OK {
+		t.Error(ok, e)
+	}
+}
+
+var asked = []api.Question{q("w.x", 1), q("l.x", 5), q("q.x", 5), q("t.y.x", 5), q("q", 1), q("w.x", 5), q("y.x", 6), q("x", 7), q(".", 7), q("t.y.x", 1), q("a.ns", 1)}
+
+// P31.1: the example of the document.
+func TestExample(t *testing.T) {
+	x := api.Transcript{Q: q("t.x", 5), At: 5, Result: api.Verdict{Kind: 2}}
+	anchor := sample.Tree().Anchor
+	if v, e := transcript.Replay(x, anchor, []int{1}, 0); e != api.ErrLost || v.Kind != 0 {
+		t.Error(v, e)
+	}
+	if ok, e := transcript.Check(x, anchor, []int{1}, 0); ok || e != api.OK {
+		t.Error(ok, e)
+	}
+	x.Heard = []api.Heard{{At: 5, Addr: 1, Q: x.Q}}
+	if v, e := transcript.Replay(x, anchor, []int{1}, 0); e != api.OK || v.Kind != api.Missing || v.Q != x.Q {
+		t.Error(v, e)
+	}
+	for i, f := range []func() (api.Verdict, api.Errno){
+		func() (api.Verdict, api.Errno) { return transcript.Replay(x, api.Set{}, []int{1}, 0) },
+		func() (api.Verdict, api.Errno) { return transcript.Replay(x, anchor, nil, 0) },
+		func() (api.Verdict, api.Errno) { return transcript.Replay(x, anchor, []int{0}, 0) },
+		func() (api.Verdict, api.Errno) { return transcript.Replay(x, anchor, []int{1}, 1001) },
+		func() (api.Verdict, api.Errno) { return transcript.Replay(api.Transcript{}, anchor, []int{1}, 0) },
+	} {
+		if v, e := f(); e != api.ErrArg || v.Kind != 0 {
+			t.Error(i, e)
+		}
+	}
+	if ok, e := transcript.Check(x, anchor, nil, 0); ok || e != api.ErrArg {
+		t.Error(ok, e)
+	}
+}
+
+// P31.2: bytes.
+func TestBytes(t *testing.T) {
+	d := sample.New(38)
+	_, c := resolve(t, api.Cache{}, q("w.x", 5), 0)
+	for _, x := range asked {
+		for _, from := range []api.Cache{{}, c} {
+			y, _ := resolve(t, from, x, 1)
+			b, e := transcript.Bytes(y)
+			if e != api.OK {
+				t.Fatal(e)
+			}
+			z, e := transcript.Read(b)
+			again, _ := transcript.Bytes(z)
+			if e != api.OK || !bytes.Equal(again, b) || !value.SameSigneds(z.Result.Sets, y.Result.Sets) || z.Q != y.Q || len(z.Heard) != len(y.Heard) || !reflect.DeepEqual(z.Cache, y.Cache) {
+				t.Error(x, e)
+			}
+			for range 50 {
+				bad := slices.Clone(b)
+				bad[d.Roll(len(b))] ^= byte(1 + d.Roll(255))
+				if z, e := transcript.Read(bad); e != api.ErrSum || z.Q.Type != 0 {
+					t.Error(e)
+				}
+				if z, e := transcript.Read(closed(b[:d.Roll(len(b)-8)])); e != api.ErrSyntax || z.Q.Type != 0 {
+					t.Error(e)
+				}
+			}
+			if _, e := transcript.Read(closed(append(slices.Clone(b[:len(b)-8]), 0))); e != api.ErrSyntax {
+				t.Error(e)
+			}
+		}
+	}
+	long := func(n byte) []byte { return []byte{0, 0, 0, 0, 0, 0, 0, n} }
+	denial := api.Cache{List: []api.Entry{{Signed: api.Signed{Set: api.Set{Name: "d", Type: 5, Life: 3}}, Zone: ".", Until: 9}}}
+	x := api.Transcript{Q: q("t", 5), At: 7, Cache: denial, Heard: []api.Heard{{At: 7, Addr: 2, Q: q("u", 1)}}, Result: api.Verdict{Kind: 3, Q: q("v", 2)}}
+	want := slices.Concat([]byte{1, 't', 5}, long(7), []byte{0, 0, 0, 1, 0, 0, 0, 0, 1, 'd', 5}, long(3), []byte{0, 1, '.'}, long(9), []byte{0, 0, 0, 1}, long(7), long(2), []byte{1, 'u', 1, 0, 0, 0, 0, 0, 0, 3, 1, 'v', 2, 0, 0, 0, 0})
+	if b, e := transcript.Bytes(x); e != api.OK || !bytes.Equal(b, closed(want)) {
+		t.Error(b, e)
+	}
+	for i, change := range []func(x *api.Transcript){
+		func(x *api.Transcript) { x.Q.Type = 0 }, func(x *api.Transcript) { x.At = 10000001 }, func(x *api.Transcript) { x.At = 8 }, func(x *api.Transcript) { x.Heard = slices.Repeat(x.Heard, 41) }, func(x *api.Transcript) { x.Heard = []api.Heard{{At: 7, Q: q("u", 1)}} }, func(x *api.Transcript) { x.Heard = []api.Heard{{At: 7, Addr: 1}} }, func(x *api.Transcript) { x.Result.Kind = 0 }, func(x *api.Transcript) { x.Result.Kind = 2 }, func(x *api.Transcript) { x.Result.Q.Type = 9 },
+		func(x *api.Transcript) { x.Result.Sets = make([]api.Signed, 1) }, func(x *api.Transcript) { x.Result = api.Verdict{Kind: 1, Sets: make([]api.Signed, 1)} }, func(x *api.Transcript) { x.Cache.List = slices.Repeat(x.Cache.List, 2) }, func(x *api.Transcript) {
+			x.Heard = []api.Heard{{At: 7, Addr: 1, Q: q("u", 1), Answer: api.Answer{Kind: 4}}}
+		},
+	} {
+		y := x
+		y.Cache.List = slices.Clone(x.Cache.List)
+		change(&y)
+		b, e := transcript.Bytes(y)
+		if v, f := replay(y); e != api.ErrArg || f != e || len(b) > 0 || v.Kind != 0 {
+			t.Error(i, e, f)
+		}
+	}
+	_, e := transcript.Read(make([]byte, 7))
+	_, f := transcript.Read(make([]byte, 1000001))
+	if e != api.ErrSum || f != api.ErrLimit {
+		t.Error(e, f)
+	}
+}
+
+func closed(b []byte) []byte {
+	n := sign.Digest(b)
+	b = slices.Clone(b)
+	for shift := 56; shift >= 0; shift -= 8 {
+		b = append(b, byte(n>>shift))
+	}
+	return b
+}
+
+// P31.3 to P31.7: transcripts of resolvers.
+func TestLaws(t *testing.T) {
+	for i, x := range asked {
+		y, c := resolve(t, api.Cache{}, x, i)
+		if y.Result.Kind != api.Secure {
+			t.Errorf("%v: %v", x, y.Result)
+		}
+		v, e := replay(y)
+		if e != api.OK || !reflect.DeepEqual(v, y.Result) {
+			t.Error(x, v, e)
+		}
+		check(t, y, true)
+		other := y
+		other.Result = api.Verdict{Kind: api.Bogus}
+		if v2, e := replay(other); e != api.OK || !reflect.DeepEqual(v, v2) {
+			t.Error(x, v2, e)
+		}
+		check(t, other, false)
+		less, more := y, y
+		less.Heard = y.Heard[:len(y.Heard)-1]
+		more.Heard = append(slices.Clone(y.Heard), y.Heard[0])
+		if _, e := replay(less); e != api.ErrLost {
+			t.Error(x, e)
+		}
+		if _, e := replay(more); e != api.ErrProof {
+			t.Error(x, e)
+		}
+		for k := range y.Heard {
+			for _, change := range []func(h *api.Heard){func(h *api.Heard) { h.Q.Name = "other" }, func(h *api.Heard) { h.Q.Type = 1 + h.Q.Type%8 }, func(h *api.Heard) { h.Addr = 99 }} {
+				bad := y
+				bad.Heard = slices.Clone(y.Heard)
+				change(&bad.Heard[k])
+				if _, e := replay(bad); e != api.ErrProof {
+					t.Error(x, k, e)
+				}
+				check(t, bad, false)
+			}
+		}
+		for _, s := range v.Sets {
+			heard := slices.ContainsFunc(y.Heard, func(h api.Heard) bool {
+				return slices.ContainsFunc(h.Answer.Sets, func(r api.Signed) bool { return value.SameSigned(r, s) })
+			})
+			if !heard {
+				t.Error(x, s, "was not heard")
+			}
+		}
+		cached, _ := resolve(t, c, x, 0)
+		if len(cached.Heard) > 0 || !reflect.DeepEqual(cached.Result, v) {
+			t.Error(x, "is asked again")
+		}
+	}
+}
+
+// P31.1: what has no room is not learned, and the course ends after 40 addresses.
+func TestFull(t *testing.T) {
+	var c api.Cache
+	for i := range 400 {
+		c, _ = cache.Put(c, sample.Signed("n"+string([]byte{byte('a' + i/20), byte('a' + i%20)})+".q", 5, 90, sample.Text("t")), ".", 50)
+	}
+	y, after := resolve(t, c, q("w.x", 1), 0)
+	if y.Result.Kind != api.Missing || len(y.Heard) != 2 || !reflect.DeepEqual(after, c) {
+		t.Error(y.Result, len(y.Heard))
+	}
+	check(t, y, true)
+}
