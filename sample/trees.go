@@ -11,7 +11,7 @@ func Tree() api.History {
 	x := With(Bare("x", 1, "h.x", "h.y"), Signed("h.x", api.TypeAddr, 10, Nums(3)), Signed("w.x", api.TypeAddr, 10, Nums(7)), Signed("l.x", api.TypeAlias, 10, Text("t.y.x")), Signed("*.x", api.TypeText, 10, Text("wild")),
 		Signed("y.x", api.TypeServer, 10, Text("g.y.x")), Signed("y.x", api.TypeAnchor, 10, Nums(3, 1)), Signed("g.y.x", api.TypeAddr, 10, Nums(5)))
 	y := With(Bare("y.x", 1, "g.y.x"), Signed("g.y.x", api.TypeAddr, 10, Nums(5)), Signed("t.y.x", api.TypeText, 10, Text("t")))
-	h := api.History{Hosts: Hosts(), Anchor: Signed(".", api.TypeAnchor, 10, Nums(1, 1)).Set, Hints: []int{1, 2}, Drift: 1, End: 100}
+	h := api.History{Hosts: Hosts(), Anchor: Signed(".", api.TypeAnchor, 10, Nums(1, 1)).Set, Hints: []int{1, 2}, End: 100}
 	for host, l := range [][]api.Zone{{Sealed(root, 0, 900, 1), Sealed(ns, 0, 900, 4)}, {Sealed(root, 0, 900, 1), Sealed(ns, 0, 900, 4)}, {Sealed(x, 0, 900, 2)}, {Sealed(x, 0, 900, 2)}, {Sealed(y, 0, 900, 3)}} {
 		for _, z := range l {
 			h.Copies = append(h.Copies, api.Copy{Host: host, Until: 100, Zone: z})
