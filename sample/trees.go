@@ -19,3 +19,19 @@ func Tree() api.History {
 	}
 	return h
 }
+
+// Plain returns a history from 0 to 200 of the root on the host 0, and x and y on the host 1, whose hosts are all named in the root.
+func Plain() api.History {
+	root := With(Bare(".", 1, "r"), Signed("r", api.TypeAddr, 10, Nums(1)), Signed("s", api.TypeAddr, 10, Nums(2)), Signed("u", api.TypeAddr, 10, Nums(3)), Signed("v", api.TypeAddr, 10, Nums(4)),
+		Signed("x", api.TypeServer, 10, Text("s")), Signed("x", api.TypeAnchor, 10, Nums(2, 1)), Signed("y", api.TypeServer, 10, Text("s")), Signed("y", api.TypeAnchor, 10, Nums(3, 1)))
+	x := With(Bare("x", 1, "s"), Signed("w.x", api.TypeAddr, 10, Nums(7)), Signed("a.w.x", api.TypeText, 10, Text("a")))
+	y := With(Bare("y", 1, "s"), Signed("w.y", api.TypeAddr, 10, Nums(8)))
+	h := api.History{Anchor: Signed(".", api.TypeAnchor, 10, Nums(1, 1)).Set, Hints: []int{1}, Drift: 1, End: 200}
+	for i, n := range []string{"r", "s", "u", "v"} {
+		h.Hosts = append(h.Hosts, api.Host{Name: n, Addr: i + 1, Owner: i})
+	}
+	for i, z := range []api.Zone{Sealed(root, 0, 20000000, 1), Sealed(x, 0, 20000000, 2), Sealed(y, 0, 20000000, 3)} {
+		h.Copies = append(h.Copies, api.Copy{Host: min(i, 1), Until: 200, Zone: z})
+	}
+	return h
+}
