@@ -94,3 +94,12 @@ func Answer(a api.Answer) api.Answer {
 func SameAnswer(a, b api.Answer) bool {
 	return a.Kind == b.Kind && a.Cut == b.Cut && SameSigneds(a.Sets, b.Sets)
 }
+
+// Stage returns a copy of a stage.
+func Stage(s api.Stage) api.Stage { return api.Stage{Puts: List(s.Puts, Placed)} }
+
+// Step returns a copy of a step.
+func Step(s api.Step) api.Step { return api.Step{At: s.At, Stage: Stage(s.Stage)} }
+
+// Steps returns copies of steps.
+func Steps(l []api.Step) []api.Step { return List(l, Step) }
