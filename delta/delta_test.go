@@ -3,6 +3,7 @@ package delta_test
 import (
 	"reflect"
 	"slices"
+	"strconv"
 	"testing"
 
 	"nameplan/api"
@@ -143,5 +144,53 @@ func TestLaws(t *testing.T) {
 				t.Error("the first zone does not have", q)
 			}
 		}
+	}
+}
+
+// P11.1: zones that are not valid, and limits.
+func TestLimits(t *testing.T) {
+	z := sample.Bare("x", 1, "h")
+	for i, c := range [][2]api.Zone{{{}, z}, {z, {}}, {z, sample.Bare("y", 2, "h")}} {
+		if d, e := delta.Diff(c[0], c[1]); e != api.ErrArg || d.Apex != "" {
+			t.Error(i, e)
+		}
+	}
+	var put []api.Signed
+	var drop []api.Question
+	for i := range 20001 {
+		n := "n" + strconv.Itoa(100000+i) + ".x"
+		put = append(put, signed(n, 1, 1, nums(1)))
+		drop = append(drop, api.Question{Name: n, Type: 2})
+	}
+	start := []api.Signed{signed("x", 4, 1, nums(2, 5))}
+	with := func(p []api.Signed, q []api.Question) api.Delta {
+		return api.Delta{Apex: "x", From: 1, To: 2, Put: append(slices.Clone(start), p...), Drop: q}
+	}
+	for i, c := range []struct {
+		d api.Delta
+		e api.Errno
+	}{{with(put[:19998], nil), api.OK}, {with(put[:19999], nil), api.ErrLimit}, {with(put[:20000], nil), api.ErrArg}, {with(nil, drop[:20000]), api.OK}, {with(nil, drop), api.ErrArg}, {with(nil, []api.Question{{Name: "x", Type: 8}, {Name: "x", Type: 1}}), api.OK}, {with(nil, []api.Question{{Name: "X", Type: 8}}), api.ErrArg}, {with(nil, []api.Question{{Name: "x", Type: 0}}), api.ErrArg}} {
+		if out, e := delta.Apply(z, c.d); e != c.e || (e == api.OK) != (out.Apex != "") {
+			t.Error(i, e)
+		}
+	}
+	next := api.Delta{Apex: "x", From: 2, To: 3, Put: []api.Signed{signed("x", 4, 1, nums(3, 5))}}
+	long := next
+	long.Drop = []api.Question{{Name: "o.x", Type: 1}}
+	more := next
+	more.Put = append(slices.Clone(next.Put), signed("o.x", 1, 1, nums(1)))
+	for i, c := range []struct {
+		d, e api.Delta
+		want api.Errno
+	}{
+		{with(put[:19999], nil), next, api.OK}, {with(put[:19999], nil), more, api.ErrLimit}, {with(put[:19998], nil), more, api.OK}, {with(nil, drop[:20000]), next, api.OK}, {with(nil, drop[:20000]), long, api.ErrLimit}, {with(nil, drop[:19999]), long, api.OK},
+		{api.Delta{}, next, api.ErrArg}, {with(nil, nil), api.Delta{Apex: "y", From: 2, To: 3}, api.ErrArg}, {with(nil, nil), api.Delta{Apex: "x", From: 2, To: 2}, api.ErrArg}, {api.Delta{Apex: "*.x", From: 1, To: 2}, api.Delta{Apex: "*.x", From: 2, To: 3}, api.ErrArg}, {api.Delta{Apex: "x", From: 1, To: 65536}, next, api.ErrArg}, {api.Delta{Apex: "x", From: -1, To: 2}, next, api.ErrArg},
+	} {
+		if out, e := delta.Join(c.d, c.e); e != c.want || (e == api.OK) != (out.Apex != "") {
+			t.Error(i, e)
+		}
+	}
+	if out, e := delta.Apply(z, api.Delta{Apex: "*.x", From: 1, To: 2}); e != api.ErrArg || out.Apex != "" {
+		t.Error(e)
 	}
 }

@@ -3,6 +3,7 @@ package denial_test
 import (
 	"reflect"
 	"slices"
+	"strconv"
 	"testing"
 
 	"nameplan/api"
@@ -47,7 +48,7 @@ func TestExample(t *testing.T) {
 		i    int
 		n    string
 		want bool
-	}{{1, "y.x", true}, {1, "x.x", true}, {1, "w.x", false}, {1, "a.y.x", false}, {0, "*.x", true}, {2, "z.x", true}, {2, "b.y.x", true}, {0, "y", false}} {
+	}{{1, "y.x", true}, {1, "x.x", true}, {1, "w.x", false}, {1, "a.y.x", false}, {0, "*.x", true}, {2, "y", false}, {2, ".", false}, {2, "z.x", true}, {2, "b.y.x", true}, {0, "y", false}} {
 		if ok, e := denial.Covers("x", l[c.i], c.n); ok != c.want || e != api.OK {
 			t.Error(c, ok, e)
 		}
@@ -86,6 +87,8 @@ func TestCuts(t *testing.T) {
 		{q("a.x", 1), 0, []api.Set{next("a.x", "b.x", 8+256)}}, {q("a.x", 1), api.AnsNoName, []api.Set{apex}}, {q("*.x", 1), api.AnsNoName, []api.Set{apex}},
 		{q("a.x", 1), api.AnsNoData, []api.Set{next("x", "*.x", 4+16+256), next("*.x", "b.x", 32+256)}}, {q("a.x", 5), 0, []api.Set{next("x", "*.x", 4+16+256), next("*.x", "b.x", 32+256)}},
 		{q("a.x", 1), 0, []api.Set{next("x", "y", 4+16+256)}},
+		{q("c.x", 8), api.AnsNoData, []api.Set{next("c.x", "d.x", 4)}}, {q("c.x", 8), 0, []api.Set{cut}},
+		{q("m.c.x", 1), 0, []api.Set{cut, next("b.x", "d.x", 2+256)}}, {q("m.c.x", 1), 0, []api.Set{next("c.x", "z.c.x", 4+256), next("b.x", "d.x", 2+256)}},
 	} {
 		if kind, e := denial.Denied("x", c.x, c.l); kind != c.kind || e != api.OK {
 			t.Error(c, kind, e)
@@ -124,6 +127,13 @@ func TestErrors(t *testing.T) {
 		if k, e := denial.Denied(c.apex, c.x, []api.Set{good, c.s}); k != 0 || e != api.ErrArg {
 			t.Error(i, k, e)
 		}
+	}
+	star := next("*.x", "*.x", 258)
+	if ok, e := denial.Covers("*.x", star, "*.x"); ok || e != api.ErrArg {
+		t.Error(ok, e)
+	}
+	if l, e := denial.Proof(api.Zone{Apex: "x"}, q("x", 1)); e != api.ErrArg || len(l) > 0 {
+		t.Error(l, e)
 	}
 	if z, e := denial.Chain(api.Zone{}); e != api.ErrArg || len(z.Sets) > 0 {
 		t.Error(z, e)
@@ -201,5 +211,25 @@ func law(t *testing.T, d *sample.Dice, z api.Zone, l []api.Set, x api.Question) 
 	}
 	if k, _ := denial.Denied(z.Apex, x, sets); e != api.OK || k != a.Kind {
 		t.Errorf("%v: %v %d, but %d by %v", x, e, a.Kind, k, p)
+	}
+}
+
+// P9.1: a zone with its chain has at most 20000 sets.
+func TestLimit(t *testing.T) {
+	z := sample.Bare("x", 1, "h")
+	for i := range 9998 {
+		z.Sets = append(z.Sets, signed("n"+strconv.Itoa(10000+i)+".x", 1, 1, nums(1)))
+	}
+	z.Sets = append(z.Sets, signed("n19997.x", 5, 1, text("t")))
+	if c, e := denial.Chain(z); e != api.OK || len(c.Sets) != 20000 {
+		t.Error(len(c.Sets), e)
+	}
+	z.Sets = append(z.Sets, signed("n19997.x", 8, 1, api.Datum{Text: "x", N: 2}))
+	if c, e := denial.Chain(z); e != api.OK || len(c.Sets) != 20000 {
+		t.Error(len(c.Sets), e)
+	}
+	z.Sets = slices.Insert(z.Sets, 0, signed("x", 1, 1, nums(1)))
+	if c, e := denial.Chain(z); e != api.ErrLimit || len(c.Sets) > 0 {
+		t.Error(len(c.Sets), e)
 	}
 }

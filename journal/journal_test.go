@@ -4,6 +4,7 @@ import (
 	"bytes"
 	"reflect"
 	"slices"
+	"strings"
 	"testing"
 
 	"nameplan/api"
@@ -218,5 +219,114 @@ func TestLimits(t *testing.T) {
 		if e == api.OK {
 			d = out
 		}
+	}
+}
+
+// framed returns the frame of a kind with a writing.
+func framed(kind byte, w []byte) []byte {
+	sum := func(b []byte) []byte {
+		n := sign.Digest(b)
+		var out []byte
+		for i := 56; i >= 0; i -= 8 {
+			out = append(out, byte(n>>i))
+		}
+		return out
+	}
+	head := []byte{kind, byte(len(w) >> 24), byte(len(w) >> 16), byte(len(w) >> 8), byte(len(w))}
+	return slices.Concat(head, sum(head), w, sum(w))
+}
+
+// P13.1: frames with right digests that say nothing valid.
+func TestFrames(t *testing.T) {
+	l, x := versions()
+	d := disk(t, l, x[:1])
+	writing := func(b []byte) []byte { return b[13 : len(b)-8] }
+	z, y := writing(d.Pending[0]), writing(d.Pending[1])
+	load(t, api.Disk{Safe: framed(1, z)}, l[0], true)
+	load(t, api.Disk{Safe: slices.Concat(framed(1, z), framed(2, y))}, l[1], true)
+	load(t, api.Disk{Safe: framed(1, append(slices.Clone(z), 0))}, l[0], false)
+	load(t, api.Disk{Safe: framed(1, z[:len(z)-1])}, l[0], false)
+	load(t, api.Disk{Safe: framed(2, z)}, l[0], false)
+	load(t, api.Disk{Safe: framed(3, z)}, l[0], false)
+	load(t, api.Disk{Safe: framed(1, []byte{1, 'x', 0, 0, 0, 0})}, l[0], false)
+	load(t, api.Disk{Safe: framed(1, []byte{1, 'x', 0, 0, 0, 1, 0, 1, 5, 0})}, l[0], false)
+	load(t, api.Disk{Safe: slices.Concat(framed(1, z), framed(1, z))}, l[0], true)
+	load(t, api.Disk{Safe: slices.Concat(framed(1, z), framed(2, append(slices.Clone(y), 0)))}, l[0], true)
+	load(t, api.Disk{Safe: slices.Concat(framed(1, z), framed(2, y), framed(2, y))}, l[1], true)
+}
+
+// sized returns a zone whose frame has a size.
+func sized(size int) api.Zone {
+	z := sample.Bare("x", 0, "a")
+	add := func(i, n int) {
+		name := "n" + string([]byte{byte('a' + i/676), byte('a' + i/26%26), byte('a' + i%26)}) + ".x"
+		z.Sets = append(z.Sets, sample.Signed(name, 5, 1, sample.Text(strings.Repeat("t", n))))
+	}
+	length := func() int {
+		d, _ := journal.Begin(z)
+		return len(d.Pending[0])
+	}
+	add(0, 40)
+	old := length()
+	add(1, 40)
+	each := length() - old
+	i := 2
+	for left := size - length(); left > 2*each; left -= each {
+		add(i, 40)
+		i++
+	}
+	left := size - length()
+	add(i, left/2-each+40)
+	add(i+1, left-left/2-each+40)
+	return z
+}
+
+// P13.1: disks that are just full.
+func TestFull(t *testing.T) {
+	for size, want := range map[int]api.Errno{999999: api.OK, 1000000: api.OK, 1000001: api.ErrFull} {
+		d, e := journal.Begin(sized(size))
+		if e != want || e == api.OK && len(d.Pending[0]) != size {
+			t.Error(size, e)
+		}
+	}
+	x := api.Delta{Apex: "x", To: 1, Put: []api.Signed{sample.Signed("x", 4, 1, sample.Nums(1))}}
+	small, _ := journal.Begin(sample.Bare("x", 0, "a"))
+	small, _ = journal.Append(small, x)
+	n := len(small.Pending[1])
+	for more, want := range map[int]api.Errno{0: api.OK, 1: api.ErrFull} {
+		d, _ := journal.Begin(sized(1000000 - n + more))
+		a, e := journal.Append(d, x)
+		made := api.Disk{Pending: [][]byte{d.Pending[0], small.Pending[1]}}
+		s, f := journal.Sync(made)
+		c, g := journal.Crash(made, 2, 0)
+		_, h := journal.Crash(made, 1, n)
+		_, k := journal.Crash(made, 1, n-1)
+		if e != want || f != want || g != want || h != want || k != api.OK || e == api.OK && (len(a.Pending) != 2 || len(s.Safe) != 1000000 || len(c.Safe) != 1000000) {
+			t.Error(more, e, f, g, h, k)
+		}
+	}
+	begun, _ := journal.Begin(sample.Bare("x", 0, "a"))
+	d := begun
+	for i := range 199 {
+		d, _ = journal.Append(d, api.Delta{Apex: "x", From: i, To: i + 1, Put: []api.Signed{sample.Signed("x", 4, 1, sample.Nums(i+1))}})
+	}
+	if s, e := journal.Sync(d); len(d.Pending) != 200 || e != api.OK || len(s.Safe) == 0 {
+		t.Error(len(d.Pending), e)
+	}
+	last := api.Disk{Safe: begun.Pending[0]}
+	for i := range 201 {
+		y, _ := journal.Append(last, api.Delta{Apex: "x", From: i, To: i + 1, Put: []api.Signed{sample.Signed("x", 4, 1, sample.Nums(i+1))}})
+		if i < 200 {
+			last.Safe = append(slices.Clone(last.Safe), y.Pending[0]...)
+		}
+		d.Pending = append(d.Pending[:min(len(d.Pending), i)], y.Pending[0])
+	}
+	over := api.Disk{Safe: begun.Pending[0], Pending: d.Pending}
+	if _, e := journal.Sync(over); len(over.Pending) != 201 || e != api.ErrArg {
+		t.Error(len(over.Pending), e)
+	}
+	over.Pending = over.Pending[:200]
+	if _, e := journal.Sync(over); e != api.OK {
+		t.Error(e)
 	}
 }

@@ -66,6 +66,11 @@ func TestExample(t *testing.T) {
 	check(t, sample.With(z, signed("c.x", 6, 1, nums(1, 1))), q("s.c.x", 1), api.AnsRefer, "c.x", q("c.x", 2), q("c.x", 6), q("h.c.x", 1))
 	check(t, sample.With(z, signed("c.x", 6, 1, nums(1, 1))), q("c.x", 6), api.AnsData, "", q("c.x", 6))
 	check(t, sample.Bare(".", 1, "h"), q("a.b", 1), api.AnsNoName, "", q(".", 4))
+	top := sample.With(sample.Bare(".", 1, "h"), signed("*", 5, 1, text("t")), next(".", "*"), next("*", "."))
+	check(t, top, q("q", 5), api.AnsWild, "", q("*", 5), q("*", 8))
+	check(t, top, q("a.q", 5), api.AnsWild, "", q("*", 5), q("*", 8))
+	check(t, top, q("q", 1), api.AnsNoData, "", q(".", 4), q("*", 8))
+	check(t, sample.With(sample.Bare(".", 1, "h"), signed("a.b", 5, 1, text("t"))), q("b", 5), api.AnsNoData, "", q(".", 4))
 	for _, x := range []api.Question{{}, q("x", 0), q("x", 9), q("X", 1)} {
 		if a, e := lookup.Answer(z, x); e != api.ErrArg || a.Kind != 0 || len(a.Sets) > 0 {
 			t.Error(x, a, e)

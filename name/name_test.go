@@ -39,6 +39,24 @@ func TestRefused(t *testing.T) {
 	}
 }
 
+// P1.1: names at the limits, and just behind them.
+func TestLimits(t *testing.T) {
+	long := strings.Repeat("abcdefghij.", 5) + "abcde"
+	for s, want := range map[string]bool{"abcdefghijkl": true, "abcdefghijklm": false, long: true, long + "f": false, "a.b.c.d.e.f.g.h": true, "a.b.c.d.e.f.g.h.i": false, "*.b.c.d.e.f.g.h": true, "a--b": true, "0-0": true} {
+		l, e := name.Labels(s)
+		if name.Valid(s) != want || (e == api.OK) != want || want != (len(l) > 0) {
+			t.Errorf("%q: %v %v", s, l, e)
+		}
+		if back, e := name.Join(strings.Split(s, ".")); (e == api.OK) != want || want && back != s {
+			t.Errorf("%q: %q %v", s, back, e)
+		}
+	}
+	l, _ := name.Labels("a.b")
+	if more := append(l, "c"); len(l) != 2 || len(more) != 3 || cap(l) != 2 {
+		t.Error("the labels have room for others")
+	}
+}
+
 // P1.2: Labels and Join are inverse.
 func TestLabels(t *testing.T) {
 	for _, s := range sample.Names() {

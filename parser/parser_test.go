@@ -84,12 +84,43 @@ func TestErrors(t *testing.T) {
 	}
 }
 
+// P4.1: the edges of all ranges, and words that look like others.
+func TestEdges(t *testing.T) {
+	for entry, e := range map[string]api.Errno{
+		"addr 1": 0, "addr 1000000": 0, "addr 0": 3, "addr 1000001": 3, "start 0 0": 0, "start 65535 100000": 0, "start 65536 1": 3, "start 1 100001": 3, "anchor 1 1": 0, "anchor 1000000 3": 0, "anchor 0 1": 3, "anchor 1000001 1": 3, "anchor 1 0": 3, "anchor 1 4": 3,
+		"key 1 1": 0, "key 1000000 3": 0, "key 0 1": 3, "key 1000001 1": 3, "key 1 0": 3, "key 1 4": 3, "addr life 100000 1": 0, "addr life 100001 1": 3, "addr life 0 1": 0, `text "0123456789012345678901234567890123456789"`: 0, `text "a-b"`: 3, `text "a "`: 3, "server *.x": 11, "alias *": 11, "server .": 0, "key 1 2, 1 1": 0,
+	} {
+		z, l := parser.Parse("zone x { a.x " + entry + "; }")
+		if e == 0 && (len(l) > 0 || len(z) != 1 || !record.Valid(z[0].Sets[0].Set)) || e != 0 && (len(l) != 1 || l[0].Err != e) {
+			t.Error(entry, z, l)
+		}
+	}
+	for source, want := range map[string][]api.Diag{
+		"zone x { a.x addr life a 5; }": diags(10, 23), `zone x { a.x text life "a"; }`: diags(10, 23), "zone x { a.x server life": diags(10, 24), "zone x { a.x server life 5": diags(10, 26), "zone x { a.x server": diags(10, 19), "zone x { a.x addr life": diags(10, 22),
+		`zone "x" { }`: diags(10, 5), `zone x { "a" addr 1; }`: diags(10, 9), `zone x { a.x "addr" 1; }`: diags(10, 13), `zone x { a.x server "a"; }`: diags(10, 20), `"zone" x { }`: diags(10, 0), "zone x { a.x addr 1 1; }": diags(10, 20), "zone x { a.x addr 1 =2; }": diags(10, 20), "zone x { @ addr @; }": diags(10, 16), "zone x { { addr 1; }": diags(10, 9), "zone @ { }": diags(10, 5), "zone x { a.x @ 1; }": diags(10, 13),
+	} {
+		if z, l := parser.Parse(source); len(z) > 0 || !slices.Equal(l, want) {
+			t.Errorf("%s: %v", source, l)
+		}
+	}
+	z, _ := parser.Parse("zone x { @ key 2 1, 1 2, 1 1, 1 3; }")
+	if !slices.Equal(z[0].Sets[0].Set.Data, []api.Datum{{N: 1, M: 1}, {N: 1, M: 2}, {N: 1, M: 3}, {N: 2, M: 1}}) {
+		t.Error(z)
+	}
+}
+
 // P4.7: at most 20 diagnostics, in order.
 func TestLimits(t *testing.T) {
 	for _, s := range []string{"zone x { " + strings.Repeat("y addr 1; ", 30) + "}", strings.Repeat("zone 5 ", 30), "zone x { " + strings.Repeat("y; ", 20)} {
 		_, l := parser.Parse(s)
 		if len(l) != 20 || !slices.IsSortedFunc(l, func(a, b api.Diag) int { return a.At - b.At }) {
 			t.Errorf("%.20s: %v", s, l)
+		}
+	}
+	_, wrong := parser.Parse("zone x { " + strings.Repeat("y addr 1; ", 30) + "} zone 5")
+	for i, x := range wrong {
+		if x != (api.Diag{Err: api.ErrCut, At: 9 + 10*i}) {
+			t.Error(i, x)
 		}
 	}
 	if _, l := parser.Parse(strings.Repeat(" ", 8001)); !slices.Equal(l, diags(2, 0)) {

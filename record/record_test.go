@@ -77,6 +77,43 @@ func TestValid(t *testing.T) {
 	}
 }
 
+// P2.1: the edges of the ranges of anchors, keys, and the number of data.
+func TestEdges(t *testing.T) {
+	for typ := 6; typ <= 7; typ++ {
+		for n, in := range map[int]bool{-1: false, 0: false, 1: true, 2: true, 1000000: true, 1000001: false} {
+			for m, too := range map[int]bool{-1: false, 0: false, 1: true, 2: true, 3: true, 4: false} {
+				if record.Valid(one("x", typ, 1, api.Datum{N: n, M: m})) != (in && too) {
+					t.Error(typ, n, m)
+				}
+			}
+		}
+	}
+	for n, in := range map[int]bool{0: false, 1: true, 2: true, 999999: true, 1000000: true, 1000001: false} {
+		if record.Valid(one("x", 1, 1, api.Datum{N: n})) != in {
+			t.Error(n)
+		}
+	}
+	for s, in := range map[string]bool{"a": true, "z": true, "0": true, "9": true, "`": false, "{": false, "/": false, ":": false, " ": false, "a-": false, "a\x1fb": false, "a~b": false} {
+		if record.Valid(one("x", 5, 1, api.Datum{Text: s})) != in {
+			t.Errorf("%q", s)
+		}
+	}
+	eight := one("x", 1, 1)
+	for i := range 8 {
+		eight.Data = append(eight.Data, api.Datum{N: i + 1})
+	}
+	if m, e := record.Merge([]api.Set{eight, eight}); !record.Valid(eight) || e != api.OK || !reflect.DeepEqual(m, []api.Set{eight}) {
+		t.Error(m, e)
+	}
+	alias := one("x", 3, 1, api.Datum{Text: "a"})
+	if m, e := record.Merge([]api.Set{alias, alias}); e != api.OK || !reflect.DeepEqual(m, []api.Set{alias}) {
+		t.Error(m, e)
+	}
+	if c, e := record.Compare(one("X", 1, 1), eight); c != 0 || e != api.ErrArg {
+		t.Error(c, e)
+	}
+}
+
 // P2.2, P2.7: bytes are read as the set; neither parts nor more are.
 func TestBytes(t *testing.T) {
 	b, _ := record.Bytes(one("x", 1, 5, api.Datum{N: 7}))

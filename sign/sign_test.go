@@ -54,10 +54,16 @@ func TestSign(t *testing.T) {
 	if e != api.OK || g != (api.Sig{Zone: "x", Key: 300, Alg: 2, From: 1, Until: 20000000, Sum: sign.Digest(b)}) {
 		t.Error(g, e)
 	}
+	for _, k := range []api.Key{{N: 1, Alg: 1}, {N: 1000000, Alg: 3}} {
+		if g, e := sign.Sign(s, "x", k, 0, 0); e != api.OK || g.Key != k.N || g.Alg != k.Alg {
+			t.Error(k, e)
+		}
+	}
 	k := api.Key{N: 1, Alg: 1}
 	for i, f := range []func() (api.Sig, api.Errno){
 		func() (api.Sig, api.Errno) { return sign.Sign(api.Set{}, "x", k, 0, 1) },
 		func() (api.Sig, api.Errno) { return sign.Sign(s, "y", k, 0, 1) },
+		func() (api.Sig, api.Errno) { return sign.Sign(api.Set{Name: "w.x", Type: 1}, "x", k, 0, 1) },
 		func() (api.Sig, api.Errno) { return sign.Sign(s, "", k, 0, 1) },
 		func() (api.Sig, api.Errno) {
 			return sign.Sign(api.Set{Name: "*.x", Type: 1, Data: []api.Datum{{N: 7}}}, "*.x", k, 0, 1)

@@ -174,3 +174,41 @@ func TestChains(t *testing.T) {
 		}
 	}
 }
+
+// P10.1: the edges of times, and of the number of known sets, and sets that are not valid.
+func TestEdges(t *testing.T) {
+	forever := func(s api.Signed) api.Signed { s.Sigs = nil; return by(s, ".", 0, 20000000, 1) }
+	for _, c := range []struct {
+		at, drift int
+		good      bool
+	}{{0, 0, true}, {10000000, 0, true}, {10000000, 1000, true}, {10000001, 0, false}, {5000, 1001, false}, {-1, 0, false}, {0, -1, false}, {1, 1, true}, {0, 1, false}} {
+		s := forever(rootKeys)
+		if trust.Signed(s, ".", []api.Key{key(1)}, c.at, c.drift) != c.good || trust.Matches(rootAnchor, s, c.at, c.drift) != c.good {
+			t.Error(c)
+		}
+		_, _, e := trust.Path([]api.Signed{s}, rootAnchor, ".", c.at, c.drift)
+		if (e == api.OK) != c.good || c != struct {
+			at, drift int
+			good      bool
+		}{0, 1, false} && !c.good && e != api.ErrArg {
+			t.Error(c, e)
+		}
+	}
+	many := slices.Repeat([]api.Signed{rootKeys}, 401)
+	if _, _, e := trust.Path(many[:400], rootAnchor, ".", 50, 5); e != api.OK {
+		t.Error(e)
+	}
+	if _, _, e := trust.Path(many, rootAnchor, ".", 50, 5); e != api.ErrArg {
+		t.Error(e)
+	}
+	empty := api.Set{Name: ".", Type: 6}
+	if _, _, e := trust.Path(all(), empty, ".", 50, 5); e != api.ErrArg {
+		t.Error(e)
+	}
+	turned := anchorX.Set
+	turned.Data = []api.Datum{nums(9, 1), nums(2, 1)}
+	own := by(sample.Signed("x", 6, 5, nums(2, 1)), "x", 10, 90, 2)
+	if trust.Matches(turned, keysX, 50, 0) || trust.Matches(anchorX.Set, own, 50, 0) || trust.Matches(keysX.Set, keysX, 50, 0) {
+		t.Error("matches")
+	}
+}

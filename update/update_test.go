@@ -161,3 +161,68 @@ func TestLaws(t *testing.T) {
 		}
 	}
 }
+
+// P12.1: changes of sets and names, and limits.
+func TestChanges(t *testing.T) {
+	z := sample.With(example(), signed("w.x", 5, 9, text("t")), signed("v.x", 1, 9, nums(1)), signed("a.w.x", 1, 9, nums(2)))
+	names := func(z api.Zone) []api.Question {
+		var out []api.Question
+		for _, s := range z.Sets {
+			out = append(out, api.Question{Name: s.Set.Name, Type: s.Set.Type})
+		}
+		return out
+	}
+	x2, x4, v1, w1, w5, a1 := api.Question{Name: "x", Type: 2}, api.Question{Name: "x", Type: 4}, api.Question{Name: "v.x", Type: 1}, api.Question{Name: "w.x", Type: 1}, api.Question{Name: "w.x", Type: 5}, api.Question{Name: "a.w.x", Type: 1}
+	for i, c := range []struct {
+		c    api.Change
+		want []api.Question
+	}{
+		{api.Change{Kind: 3, Set: set("w.x", 1, 0)}, []api.Question{x2, x4, v1, w5, a1}}, {api.Change{Kind: 3, Set: set("w.x", 2, 0)}, []api.Question{x2, x4, v1, w1, w5, a1}}, {api.Change{Kind: 4, Set: set("w.x", 0, 0)}, []api.Question{x2, x4, v1, a1}}, {api.Change{Kind: 4, Set: set("q.x", 0, 0)}, []api.Question{x2, x4, v1, w1, w5, a1}},
+		{api.Change{Kind: 2, Set: set("w.x", 1, 0, nums(7))}, []api.Question{x2, x4, v1, w5, a1}}, {api.Change{Kind: 2, Set: set("w.x", 1, 0, nums(8))}, []api.Question{x2, x4, v1, w1, w5, a1}}, {api.Change{Kind: 2, Set: set("u.x", 1, 0, nums(8))}, []api.Question{x2, x4, v1, w1, w5, a1}},
+	} {
+		out, e := update.Apply(z, changes(c.c))
+		n, _ := zone.Serial(out)
+		if e != api.OK || !slices.Equal(names(out), c.want) || (n == 0) != (len(c.want) < 6) {
+			t.Error(i, names(out), n, e)
+		}
+	}
+	both := changes(api.Change{Kind: 1, Set: set("w.x", 1, 9, nums(7), nums(9))})
+	if out, e := update.Apply(z, both); e != api.OK || !reflect.DeepEqual(out.Sets[3].Set.Data, []api.Datum{nums(7), nums(9)}) {
+		t.Error(out, e)
+	}
+	need := api.Need{Kind: 4, Set: set("w.x", 8, 0)}
+	for n, want := range map[int]api.Errno{20: api.OK, 21: api.ErrArg} {
+		_, e := update.Apply(z, api.Update{Needs: slices.Repeat([]api.Need{need}, n)})
+		_, f := update.Apply(z, changes(slices.Repeat([]api.Change{{Kind: 3, Set: set("w.x", 8, 0)}}, n)...))
+		if e != want || f != want {
+			t.Error(n, e, f)
+		}
+	}
+	for i, n := range []api.Need{{Kind: 3, Set: set("X", 1, 0)}, {Kind: 4, Set: set("x", 9, 0)}, {Kind: 1, Set: set("", 1, 0)}, {Kind: 2, Set: set("X", 1, 0)}} {
+		if ok, e := update.Holds(z, n); ok || e != api.ErrArg {
+			t.Error(i, e)
+		}
+	}
+	for i, c := range []api.Change{{Kind: 3, Set: set("X", 1, 0)}, {Kind: 3, Set: set("x", 0, 0)}, {Kind: 2, Set: set("w.x", 8, 1, api.Datum{Text: "x", N: 2})}, {Kind: 2, Set: set("w.x", 1, 1)}} {
+		if out, e := update.Apply(z, changes(c)); e != api.ErrArg || out.Apex != "" {
+			t.Error(i, e)
+		}
+	}
+	if ok, e := update.Holds(api.Zone{}, need); ok || e != api.ErrArg {
+		t.Error(e)
+	}
+	first := api.Need{Kind: 3, Set: set("x", 2, 0)}
+	if ok, e := update.Holds(z, first); !ok || e != api.OK {
+		t.Error("the first set", e)
+	}
+	first.Kind = 4
+	if ok, e := update.Holds(z, first); ok || e != api.OK {
+		t.Error("the first set", e)
+	}
+	if ok, e := update.Holds(z, api.Need{Kind: 5, Set: set("x", 2, 1, text("a.ns"))}); !ok || e != api.OK {
+		t.Error("the first set", e)
+	}
+	if out, e := update.Apply(z, changes(api.Change{Kind: 1, Set: set("x", 2, 1, text("b"))})); e != api.OK || len(out.Sets[0].Set.Data) != 2 {
+		t.Error("the first set", e)
+	}
+}

@@ -246,3 +246,66 @@ func TestOrder(t *testing.T) {
 		}
 	}
 }
+
+// P6.1: each condition of a valid zone by itself.
+func TestConditions(t *testing.T) {
+	start, server := signed("x", 4, 9, nums(1, 60)), signed("x", 2, 9, text("a"))
+	next := func(n string) api.Signed { return signed(n, 8, 1, api.Datum{Text: "x", N: 2}) }
+	for i, c := range []struct {
+		good bool
+		l    []api.Signed
+	}{
+		{true, []api.Signed{server, start}}, {false, nil}, {false, []api.Signed{server}}, {false, []api.Signed{start}}, {false, []api.Signed{signed("a.x", 2, 1, text("a")), signed("a.x", 4, 1, nums(1))}},
+		{false, []api.Signed{server, start, signed("x", 6, 1, nums(1, 1))}}, {true, []api.Signed{server, start, signed("x", 7, 1, nums(1, 1))}}, {true, []api.Signed{signed("x", 1, 1, nums(1)), server, start, signed("x", 5, 1, text("t"))}},
+		{false, []api.Signed{server, signed("x", 3, 1, text("a")), start}}, {false, []api.Signed{server, start, signed("a.x", 4, 1, nums(1))}}, {false, []api.Signed{server, start, signed("a.x", 7, 1, nums(1, 1))}}, {false, []api.Signed{server, start, signed("a.x", 6, 1, nums(1, 1))}},
+		{true, []api.Signed{server, start, signed("a.x", 3, 1, text("a")), next("a.x")}}, {false, []api.Signed{server, start, signed("a.x", 1, 1, nums(1)), signed("a.x", 3, 1, text("a"))}}, {false, []api.Signed{server, start, signed("a.x", 3, 1, text("a")), signed("a.x", 5, 1, text("a"))}},
+		{true, []api.Signed{server, start, signed("a.x", 1, 1, nums(1)), signed("a.x", 2, 1, text("a")), signed("a.x", 6, 1, nums(1, 1)), next("a.x"), signed("b.a.x", 1, 1, nums(1))}}, {false, []api.Signed{server, start, signed("a.x", 2, 1, text("a")), signed("a.x", 5, 1, text("a"))}}, {false, []api.Signed{server, start, signed("a.x", 2, 1, text("a")), signed("b.a.x", 5, 1, text("a"))}}, {false, []api.Signed{server, start, signed("a.x", 2, 1, text("a")), signed("b.a.x", 2, 1, text("a"))}}, {false, []api.Signed{server, start, signed("a.x", 2, 1, text("a")), next("b.a.x")}},
+		{true, []api.Signed{withSigs(server, sig(1, 0, 1)), start}}, {false, []api.Signed{withSigs(server, sig(0, 0, 1)), start}}, {false, []api.Signed{server, start, withSigs(signed("a.x", 2, 1, text("a")), sig(1, 0, 1))}}, {false, []api.Signed{server, start, withSigs(signed("a.x", 1, 1, nums(1)), sig(1, 0, 1)), signed("a.x", 2, 1, text("a"))}}, {true, []api.Signed{server, start, signed("a.x", 2, 1, text("a")), withSigs(next("a.x"), sig(1, 0, 1))}},
+		{true, []api.Signed{server, start, signed("a.x", 2, 1, text("a")), signed("b.a.x", 1, 1, nums(1)), signed("b.x", 5, 1, text("t"))}},
+	} {
+		if zone.Valid(api.Zone{Apex: "x", Sets: c.l}) != c.good {
+			t.Error(i, c.l)
+		}
+	}
+	if zone.Valid(api.Zone{Apex: "*.x", Sets: []api.Signed{server, start}}) || zone.Valid(api.Zone{Apex: "", Sets: []api.Signed{server, start}}) {
+		t.Error("the apex")
+	}
+	z := example()
+	for _, x := range []api.Question{{Name: "x", Type: 0}, {Name: "x", Type: 9}, {Name: "X", Type: 1}} {
+		_, ok, e := zone.Find(z, x)
+		_, f := zone.Drop(z, x)
+		if ok || e != api.ErrArg || f != e {
+			t.Error(x, e, f)
+		}
+	}
+	for _, s := range []string{"", "a..x", "X"} {
+		if c, ok, e := zone.Cut(z, s); c != "" || ok || e != api.ErrArg {
+			t.Error(s, e)
+		}
+	}
+	key := sample.With(z, signed("x", 7, 1, nums(1, 1)), signed("x", 1, 1, nums(1)))
+	for typ := 1; typ <= 7; typ += 6 {
+		if out, e := zone.Drop(key, api.Question{Name: "x", Type: typ}); e != api.OK || len(out.Sets) != len(key.Sets)-1 {
+			t.Error(typ, e)
+		}
+	}
+}
+
+// P6.1: at most 20000 sets.
+func TestLimit(t *testing.T) {
+	z := sample.Bare("x", 1, "a")
+	for i := range 19998 {
+		z.Sets = append(z.Sets, signed(fmt.Sprint("n", 100000+i, ".x"), 1, 1, nums(1)))
+	}
+	more := api.Zone{Apex: "x", Sets: append(slices.Clone(z.Sets), signed("o.x", 1, 1, nums(1)))}
+	less := api.Zone{Apex: "x", Sets: z.Sets[:19999]}
+	if !zone.Valid(z) || !zone.Valid(less) || zone.Valid(more) {
+		t.Error("valid")
+	}
+	_, e := zone.Put(z, signed("o.x", 1, 1, nums(1)))
+	_, f := zone.Put(z, signed("n100000.x", 1, 1, nums(2)))
+	full, g := zone.Put(less, signed("o.x", 1, 1, nums(1)))
+	if e != api.ErrLimit || f != api.OK || g != api.OK || len(full.Sets) != 20000 {
+		t.Error(e, f, g)
+	}
+}
