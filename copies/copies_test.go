@@ -169,3 +169,68 @@ func TestLaws(t *testing.T) {
 		}
 	}
 }
+
+// P15.1: the edges of ends, hosts, polls and versions, and copies in any order.
+func TestEdges(t *testing.T) {
+	one := []api.Version{{At: 0, Zone: sample.Bare("x", 1, "a")}}
+	for end, want := range map[int]api.Errno{0: api.ErrArg, 1: api.OK, 2: api.OK, 10000000: api.OK, 10000001: api.ErrArg} {
+		for host, too := range map[int]api.Errno{-1: api.ErrArg, 0: api.OK, 63: api.OK, 64: api.ErrArg} {
+			c, e := copies.Spread(one, host, nil, end)
+			n, f := copies.Lag(one, nil, host, end)
+			good := want == api.OK && too == api.OK
+			if (e == api.OK) != good || (f == api.OK) != good || good && (len(c) != 1 || c[0].Host != host || c[0].Until != end || n != end) {
+				t.Error(end, host, e, f, n)
+			}
+		}
+	}
+	for at, want := range map[int]api.Errno{-1: api.ErrArg, 0: api.OK, 4: api.OK, 5: api.ErrArg} {
+		_, e := copies.Spread([]api.Version{{At: at, Zone: one[0].Zone}}, 0, nil, 5)
+		_, f := copies.Spread(one, 0, []api.Poll{{Host: 63, At: at}}, 5)
+		if e != want || f != want {
+			t.Error(at, e, f)
+		}
+	}
+	if _, e := copies.Spread(one, 0, make([]api.Poll, 4000), 5); e != api.OK {
+		t.Error(e)
+	}
+	var many []api.Version
+	for i := range 401 {
+		many = append(many, api.Version{At: i, Zone: sample.Bare("x", i, "a")})
+	}
+	for n, want := range map[int]api.Errno{400: api.OK, 401: api.ErrArg} {
+		_, e := copies.Spread(many[:n], 0, nil, 1000)
+		_, f := copies.Lag(many[:n], nil, 0, 1000)
+		if e != want || f != want {
+			t.Error(n, e, f)
+		}
+	}
+	if _, e := copies.Lag(nil, nil, 0, 5); e != api.ErrArg {
+		t.Error(e)
+	}
+	l := []api.Version{many[0], {At: 30, Zone: many[2].Zone}}
+	parts := []api.Copy{{Host: 1, From: 40, Until: 60, Zone: l[1].Zone}, {Host: 1, From: 5, Until: 35, Zone: l[0].Zone}}
+	if n, e := copies.Lag(l, parts, 1, 60); e != api.OK || n != 40 {
+		t.Error(n, e)
+	}
+	parts[0].From = 34
+	if n, e := copies.Lag(l, parts, 1, 60); e != api.ErrArg || n != 0 {
+		t.Error(n, e)
+	}
+	// serial numbers may come round again, but not the zones
+	round := []api.Version{{At: 0, Zone: sample.Bare("x", 0, "a")}, {At: 1, Zone: sample.Bare("x", 30000, "a")}, {At: 2, Zone: sample.Bare("x", 60000, "a")}, {At: 3, Zone: sample.Bare("x", 0, "a")}}
+	if _, e := copies.Spread(round, 0, nil, 9); e != api.ErrArg {
+		t.Error(e)
+	}
+	round[3].Zone = sample.Bare("x", 0, "b")
+	if c, e := copies.Spread(round, 0, nil, 9); e != api.OK || len(c) != 4 {
+		t.Error(e)
+	}
+	other := []api.Version{one[0], {At: 1, Zone: sample.Bare("y", 2, "a")}}
+	if _, e := copies.Spread(other, 0, nil, 9); e != api.ErrArg {
+		t.Error(e)
+	}
+	twice := []api.Poll{{Host: 1, At: 3}, {Host: 1, At: 3}, {Host: 1, At: 7}}
+	if c, e := copies.Spread(one, 0, twice, 9); e != api.OK || len(c) != 2 || c[1].From != 3 || c[1].Until != 9 {
+		t.Error(c, e)
+	}
+}

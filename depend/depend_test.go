@@ -140,3 +140,25 @@ func lists(t *testing.T, w api.World, s string, l []string) {
 		}
 	}
 }
+
+// P19.1: servers of a cut without a copy, servers that only the copy names, and zones that are no worlds.
+func TestMore(t *testing.T) {
+	root := sample.With(sample.Bare(".", 1, "r"), signed("x", 2, 9, text("h.y")), signed("y", 2, 9, text("r")), signed("z", 2, 9, text("r")), signed("v", 2, 9, text("r")))
+	w := serve(root, sample.With(sample.Bare("v", 1, "h.z"), signed("c.v", 2, 9, text("h.x"))))
+	for s, want := range map[string][]string{"t.x": {".", "x", "y"}, "t.v": {".", "v", "z"}, "t.c.v": {".", "v", "c.v", "x", "y", "z"}} {
+		if l, e := depend.Zones(w, s); e != api.OK || !slices.Equal(l, want) {
+			t.Error(s, l, e)
+		}
+	}
+	if l, e := depend.Owners(w, "t.c.v"); e != api.OK || !slices.Equal(l, []int{0, 1}) {
+		t.Error(l, e)
+	}
+	if l, e := depend.Shortest(w, "t.c.v", "y"); e != api.OK || !slices.Equal(l, []api.Question{q("c.v", 2), q("x", 2)}) {
+		t.Error(l, e)
+	}
+	_, e := depend.Owners(api.World{}, "x")
+	_, f := depend.Shortest(api.World{}, "x", "x")
+	if e != api.ErrArg || f != e {
+		t.Error(e, f)
+	}
+}

@@ -145,3 +145,53 @@ func mend(t *testing.T, w api.World, f api.Finding, a api.Answer) {
 		t.Error(f, "is not mended", e)
 	}
 }
+
+// P18.1: which copy counts, delegations of nested zones, wildcards, and errors of truth.
+func TestMore(t *testing.T) {
+	hosts := []api.Host{{Name: "a", Addr: 1}, {Name: "b", Addr: 2}, {Name: "c", Addr: 3}}
+	anchor := signed(".", 6, 5, nums(1, 1)).Set
+	root := sample.With(sample.Bare(".", 1, "a"), signed("a", 1, 9, nums(1)), signed("x", 2, 9, text("a")), signed("*.w", 1, 9, nums(1)))
+	x := sample.With(sample.Bare("x", 1, "a"), signed("y.x", 2, 9, text("h.w")))
+	y := sample.Bare("y.x", 1, "h.w")
+	w := api.World{Hosts: hosts, Anchor: anchor, Hints: []int{1}, Zones: []api.Placed{{Host: 0, Zone: root}, {Host: 0, Zone: x}, {Host: 0, Zone: y}}}
+	check := func(want ...api.Finding) {
+		t.Helper()
+		if l, e := lame.Findings(w); e != api.OK || !slices.Equal(l, want) {
+			t.Error(l, e)
+		}
+	}
+	servers := func(zone string, want ...int) {
+		t.Helper()
+		if l, e := lame.Servers(w, zone); e != api.OK || !slices.Equal(l, want) {
+			t.Error(zone, l, e)
+		}
+	}
+	check()
+	servers("y.x", 0)
+	w.Zones = append(w.Zones, api.Placed{Host: 2, Zone: y})
+	servers("y.x", 0)
+	w.Zones[3].Host = 1
+	w.Zones[3].Zone = sample.Numbered(x, 2)
+	w.Zones[3].Zone = sample.With(w.Zones[3].Zone, signed("y.x", 2, 9, text("b")))
+	check(find(3, "y.x", "b"), find(4, "y.x", "y.x"))
+	w.Zones[3].Zone = sample.Numbered(w.Zones[3].Zone, 1)
+	check()
+	w.Zones[3], w.Zones[1] = w.Zones[1], w.Zones[3]
+	check()
+	w.Zones[1].Zone = sample.Numbered(w.Zones[1].Zone, 0)
+	check()
+	// a server without an address that can be found, as its name is in a loop of aliases
+	loop := sample.With(root, signed("l", 3, 9, text("m")), signed("m", 3, 9, text("l")), signed("x", 2, 9, text("l")))
+	w.Zones = []api.Placed{{Host: 0, Zone: loop}, {Host: 0, Zone: sample.Bare("x", 1, "l")}}
+	check(find(3, "x", "l"))
+	servers("x")
+	// an alias that leads to an address
+	chain := sample.With(root, signed("l", 3, 9, text("a")), signed("x", 2, 9, text("l")))
+	w.Zones = []api.Placed{{Host: 0, Zone: chain}, {Host: 1, Zone: sample.Bare("x", 1, "l")}}
+	check(find(1, "x", "l"))
+	w.Zones[1].Host = 0
+	check()
+	servers("x", 0)
+	w.Zones = []api.Placed{{Host: 1, Zone: sample.Bare("q.x", 1, "a")}, {Host: 0, Zone: sample.With(root, signed("q.x", 2, 9, text("a")), signed("x", 5, 1, text("t")))}}
+	check(find(4, "q.x", "q.x"))
+}

@@ -173,3 +173,36 @@ func delegation(w api.World, above, zone string) ([]api.Signed, bool) {
 	}
 	return nil, false
 }
+
+// P17.1: a host that is known only by an alias, or not at all, does not help to reach a zone; needs are in order.
+func TestMore(t *testing.T) {
+	root := sample.With(sample.Bare(".", 1, "a.ns"), signed("x", 2, 9, text("h.y")), signed("y", 2, 9, text("g.y")), signed("g.y", 1, 9, nums(4)), signed("v", 2, 9, text("a.y"), text("b.x"), text("c")), signed("u", 2, 9, text("r")), signed("r", 1, 9, nums(1)))
+	y := sample.With(sample.Bare("y", 1, "g.y"), signed("h.y", 3, 9, text("g.y")), signed("g.y", 1, 9, nums(4)))
+	w := serve(root, sample.Bare("x", 1, "h.y"), y, sample.Bare("v", 1, "c"), sample.Bare("u", 1, "r"), sample.Bare("q.u", 1, "r"))
+	if l, e := loops.Zones(w); e != api.OK || !slices.Equal(l, []string{"q.u", "v", "x"}) {
+		t.Error(l, e)
+	}
+	if l, e := loops.Needs(w, "v"); e != api.OK || !slices.Equal(l, []string{".", "x", "y"}) {
+		t.Error(l, e)
+	}
+	w.Zones[2].Zone = sample.With(sample.Bare("y", 1, "g.y"), signed("h.y", 1, 9, nums(4)))
+	if l, e := loops.Zones(w); e != api.OK || !slices.Equal(l, []string{"q.u", "v"}) {
+		t.Error(l, e)
+	}
+	if l, e := loops.Needs(w, "q.u"); e != api.OK || len(l) > 0 {
+		t.Error(l, e)
+	}
+	if l, ok, e := loops.Least(w, "."); e != api.OK || ok || len(l) > 0 {
+		t.Error(l, e)
+	}
+	if l, ok, e := loops.Alias(api.World{}, "x"); e != api.ErrArg || ok || len(l) > 0 {
+		t.Error(e)
+	}
+	if l, e := loops.Needs(api.World{}, "x"); e != api.ErrArg || len(l) > 0 {
+		t.Error(e)
+	}
+	w.Zones = w.Zones[1:]
+	if l, e := loops.Zones(w); e != api.OK || len(l) != 5 {
+		t.Error(l, e)
+	}
+}

@@ -144,3 +144,36 @@ func TestLaws(t *testing.T) {
 		}
 	}
 }
+
+// P20.1: at most 20000 stretches.
+func TestLimits(t *testing.T) {
+	var l []api.Span
+	for i := range 20001 {
+		l = append(l, api.Span{From: 3 * i, Until: 3*i + 1})
+	}
+	n, e := span.Normal(l[:20000])
+	_, f := span.Normal(l)
+	if !span.Valid(l[:20000]) || span.Valid(l) || e != api.OK || !slices.Equal(n, l[:20000]) || f != api.ErrArg {
+		t.Error(e, f)
+	}
+	u, e := span.Union(l[:10000], l[10000:20000])
+	_, f = span.Union(l[:10000], l[10000:])
+	if e != api.OK || len(u) != 20000 || f != api.ErrLimit {
+		t.Error(e, f)
+	}
+	u, e = span.Cross(l[:20000], spans(0, 20000000))
+	if e != api.OK || len(u) != 20000 {
+		t.Error(e)
+	}
+	_, e = span.Minus(spans(0, 20000000), l[:20000])
+	if e != api.OK {
+		t.Error(e)
+	}
+	shifted := []api.Span{}
+	for _, s := range l[:20000] {
+		shifted = append(shifted, api.Span{From: s.From + 1, Until: s.Until + 1})
+	}
+	if _, e = span.Minus(spans(0, 20000000), shifted); e != api.ErrLimit {
+		t.Error(e)
+	}
+}

@@ -127,3 +127,66 @@ func TestPull(t *testing.T) {
 		}
 	}
 }
+
+// P14.1: the limits of versions, offers and times.
+func TestLimits(t *testing.T) {
+	l := sample.New(60).Versions("x", 2, 1)
+	if _, e := transfer.Serve(make([]api.Zone, 20001), false, 0); e != api.ErrArg {
+		t.Error(e)
+	}
+	var many []api.Zone
+	for i := range 20001 {
+		many = append(many, sample.Bare("x", i, "a"))
+	}
+	for n, want := range map[int]api.Errno{20000: api.OK, 20001: api.ErrArg} {
+		if o, e := transfer.Serve(many[:n], true, n-1); e != want || o.Full {
+			t.Error(n, e)
+		}
+	}
+	if _, e := transfer.Serve(l, true, 65536); e != api.ErrArg {
+		t.Error(e)
+	}
+	if _, e := transfer.Serve(l, true, -1); e != api.ErrArg {
+		t.Error(e)
+	}
+	if o, e := transfer.Serve(l, true, 65535); e != api.OK || !o.Full {
+		t.Error(e)
+	}
+	first, _ := transfer.Serve(sample.New(60).Versions("x", 3, 1)[:1], true, 1)
+	if len(first.Deltas) > 0 || first.Full {
+		t.Error(first)
+	}
+	full := api.Offer{Full: true, Zone: l[1]}
+	for i, c := range []struct {
+		s  api.Secondary
+		o  api.Offer
+		at int
+		e  api.Errno
+	}{
+		{with(l[0], 10000000), full, 10000000, api.OK}, {with(l[0], 10000001), full, 10000001, api.ErrArg}, {with(l[0], 5), full, 10000001, api.ErrArg}, {with(l[0], 10000000), full, 9999999, api.ErrArg}, {api.Secondary{Zone: api.Zone{Apex: "x"}}, full, 5, api.ErrArg}, {api.Secondary{Zone: api.Zone{Sets: l[0].Sets}}, full, 5, api.ErrArg},
+		{with(l[0], 0), api.Offer{Zone: api.Zone{Apex: "x"}}, 5, api.ErrArg}, {with(l[0], 0), api.Offer{Zone: api.Zone{Sets: l[0].Sets}}, 5, api.ErrArg}, {with(l[0], 0), api.Offer{Zone: api.Zone{Sets: l[0].Sets[:1]}}, 5, api.ErrArg},
+		{with(l[0], 0), api.Offer{Deltas: []api.Delta{{Apex: "x", From: 1, To: 2, Put: l[1].Sets}, {Apex: "y", From: 2, To: 3}}}, 5, api.ErrArg}, {with(l[0], 0), api.Offer{Deltas: []api.Delta{{Apex: "x", From: 1, To: 1}}}, 5, api.ErrArg}, {with(l[0], 0), api.Offer{Deltas: []api.Delta{{Apex: "x", From: 1, To: 2}}}, 5, api.ErrClash},
+	} {
+		s, e := transfer.Take(c.s, c.o, c.at)
+		if e != c.e || s.Has != (e == api.OK) {
+			t.Error(i, e)
+		}
+	}
+	var deltas []api.Delta
+	for i := range 20001 {
+		deltas = append(deltas, api.Delta{Apex: "x", From: i % 65536, To: (i + 1) % 65536, Put: []api.Signed{sample.Signed("x", 4, 10, sample.Nums((i+1)%65536, 5))}})
+	}
+	start := with(sample.Bare("x", 0, "a"), 0)
+	if s, e := transfer.Take(start, api.Offer{Deltas: deltas[:20000]}, 5); e != api.OK || s.Seen != 5 {
+		t.Error(e)
+	}
+	if _, e := transfer.Take(start, api.Offer{Deltas: deltas}, 5); e != api.ErrArg {
+		t.Error(e)
+	}
+	if s, e := transfer.Pull(api.Secondary{Seen: -1}, nil, 5); e != api.ErrArg || s.Has {
+		t.Error(e)
+	}
+	if is, e := transfer.Expired(with(l[0], 10000000), 10000000, 0); is || e != api.OK {
+		t.Error(is, e)
+	}
+}

@@ -180,3 +180,94 @@ func TestTruth(t *testing.T) {
 		t.Error(a, e)
 	}
 }
+
+// P16.1: the edges of what is valid.
+func TestEdges(t *testing.T) {
+	for i, c := range []struct {
+		change func(w *api.World)
+		good   bool
+	}{
+		{func(w *api.World) { w.Hosts[0].Addr = 1000000 }, true}, {func(w *api.World) { w.Hosts[0].Owner = 31 }, true}, {func(w *api.World) { w.Hints = []int{1000000} }, true}, {func(w *api.World) { w.Hints = []int{1, 1, 1, 1, 1, 1, 1, 1} }, true}, {func(w *api.World) { w.Hosts[1].Name = "a.ns" }, true},
+		{func(w *api.World) {
+			for i := range 62 {
+				w.Hosts = append(w.Hosts, api.Host{Name: "c", Addr: 10 + i})
+			}
+		}, true},
+		{func(w *api.World) { w.Zones = many(498) }, true}, {func(w *api.World) { w.Zones = many(500) }, true}, {func(w *api.World) { w.Zones = many(501) }, false},
+		{func(w *api.World) { *w = wide(4000) }, true}, {func(w *api.World) { *w = wide(4001) }, false},
+	} {
+		w := example()
+		c.change(&w)
+		if world.Valid(w) != c.good {
+			t.Error(i)
+		}
+	}
+	w := example()
+	for typ := 1; typ <= 8; typ++ {
+		if _, e := world.Ask(w, 1, q("x", typ)); e != api.OK {
+			t.Error(typ, e)
+		}
+	}
+	for _, x := range []api.Question{q("x", 0), q("x", -1), q("x", 9), q("X", 1)} {
+		_, e := world.Ask(w, 1, x)
+		_, f := world.Truth(w, x)
+		if e != api.ErrArg || f != e {
+			t.Error(x, e, f)
+		}
+	}
+}
+
+// many returns copies of as many apexes, all of the host 0.
+func many(n int) []api.Placed {
+	var out []api.Placed
+	for i := range n {
+		out = append(out, api.Placed{Zone: sample.Bare("z"+string([]byte{byte('a' + i/26), byte('a' + i%26)}), 1, "a")})
+	}
+	return out
+}
+
+// wide returns a world with as many copies, of several hosts.
+func wide(n int) api.World {
+	w := example()
+	w.Zones = nil
+	for i := range 20 {
+		w.Hosts = append(w.Hosts, api.Host{Name: "c", Addr: 10 + i})
+	}
+	for _, p := range many(n / 20) {
+		for host := range 20 {
+			w.Zones = append(w.Zones, api.Placed{Host: host, Zone: p.Zone})
+		}
+	}
+	for len(w.Zones) < n {
+		w.Zones = append(w.Zones, api.Placed{Host: 21, Zone: w.Zones[0].Zone})
+	}
+	return w
+}
+
+// P16.1: of the copies of a host the closest answers, but for anchors the one above.
+func TestClosest(t *testing.T) {
+	zones := []api.Zone{sample.With(sample.Bare(".", 1, "r"), signed("x", 2, 1, text("s"))), sample.With(sample.Bare("x", 1, "s"), signed("y.x", 2, 1, text("s")), signed("y.x", 6, 1, nums(4, 1))), sample.With(sample.Bare("y.x", 1, "s"), signed("t.y.x", 5, 1, text("t")))}
+	orders := [][]int{{0, 1, 2}, {2, 1, 0}, {1, 2, 0}, {1, 0, 2}, {2, 0, 1}, {0, 2, 1}}
+	for _, order := range orders {
+		w := example()
+		w.Zones = nil
+		for _, i := range order {
+			w.Zones = append(w.Zones, api.Placed{Host: 1, Zone: zones[i]})
+		}
+		a, e := world.Ask(w, 2, q("y.x", 6))
+		b, f := world.Ask(w, 2, q("t.y.x", 5))
+		c, g := world.Ask(w, 2, q("y.x", 4))
+		d, h := world.Ask(w, 2, q("t.y.x", 6))
+		if e != api.OK || f != e || g != e || h != e || a.Kind != api.AnsData || b.Kind != api.AnsData || c.Kind != api.AnsData || d.Kind != api.AnsNoData || d.Sets[0].Set.Name != "y.x" {
+			t.Error(order, a, b, c, d)
+		}
+		w.Zones = slices.DeleteFunc(w.Zones, func(p api.Placed) bool { return p.Zone.Apex == "x" })
+		if a, _ := world.Ask(w, 2, q("y.x", 6)); a.Kind != api.AnsRefer || a.Cut != "x" {
+			t.Error(order, a)
+		}
+		w.Zones = slices.DeleteFunc(w.Zones, func(p api.Placed) bool { return p.Zone.Apex == "." })
+		if a, _ := world.Ask(w, 2, q("y.x", 6)); a.Kind != api.AnsNoData {
+			t.Error(order, a)
+		}
+	}
+}
