@@ -187,3 +187,66 @@ func TestLaws(t *testing.T) {
 		}
 	}
 }
+
+// P22.1: what is known, and the edges of all ranges.
+func TestEdges(t *testing.T) {
+	a, b := signed("a.x", 1, 5, nums(1)), signed("b.x", 1, 9, nums(2))
+	c, _ := cache.Put(api.Cache{}, a, "x", 10)
+	c, _ = cache.Deny(c, q("d.x", 8), "x", 5, 10)
+	c, _ = cache.Put(c, b, ".", 10)
+	for now, want := range map[int][]api.Signed{10: {a, b}, 14: {a, b}, 15: {b}, 18: {b}, 19: nil, 20000000: nil} {
+		l, e := cache.Known(c, now)
+		x, f := cache.Clean(c, now)
+		if e != api.OK || f != api.OK || len(l) != len(want) || len(want) > 0 && !reflect.DeepEqual(l, want) || len(x.List) < len(l) || now > 18 && len(x.List) > 0 {
+			t.Error(now, l, x)
+		}
+	}
+	c, _ = cache.Put(c, a, "x", 11)
+	if c.List[0].Until != 16 || len(c.List) != 3 {
+		t.Error("in its place", c)
+	}
+	for typ := 1; typ <= 8; typ++ {
+		d, e := cache.Deny(api.Cache{}, q("d.x", typ), "x", 100000, 20000000)
+		if got, ok, f := cache.Get(d, q("d.x", typ), 20000000); e != api.OK || f != api.OK || !ok || got.Until != 20100000 || got.Signed.Set.Life != 100000 || !cache.Valid(d) {
+			t.Error(typ, e, f)
+		}
+	}
+	d, _ := cache.Deny(api.Cache{}, q("d.x", 1), "x", 0, 10)
+	if len(d.List) != 1 || d.List[0].Until != 11 {
+		t.Error(d)
+	}
+	for until, good := range map[int]bool{0: false, 1: true, 20100001: true, 20100002: false} {
+		if cache.Valid(api.Cache{List: []api.Entry{{Signed: a, Zone: "x", Until: until}}}) != good {
+			t.Error(until)
+		}
+	}
+	for i, s := range []struct {
+		set  api.Set
+		good bool
+	}{{api.Set{Name: "d.x", Type: 0}, false}, {api.Set{Name: "d.x", Type: 1}, true}, {api.Set{Name: "d.x", Type: 8, Life: 100000}, true}, {api.Set{Name: "d.x", Type: 9}, false}, {api.Set{Name: "d.x", Type: 1, Life: -1}, false}, {api.Set{Name: "d.x", Type: 1, Life: 100001}, false}} {
+		if cache.Valid(api.Cache{List: []api.Entry{{Signed: api.Signed{Set: s.set}, Zone: "x", Until: 5}}}) != s.good {
+			t.Error(i)
+		}
+	}
+	for i, x := range []api.Question{q("d.x", 0), q("d.x", 9), q("D", 1)} {
+		_, ok, e := cache.Get(c, x, 5)
+		if ok || e != api.ErrArg {
+			t.Error(i, e)
+		}
+	}
+	if _, ok, e := cache.Get(c, q("a.x", 1), 20000001); ok || e != api.ErrArg {
+		t.Error(e)
+	}
+	var full api.Cache
+	for i := range 401 {
+		full.List = append(full.List, api.Entry{Signed: signed("n"+strconv.Itoa(i), 1, 5, nums(1)), Zone: ".", Until: 5})
+	}
+	if cache.Valid(full) || !cache.Valid(api.Cache{List: full.List[:400]}) {
+		t.Error("400 entries")
+	}
+	got, _, _ := cache.Get(c, q("a.x", 1), 12)
+	got.Signed.Set.Data[0].N = 99
+	if c.List[0].Signed.Set.Data[0].N == 99 || a.Set.Data[0].N == 99 {
+		t.Error("shared memory")
+	}
+}

@@ -106,3 +106,28 @@ func TestLaws(t *testing.T) {
 		}
 	}
 }
+
+// P24.1: the edges of ends and drifts.
+func TestEdges(t *testing.T) {
+	for end, want := range map[int]api.Errno{0: api.ErrArg, 1: api.OK, 20000000: api.OK, 20000001: api.ErrArg} {
+		_, _, ok, e := clock.Times(api.Clock{}, 0, end)
+		in, f := clock.Within(api.Clock{}, 0, end)
+		if e != want || f != want || ok != (want == api.OK) || in != ok {
+			t.Error(end, e, f)
+		}
+	}
+	for drift, want := range map[int]api.Errno{-1: api.ErrArg, 0: api.OK, 1000: api.OK, 1001: api.ErrArg} {
+		if in, e := clock.Within(api.Clock{}, drift, 5); e != want || in != (e == api.OK) {
+			t.Error(drift, e)
+		}
+	}
+	if n, e := clock.Show(api.Clock{Off: -7}, 20000000); n != 19999993 || e != api.OK {
+		t.Error(n, e)
+	}
+	if in, e := clock.Within(api.Clock{Off: 3, Every: -2}, 3, 2); !in || e != api.OK {
+		t.Error(in, e)
+	}
+	if in, e := clock.Within(api.Clock{Off: 4, Every: -2}, 3, 9); in || e != api.OK {
+		t.Error(in, e)
+	}
+}

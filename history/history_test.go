@@ -156,3 +156,86 @@ func TestLaws(t *testing.T) {
 		}
 	}
 }
+
+// P21.1: the apexes in order, each once.
+func TestZones(t *testing.T) {
+	h := example()
+	for i, apex := range []string{"y", "a.y", ".", "b"} {
+		h.Copies = append(h.Copies, api.Copy{Host: i, Until: 5, Zone: sample.Bare(apex, 1, "h")})
+	}
+	if l, e := history.Zones(h); e != api.OK || !slices.Equal(l, []string{".", "b", "x", "y", "a.y"}) {
+		t.Error(l, e)
+	}
+	h.Copies = nil
+	if l, e := history.Zones(h); e != api.OK || len(l) > 0 {
+		t.Error(l, e)
+	}
+}
+
+// P21.1: the edges of ends, drifts, copies, zones and sets.
+func TestEdges(t *testing.T) {
+	for i, c := range []struct {
+		change func(h *api.History)
+		good   bool
+	}{
+		{func(h *api.History) { h.End = 10000000 }, true}, {func(h *api.History) { h.End = 10000001 }, false}, {func(h *api.History) { h.End, h.Copies = 1, nil }, true}, {func(h *api.History) { h.End, h.Copies = 0, nil }, false}, {func(h *api.History) { h.Drift = 1000 }, true}, {func(h *api.History) { h.Drift = 1001 }, false}, {func(h *api.History) { h.End = 30 }, true},
+		{func(h *api.History) { h.Copies = many(500, 1) }, true}, {func(h *api.History) { h.Copies = many(501, 1) }, false}, {func(h *api.History) { h.Copies = many(400, 10) }, true}, {func(h *api.History) {
+			h.Copies = append(many(400, 10), api.Copy{Host: 1, Until: 5, Zone: sample.Bare("zaa", 1, "h")})
+		}, false},
+		{func(h *api.History) { h.Copies[2].Host = 0 }, false}, {func(h *api.History) { h.Copies[2] = api.Copy{From: 30, Until: 31, Zone: h.Copies[0].Zone} }, true}, {func(h *api.History) { h.Copies[2] = api.Copy{From: 29, Until: 31, Zone: h.Copies[0].Zone} }, false},
+	} {
+		h := example()
+		c.change(&h)
+		if history.Valid(h) != c.good {
+			t.Error(i)
+		}
+	}
+	h := example()
+	h.Copies = nil
+	for k := range 3 {
+		z := sample.Bare("x", k+2, "h")
+		for i := range 6665 {
+			z.Sets = append(z.Sets, sample.Signed("n"+string([]byte{'a' + byte(i/676), 'a' + byte(i/26%26), 'a' + byte(i%26)})+".x", 1, k, sample.Nums(1)))
+		}
+		h.Copies = append(h.Copies, api.Copy{Host: k, Until: 20, Zone: z})
+	}
+	l, e := history.Published(h, "x")
+	if e != api.OK || len(l) != 3*6665+4 {
+		t.Error(len(l), e)
+	}
+	last := &h.Copies[2].Zone
+	last.Sets = append(last.Sets, sample.Signed("oa.x", 1, 1, sample.Nums(1)))
+	if l, e := history.Published(h, "x"); e != api.OK || len(l) != 20000 {
+		t.Error(len(l), e)
+	}
+	last.Sets = append(last.Sets, sample.Signed("ob.x", 1, 1, sample.Nums(1)))
+	if l, e := history.Published(h, "x"); e != api.ErrLimit || len(l) > 0 {
+		t.Error(len(l), e)
+	}
+}
+
+// many returns copies of several apexes, with several stretches each.
+func many(apexes, times int) []api.Copy {
+	var out []api.Copy
+	for i := range apexes {
+		for k := range times {
+			z := sample.Bare("z"+string([]byte{byte('a' + i/26), byte('a' + i%26)}), 1, "h")
+			out = append(out, api.Copy{Host: 0, From: k, Until: k + 1, Zone: z})
+		}
+	}
+	return out
+}
+
+// P21.2: results share no memory with the history.
+func TestShared(t *testing.T) {
+	h := example()
+	want := sample.Bare("x", 1, "h")
+	w, _ := history.At(h, 5)
+	l, _ := history.Published(h, "x")
+	w.Hosts[0].Name, w.Hints[0], w.Anchor.Data[0].N = "q", 9, 9
+	w.Zones[0].Zone.Sets[0].Set.Data[0].Text = "q"
+	l[0].Signed.Set.Data[0].Text = "q"
+	if !value.SameZone(h.Copies[0].Zone, want) || !value.SameZone(w.Zones[1].Zone, want) || h.Hosts[0].Name == "q" || h.Hints[0] == 9 || h.Anchor.Data[0].N == 9 {
+		t.Error(h)
+	}
+}

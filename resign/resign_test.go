@@ -139,3 +139,45 @@ func TestGaps(t *testing.T) {
 		t.Error(e)
 	}
 }
+
+// P25.1: the edges of all ranges, and just which stretches are gaps.
+func TestEdges(t *testing.T) {
+	for i, c := range []struct {
+		begin, end, length, drift, life int
+		e                               api.Errno
+	}{
+		{1000, 2000, 4000, 1000, 5, api.OK}, {1001, 2000, 4005, 1001, 5, api.ErrArg}, {0, 1, 5, 0, 5, api.OK}, {9999999, 10000000, 5, 0, 5, api.OK}, {9999999, 10000001, 5, 0, 5, api.ErrArg}, {0, 5, 1, 0, 1, api.OK}, {0, 5, 0, 0, 1, api.ErrArg}, {0, 5, 10000000, 0, 1, api.OK}, {0, 5, 10000001, 0, 1, api.ErrArg}, {0, 5, 100000, 0, 100000, api.OK}, {0, 5, 100001, 0, 100001, api.ErrArg}, {5, 9, 50, 5, 5, api.OK}, {5, 9, 50, 6, 5, api.ErrArg},
+	} {
+		if l, e := resign.Times(c.begin, c.end, c.length, c.drift, c.life); e != c.e || (e == api.OK) != (len(l) > 0) || e == api.OK && l[0] != c.begin {
+			t.Error(i, l, e)
+		}
+	}
+	s := between(10, 90)
+	for drift, want := range map[int]api.Errno{0: api.OK, 1000: api.OK, 1001: api.ErrArg, -1: api.ErrArg} {
+		if _, e := resign.Sure(s, drift, 5); e != want {
+			t.Error(drift, e)
+		}
+	}
+	for end, want := range map[int]api.Errno{0: api.ErrArg, 1: api.OK, 20000000: api.OK, 20000001: api.ErrArg} {
+		if _, e := resign.Sure(s, 0, end); e != want {
+			t.Error(end, e)
+		}
+	}
+	six := api.Signed{Set: s.Set}
+	for range 6 {
+		six.Sigs = append(six.Sigs, api.Sig{From: 0, Until: 20000000})
+	}
+	if l, e := resign.Sure(six, 0, 50); e != api.OK || !slices.Equal(l, []api.Span{{Until: 50}}) {
+		t.Error(l, e)
+	}
+	odd := api.Signed{Set: s.Set, Sigs: []api.Sig{{From: 3, Until: 9}, {From: 4, Until: 9}}}
+	if _, e := resign.Sure(odd, 0, 50); e != api.ErrArg {
+		t.Error(e)
+	}
+	z := sample.With(sample.Bare("x", 1, "h"), s)
+	h := api.History{Hosts: sample.Hosts(), Copies: []api.Copy{{Until: 95, Zone: z}}, Anchor: sample.Signed(".", 6, 5, sample.Nums(1, 1)).Set, Hints: []int{1}, Drift: 3, End: 200}
+	l, e := resign.Gaps(h)
+	if e != api.OK || len(l) != 1 || l[0].Signed.Set.Name != "w.x" || !slices.Equal(l[0].Spans, []api.Span{{From: 0, Until: 13}, {From: 88, Until: 95}}) || !slices.Equal(l[0].Fresh, []api.Span{{Until: 95}}) || l[0].Zone != "x" {
+		t.Error(l, e)
+	}
+}
