@@ -131,3 +131,68 @@ func TestForgery(t *testing.T) {
 		t.Error(n)
 	}
 }
+
+// P27.1: the edges of each field, and memory of its own.
+func TestEdges(t *testing.T) {
+	one, _ := net.Send(api.Net{Seq: 7}, answer(query(1, 2)), 5, fate)
+	for i, c := range []struct {
+		change func(n *api.Net)
+		good   bool
+	}{
+		{func(n *api.Net) {}, true}, {func(n *api.Net) { n.List[0].At = -1 }, false}, {func(n *api.Net) { n.List[0].At = 20000000 }, true}, {func(n *api.Net) { n.List[0].At = 20000001 }, false}, {func(n *api.Net) { n.List[0].Seq = -1 }, false}, {func(n *api.Net) { n.List[0].Seq = 0 }, true}, {func(n *api.Net) { n.List[0].Seq = 8 }, false}, {func(n *api.Net) { n.Seq = 7 }, false}, {func(n *api.Net) { n.Seq = 1000000000 }, true}, {func(n *api.Net) { n.Seq = 1000000001 }, false}, {func(n *api.Net) { n.List[0].M.ID = -1 }, false},
+		{func(n *api.Net) { n.List = append(n.List, api.Transit{At: 5, Seq: 6, M: query(1, 2)}) }, false}, {func(n *api.Net) { n.List = append(n.List, api.Transit{At: 6, Seq: 6, M: query(1, 2)}) }, true}, {func(n *api.Net) { n.List = append(n.List, api.Transit{At: 4, Seq: 6, M: query(1, 2)}) }, false}, {func(n *api.Net) { n.List = append(n.List, api.Transit{At: 6, Seq: 7, M: query(1, 2)}) }, false},
+	} {
+		n := api.Net{Seq: one.Seq, List: slices.Clone(one.List)}
+		c.change(&n)
+		_, _, e := net.Receive(n, 2, 5)
+		_, f := net.Send(n, query(1, 2), 5, api.Fate{Lost: true, Copies: 1})
+		if net.Valid(n) != c.good || (e == api.OK) != c.good || f != e {
+			t.Error(i, e, f)
+		}
+	}
+	for addr, want := range map[int]api.Errno{0: api.ErrArg, 1: api.OK, 1000000: api.OK, 1000001: api.ErrArg} {
+		if _, _, e := net.Receive(one, addr, 5); e != want {
+			t.Error(addr, e)
+		}
+	}
+	for now, want := range map[int]api.Errno{-1: api.ErrArg, 0: api.OK, 20000000: api.OK, 20000001: api.ErrArg} {
+		_, _, e := net.Receive(one, 2, now)
+		_, f := net.Send(one, query(1, 2), now, fate)
+		if e != want || f != want {
+			t.Error(now, e, f)
+		}
+	}
+	for i, c := range []struct {
+		f api.Fate
+		e api.Errno
+	}{{api.Fate{Copies: 8}, api.OK}, {api.Fate{Copies: 9}, api.ErrArg}, {api.Fate{Copies: 0}, api.ErrArg}, {api.Fate{Copies: 1, Delay: 100000}, api.OK}, {api.Fate{Copies: 1, Delay: 100001}, api.ErrArg}, {api.Fate{Copies: 1, Forge: 2}, api.OK}, {api.Fate{Copies: 1, Forge: -1}, api.ErrArg}} {
+		if n, e := net.Send(one, query(1, 2), 5, c.f); e != c.e || e == api.OK && len(n.List) != 1+c.f.Copies {
+			t.Error(i, e)
+		}
+	}
+	if n, e := net.Send(api.Net{Seq: 999999992}, query(1, 2), 5, api.Fate{Copies: 8}); e != api.OK || n.Seq != 1000000000 {
+		t.Error(e)
+	}
+	if _, e := net.Send(api.Net{Seq: 999999993}, query(1, 2), 5, api.Fate{Copies: 8}); e != api.ErrLimit {
+		t.Error(e)
+	}
+	if n, e := net.Send(one, query(1, 2), 19999999, api.Fate{Copies: 1, Delay: 1}); e != api.OK || n.List[1].At != 20000000 {
+		t.Error(e)
+	}
+	var full api.Net
+	for i := range 201 {
+		full.List = append(full.List, api.Transit{At: i, Seq: i, M: query(1, 2)})
+	}
+	full.Seq = 500
+	if net.Valid(full) || !net.Valid(api.Net{Seq: 500, List: full.List[:200]}) {
+		t.Error("200 packets")
+	}
+	m := answer(query(1, 2))
+	two, _ := net.Send(api.Net{}, m, 5, api.Fate{Copies: 2})
+	more, _ := net.Send(two, m, 5, fate)
+	_, l, _ := net.Receive(two, 9, 5)
+	two.List[0].M.Answer.Sets[0].Set.Data[0].N = 99
+	if m.Answer.Sets[0].Set.Data[0].N == 99 || two.List[1].M.Answer.Sets[0].Set.Data[0].N == 99 || more.List[0].M.Answer.Sets[0].Set.Data[0].N == 99 || l[0].Answer.Sets[0].Set.Data[0].N == 99 {
+		t.Error("shared memory")
+	}
+}

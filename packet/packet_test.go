@@ -149,3 +149,111 @@ func TestLimits(t *testing.T) {
 		t.Error(e)
 	}
 }
+
+// P26.1: the edges of each field.
+func TestEdges(t *testing.T) {
+	good := api.Message{Kind: 2, ID: 5, From: 3, To: 2, Q: api.Question{Name: "x", Type: 1}}
+	good.Answer = api.Answer{Kind: 1, Sets: []api.Signed{{Set: api.Set{Name: "x", Type: 1, Data: []api.Datum{{N: 1}}}, Sigs: []api.Sig{{Zone: "x", Key: 1, Alg: 1}}}}}
+	for i, c := range []struct {
+		set      func(m *api.Message, n int)
+		low, top int
+	}{
+		{func(m *api.Message, n int) { m.ID = n }, 0, 65535}, {func(m *api.Message, n int) { m.From = n }, 1, 1000000}, {func(m *api.Message, n int) { m.To = n }, 1, 1000000}, {func(m *api.Message, n int) { m.Q.Type = n }, 1, 8},
+		{func(m *api.Message, n int) { m.Answer.Sets[0].Sigs[0].Key = n }, 1, 1000000}, {func(m *api.Message, n int) { m.Answer.Sets[0].Sigs[0].Alg = n }, 1, 3}, {func(m *api.Message, n int) { m.Answer.Sets[0].Sigs[0].Until = n }, 0, 20000000}, {func(m *api.Message, n int) { m.Answer.Sets[0].Sigs[0].From = n; m.Answer.Sets[0].Sigs[0].Until = 9 }, 0, 9},
+	} {
+		for n, want := range map[int]bool{c.low - 1: false, c.low: true, c.low + 1: true, c.top - 1: true, c.top: true, c.top + 1: false} {
+			m := good
+			m.Answer.Sets = []api.Signed{{Set: good.Answer.Sets[0].Set, Sigs: slices.Clone(good.Answer.Sets[0].Sigs)}}
+			c.set(&m, n)
+			_, e := packet.Bytes(m)
+			if packet.Valid(m) != want || (e == api.OK) != want {
+				t.Error(i, n, e)
+			}
+		}
+	}
+	six := good
+	six.Answer.Sets = []api.Signed{{Set: good.Answer.Sets[0].Set, Sigs: slices.Repeat(good.Answer.Sets[0].Sigs, 6)}}
+	long := good
+	long.Answer.Sets = slices.Repeat(good.Answer.Sets, 40)
+	if !packet.Valid(six) || !packet.Valid(long) {
+		t.Error("6 signatures, or 40 sets")
+	}
+	for kind := 1; kind <= 7; kind++ {
+		m := good
+		m.Answer.Kind = kind
+		if packet.Valid(m) != (kind != 4) {
+			t.Error(kind)
+		}
+		m.Answer.Cut = "y"
+		if packet.Valid(m) != (kind == 4) {
+			t.Error(kind)
+		}
+	}
+	q := query(5)
+	for i, change := range []func(m *api.Message){func(m *api.Message) { m.Answer.Kind = 1 }, func(m *api.Message) { m.Answer.Sets = good.Answer.Sets }, func(m *api.Message) { m.Answer.Cut = "x" }} {
+		m := q
+		change(&m)
+		if packet.Valid(m) {
+			t.Error(i)
+		}
+	}
+	for i, c := range [][2]api.Message{{{}, good}, {q, {}}, {good, good}, {q, q}} {
+		if packet.Match(c[0], c[1]) {
+			t.Error(i)
+		}
+	}
+	a := api.Message{Kind: 2, ID: 5, From: 3, To: 2, Q: q.Q, Answer: api.Answer{Kind: 7}}
+	twin := a
+	twin.From, twin.To = a.To, a.From
+	back := q
+	back.From, back.To = q.To, q.From
+	wrong := q
+	wrong.Answer.Kind = 9
+	if packet.Match(twin, a) || packet.Match(q, back) || packet.Match(wrong, a) || !packet.Match(q, a) {
+		t.Error("kinds")
+	}
+	bad := a
+	bad.Answer.Cut = "x"
+	if packet.Match(q, bad) {
+		t.Error("an answer that is not valid")
+	}
+}
+
+// P26.7: just 4000 bytes.
+func TestSize(t *testing.T) {
+	m := api.Message{Kind: 2, ID: 5, From: 3, To: 2, Q: query(5).Q, Answer: api.Answer{Kind: 1}}
+	text := func(n int) api.Signed {
+		s := sample.Signed("x", 5, 1)
+		for i := range 8 {
+			s.Set.Data = append(s.Set.Data, sample.Text(string([]byte{'a' + byte(i)})+string(bytes.Repeat([]byte{'t'}, n))))
+		}
+		return s
+	}
+	size := func() int { b, _ := packet.Bytes(m); return len(b) }
+	for size() > 0 && size() < 3400 {
+		m.Answer.Sets = append(m.Answer.Sets, text(20))
+	}
+	left := 4000 - size()
+	last := sample.Signed("y", 5, 1)
+	for i := range 7 {
+		last.Set.Data = append(last.Set.Data, sample.Text(string([]byte{'a' + byte(i)})+string(bytes.Repeat([]byte{'t'}, 9))))
+	}
+	m.Answer.Sets = append(m.Answer.Sets, last)
+	used := 4000 - left
+	for i := range 7 {
+		for len(last.Set.Data[i].Text) < 40 && size() > 0 && size() < 4000 {
+			last.Set.Data[i].Text += "t"
+		}
+	}
+	b, e := packet.Bytes(m)
+	if e != api.OK || len(b) != 4000 {
+		t.Fatal(used, len(b), e)
+	}
+	if x, e := packet.Read(b); e != api.OK || !reflect.DeepEqual(x, m) {
+		t.Error(e)
+	}
+	m.Q.Name = "xx"
+	if b, e := packet.Bytes(m); e != api.ErrLimit || len(b) > 0 {
+		t.Error(len(b), e)
+	}
+}
