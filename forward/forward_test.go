@@ -135,3 +135,52 @@ func TestErrors(t *testing.T) {
 		t.Error(e1, e2, e3)
 	}
 }
+
+// P29.1: the edges of each field, and memory of its own.
+func TestEdges(t *testing.T) {
+	for i, c := range []struct {
+		own  int
+		ups  []int
+		id   int
+		now  int
+		good bool
+	}{
+		{1, []int{2}, 0, 0, true}, {1000000, []int{2}, 65535, 10000000, true}, {0, []int{2}, 0, 0, false}, {1000001, []int{2}, 0, 0, false}, {9, []int{1, 1000000}, 0, 0, true}, {9, []int{0}, 0, 0, false}, {9, []int{2, 0}, 0, 0, false}, {9, []int{2, 1000001}, 0, 0, false}, {9, []int{2, 3, 2}, 0, 0, false}, {9, []int{2, 9}, 0, 0, false}, {9, []int{1, 2, 3, 4, 5, 6, 7, 8}, 0, 0, true}, {9, []int{}, 0, 0, false}, {9, []int{2}, -1, 0, false}, {9, []int{2}, 65536, 0, false}, {9, []int{2}, 0, -1, false}, {9, []int{2}, 0, 10000001, false},
+	} {
+		f, m, e := forward.Begin(question, c.own, c.ups, c.id, c.now)
+		if (e == api.OK) != c.good || c.good && (f.Until != c.now+5 || m.From != c.own || m.To != c.ups[0] || m.ID != c.id) {
+			t.Error(i, e)
+		}
+	}
+	f, m := begin(t, 2, 3)
+	for now, want := range map[int]api.Errno{-1: api.ErrArg, 0: api.OK, 10000000: api.OK, 10000001: api.ErrArg} {
+		_, _, e := forward.Wait(f, now)
+		_, _, k := forward.Take(f, answer(m, 1), now)
+		if e != want || k != want {
+			t.Error(now, e, k)
+		}
+	}
+	for i, c := range []struct {
+		change func(f *api.Forwarder)
+		good   bool
+	}{
+		{func(f *api.Forwarder) { f.Until = 0 }, true}, {func(f *api.Forwarder) { f.Until = 10000005 }, true}, {func(f *api.Forwarder) { f.Until = 10000006 }, false}, {func(f *api.Forwarder) { f.Until = -1 }, false}, {func(f *api.Forwarder) { f.Tried = 7 }, true}, {func(f *api.Forwarder) { f.Tried = 8 }, false}, {func(f *api.Forwarder) { f.Tried, f.Dark = 8, true }, true}, {func(f *api.Forwarder) { f.Tried, f.Dark = 7, true }, false}, {func(f *api.Forwarder) { f.Tried, f.Dark = 9, true }, false}, {func(f *api.Forwarder) { f.At = 1 }, true}, {func(f *api.Forwarder) { f.ID = 0 }, true}, {func(f *api.Forwarder) { f.ID = -1 }, false},
+		{func(f *api.Forwarder) { f.Done, f.Answer.Kind = true, 1 }, true}, {func(f *api.Forwarder) { f.Done, f.Answer = true, api.Answer{Kind: 1, Cut: "x"} }, false}, {func(f *api.Forwarder) { f.Answer.Cut = "x" }, false}, {func(f *api.Forwarder) { f.Answer.Sets = []api.Signed{sample.Signed("x", 1, 5, sample.Nums(7))} }, false}, {func(f *api.Forwarder) { f.Q.Type = 9 }, false}, {func(f *api.Forwarder) { f.Own = 2 }, false}, {func(f *api.Forwarder) { f.Own = 0 }, false},
+	} {
+		x := f
+		c.change(&x)
+		if _, _, e := forward.Wait(x, 5); (e == api.OK) != c.good {
+			t.Error(i, e)
+		}
+	}
+	ups := []int{2, 3}
+	g, m, _ := forward.Begin(question, 9, ups, 1, 10)
+	a := answer(m, api.AnsData)
+	done, _, _ := forward.Take(g, a, 11)
+	again, _, _ := forward.Wait(done, 20)
+	a.Answer.Sets[0].Set.Data[0].N, ups[0], g.Ups[1] = 99, 99, 98
+	done.Answer.Sets[0].Set.Data[0].M = 97
+	if done.Answer.Sets[0].Set.Data[0].N == 99 || g.Ups[0] == 99 || done.Ups[1] == 98 || again.Answer.Sets[0].Set.Data[0].M == 97 {
+		t.Error("shared memory")
+	}
+}

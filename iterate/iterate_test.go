@@ -162,3 +162,42 @@ func servers(t *testing.T, known []api.Signed, x api.Question, n api.Next) {
 		t.Error(known, x, m)
 	}
 }
+
+// P28.1: the edges of known sets, hints and questions, and memory of its own.
+func TestEdges(t *testing.T) {
+	good := []api.Signed{signed("x", 2, 5, text("a.ns")), signed("a.ns", 1, 5, nums(4))}
+	many := slices.Repeat(good[:1], 401)
+	for n, want := range map[int]api.Errno{400: api.OK, 401: api.ErrArg} {
+		_, e := iterate.Ask(many[:n], []int{1}, q("y", 1))
+		_, f := iterate.Zone(many[:n], "y")
+		if e != want || f != want {
+			t.Error(n, e, f)
+		}
+	}
+	for n, want := range map[int]api.Errno{0: api.ErrArg, 1: api.OK, 1000000: api.OK, 1000001: api.ErrArg} {
+		if _, e := iterate.Ask(good, []int{1, n}, q("y", 1)); e != want {
+			t.Error(n, e)
+		}
+	}
+	nine := []int{1, 2, 3, 4, 5, 6, 7, 8, 9}
+	for n, want := range map[int]api.Errno{0: api.ErrArg, 1: api.OK, 8: api.OK, 9: api.ErrArg} {
+		if x, e := iterate.Ask(good, nine[:n], q("y", 1)); e != want || e == api.OK && !slices.Equal(x.Addrs, nine[:n]) {
+			t.Error(n, e)
+		}
+	}
+	for typ, want := range map[int]api.Errno{0: api.ErrArg, 1: api.OK, 8: api.OK, 9: api.ErrArg} {
+		if _, e := iterate.Ask(good, nine[:1], q("y", typ)); e != want {
+			t.Error(typ, e)
+		}
+	}
+	if z, e := iterate.Zone([]api.Signed{{}}, "x"); e != api.ErrArg || z != "" {
+		t.Error(z, e)
+	}
+	hints := []int{5, 6}
+	x, _ := iterate.Ask(nil, hints, q("y", 1))
+	y, _ := iterate.Ask(good, hints, q("a.ns", 1))
+	x.Addrs[0], y.Sets[0].Set.Data[0].N = 99, 99
+	if hints[0] == 99 || good[1].Set.Data[0].N == 99 {
+		t.Error("shared memory")
+	}
+}
