@@ -144,3 +144,56 @@ func TestLearn(t *testing.T) {
 		}
 	}
 }
+
+// P32.1: the edges of times, uses and questions.
+func TestEdges(t *testing.T) {
+	c, _ := cache.Put(api.Cache{}, addr, "x", 10)
+	uses := []api.Use{{Q: q("w.x", 1), Times: 1000000}}
+	for now, want := range map[int]api.Errno{-1: api.ErrArg, 0: api.OK, 20000000: api.OK, 20000001: api.ErrArg} {
+		_, e := prefetch.Due(c, uses, now, 1, 1)
+		_, f := prefetch.Learn(c, "x", q("x", 1), api.Answer{Kind: 7}, now)
+		if e != want || f != want {
+			t.Error(now, e, f)
+		}
+	}
+	for n, want := range map[int]api.Errno{-1: api.ErrArg, 0: api.OK, 1000000: api.OK, 1000001: api.ErrArg} {
+		_, e := prefetch.Due(c, uses, 5, n, 1)
+		_, f := prefetch.Due(c, uses, 5, 1, n)
+		if e != want || f != want {
+			t.Error(n, e, f)
+		}
+	}
+	var many []api.Use
+	for i := range 401 {
+		many = append(many, api.Use{Q: q("n"+strconv.Itoa(i), 8), Times: 1})
+	}
+	for n, want := range map[int]api.Errno{400: api.OK, 401: api.ErrArg} {
+		_, e := prefetch.Due(c, many[:n], 5, 1, 1)
+		_, f := prefetch.Asked(many[:n], q("n0", 8))
+		if e != want || f != want {
+			t.Error(n, e, f)
+		}
+	}
+	for typ, want := range map[int]api.Errno{0: api.ErrArg, 1: api.OK, 8: api.OK, 9: api.ErrArg} {
+		if _, e := prefetch.Asked(nil, q("x", typ)); e != want {
+			t.Error(typ, e)
+		}
+	}
+	if _, e := prefetch.Asked([]api.Use{{Q: q("x", 1)}}, q("x", 1)); e != api.ErrArg {
+		t.Error(e)
+	}
+	bad := api.Cache{List: []api.Entry{{Zone: "x"}}}
+	for i, f := range []func() (api.Cache, api.Errno){
+		func() (api.Cache, api.Errno) {
+			return prefetch.Learn(bad, "x", q("w.x", 1), api.Answer{Kind: 1, Sets: []api.Signed{addr}}, 5)
+		},
+		func() (api.Cache, api.Errno) { return prefetch.Learn(bad, "y", q("w.x", 1), api.Answer{Kind: 7}, 5) },
+		func() (api.Cache, api.Errno) { return prefetch.Learn(c, "", q("w.x", 1), api.Answer{Kind: 7}, 5) },
+		func() (api.Cache, api.Errno) { return prefetch.Learn(c, "*.x", q("*.x", 1), api.Answer{Kind: 7}, 5) },
+		func() (api.Cache, api.Errno) { return prefetch.Learn(c, "x", q("w.x", 1), api.Answer{Kind: 4}, 5) },
+	} {
+		if x, e := f(); e != api.ErrArg || len(x.List) > 0 {
+			t.Error(i, e)
+		}
+	}
+}

@@ -4,6 +4,7 @@ import (
 	"bytes"
 	"reflect"
 	"slices"
+	"strings"
 	"testing"
 
 	"nameplan/api"
@@ -218,4 +219,111 @@ func TestFull(t *testing.T) {
 		t.Error(y.Result, len(y.Heard))
 	}
 	check(t, y, true)
+}
+
+// P31.1: the edges of all parts.
+func TestEdges(t *testing.T) {
+	anchor := sample.Tree().Anchor
+	good := api.Transcript{Q: q("t.x", 5), At: 5, Heard: []api.Heard{{At: 5, Addr: 1, Q: q("t.x", 5)}}, Result: api.Verdict{Kind: 3, Q: q("t.x", 5)}}
+	replayed := func(x api.Transcript, anchor api.Set, hints []int, drift int) api.Errno {
+		_, e := transcript.Replay(x, anchor, hints, drift)
+		return e
+	}
+	for n, want := range map[int]api.Errno{0: api.ErrArg, 1: api.OK, 8: api.OK, 9: api.ErrArg} {
+		if e := replayed(good, anchor, []int{1, 2, 3, 4, 5, 6, 7, 8, 9}[:n], 0); (e == api.ErrArg) != (want == api.ErrArg) {
+			t.Error(n, e)
+		}
+	}
+	for addr, want := range map[int]bool{0: false, 1: true, 1000000: true, 1000001: false} {
+		x := good
+		x.Heard = []api.Heard{{At: 5, Addr: addr, Q: good.Q}}
+		_, e := transcript.Bytes(x)
+		if f := replayed(good, anchor, []int{1, addr}, 0); (e == api.OK) != want || (f == api.ErrArg) == want {
+			t.Error(addr, e, f)
+		}
+	}
+	for drift, want := range map[int]bool{-1: false, 0: true, 1000: true, 1001: false} {
+		if e := replayed(good, anchor, []int{1}, drift); (e == api.OK) != want {
+			t.Error(drift, e)
+		}
+	}
+	for at, want := range map[int]bool{-1: false, 0: true, 10000000: true, 10000001: false} {
+		x := good
+		x.At, x.Heard = at, nil
+		if _, e := transcript.Bytes(x); (e == api.OK) != want {
+			t.Error(at, e)
+		}
+	}
+	for i, a := range []api.Set{{Name: ".", Type: 6}, sample.Signed("x", 6, 5, sample.Nums(1, 1)).Set, sample.Signed(".", 7, 5, sample.Nums(1, 1)).Set} {
+		if e := replayed(good, a, []int{1}, 0); e != api.ErrArg {
+			t.Error(i, e)
+		}
+	}
+	set := sample.Signed("x", 1, 5, sample.Nums(1))
+	for i, c := range []struct {
+		change func(x *api.Transcript)
+		good   bool
+	}{
+		{func(x *api.Transcript) { x.Result = api.Verdict{Kind: 1, Sets: slices.Repeat([]api.Signed{set}, 40)} }, true}, {func(x *api.Transcript) { x.Result = api.Verdict{Kind: 1, Sets: slices.Repeat([]api.Signed{set}, 41)} }, false}, {func(x *api.Transcript) { x.Result = api.Verdict{Kind: 1, Q: q("x", 1)} }, false}, {func(x *api.Transcript) { x.Result = api.Verdict{Kind: 2, Sets: []api.Signed{set}} }, false}, {func(x *api.Transcript) { x.Result = api.Verdict{Kind: 2, Q: q("x", 1)} }, false}, {func(x *api.Transcript) { x.Result = api.Verdict{Kind: 3} }, false}, {func(x *api.Transcript) { x.Result.Sets = []api.Signed{set} }, false}, {func(x *api.Transcript) { x.Result = api.Verdict{Kind: 4} }, false},
+		{func(x *api.Transcript) { x.Heard = slices.Repeat(x.Heard, 40) }, true}, {func(x *api.Transcript) { x.Heard = slices.Repeat(x.Heard, 41) }, false}, {func(x *api.Transcript) { x.Heard[0].Answer = api.Answer{Sets: []api.Signed{set}} }, false}, {func(x *api.Transcript) { x.Heard[0].Answer = api.Answer{Cut: "x"} }, false}, {func(x *api.Transcript) { x.Heard[0].Answer = api.Answer{Kind: 1, Sets: []api.Signed{set}} }, true}, {func(x *api.Transcript) { x.Heard[0].Answer = api.Answer{Kind: 8} }, false}, {func(x *api.Transcript) { x.Q.Type = 9 }, false}, {func(x *api.Transcript) { x.Q.Type = 8 }, true}, {func(x *api.Transcript) { x.Heard[0].Q.Name = "" }, false},
+	} {
+		x := good
+		x.Heard = slices.Clone(good.Heard)
+		c.change(&x)
+		b, e := transcript.Bytes(x)
+		if (e == api.OK) != c.good || c.good != (len(b) > 0) {
+			t.Error(i, e)
+		}
+	}
+	sets := slices.Clone(good.Heard)
+	sets[0].Answer = api.Answer{Kind: 1, Sets: []api.Signed{{Set: api.Set{Name: "x", Type: 1, Life: 5}}}}
+	bad := good
+	bad.Heard = sets
+	if e := replayed(bad, anchor, []int{1}, 0); e != api.ErrArg {
+		t.Error(e)
+	}
+}
+
+// P31.2: a transcript of just 1000000 bytes, and one of more.
+func TestSize(t *testing.T) {
+	long := sample.Signed("a", 5, 1)
+	for i := range 8 {
+		long.Set.Data = append(long.Set.Data, sample.Text(string([]byte{'a' + byte(i)})+"012345678901234567890123456789012345678"))
+	}
+	long.Sigs = slices.Repeat([]api.Sig{{Zone: "x", Key: 1, Alg: 1}}, 6)
+	x := api.Transcript{Q: q("t", 5), Result: api.Verdict{Kind: 2}}
+	size := func() int { b, _ := transcript.Bytes(x); return len(b) }
+	empty := size()
+	heard := api.Heard{Addr: 1, Q: q("t", 5), Answer: api.Answer{Kind: 1, Sets: slices.Repeat([]api.Signed{long}, 38)}}
+	x.Heard = []api.Heard{heard}
+	each := size() - empty
+	for range (995000-empty)/each - 1 {
+		x.Heard = append(x.Heard, heard)
+	}
+	if len(x.Heard) > 40 {
+		t.Fatal(len(x.Heard))
+	}
+	left := 1000000 - size()
+	for i := 0; left > 0 && i < 390; i++ {
+		// A text with n bytes makes an entry of this size.
+		n := min(40, left-(4+2+1+8+8+1+1+16+1+2+8))
+		if rest := left - (n + 52); rest > 0 && rest < 60 {
+			n -= 10
+		}
+		name := string([]byte{byte('a' + i/26), byte('a' + i%26)})
+		e := api.Entry{Signed: sample.Signed(name, 5, 1, sample.Text(strings.Repeat("t", n))), Zone: ".", Until: 5}
+		x.Cache.List = append(x.Cache.List, e)
+		left -= n + 52
+	}
+	b, e := transcript.Bytes(x)
+	if e != api.OK || len(b) != 1000000 {
+		t.Fatal(len(b), e, left)
+	}
+	if y, e := transcript.Read(b); e != api.OK || len(y.Heard) != len(x.Heard) {
+		t.Error(e)
+	}
+	x.Q.Name = "tt"
+	if b, e := transcript.Bytes(x); e != api.ErrLimit || len(b) > 0 {
+		t.Error(e)
+	}
 }

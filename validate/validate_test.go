@@ -245,3 +245,116 @@ func truth(t *testing.T, w api.World, x api.Question, v api.Verdict) {
 		}
 	}
 }
+
+// P30.1: which sets prove that a wildcard may be used, and where aliases do not count.
+func TestProofs(t *testing.T) {
+	rootKeys := by(signed(".", 7, 5, nums(1, 1)), ".", 1)
+	anchorX := by(signed("x", 6, 5, nums(2, 1)), ".", 1)
+	keysX := by(signed("x", 7, 5, nums(2, 1)), "x", 2)
+	wild := by(signed("*.x", 5, 5, text("w")), "x", 2)
+	next := func(n, to string, types int) api.Signed { return signed(n, 8, 5, api.Datum{Text: to, N: types}) }
+	base := []api.Signed{rootKeys, anchorX, keysX, wild}
+	missing := func(x api.Question) api.Verdict { return api.Verdict{Kind: api.Missing, Q: x} }
+	secure := func(l ...api.Signed) api.Verdict { return api.Verdict{Kind: api.Secure, Sets: l} }
+	proof := by(next("p.x", "r.x", 258), "x", 2)
+	foreign := by(next("p.x", "r.x", 258), ".", 1)
+	deep := by(signed("*.c.x", 5, 5, text("w")), "x", 2)
+	cut := by(next("c.x", "d.x", 4+256), "x", 2)
+	apex := by(next("c.x", "d.x", 4+16+256), "x", 2)
+	alias := by(signed("l.x", 3, 5, text("m.x")), "x", 2)
+	m := by(signed("m.x", 8, 5, api.Datum{Text: "x", N: 288}), "x", 2)
+	for i, c := range []struct {
+		known []api.Signed
+		x     api.Question
+		want  api.Verdict
+	}{
+		{append(base, proof), q("q.x", 5), secure(wild, proof)}, {base, q("q.x", 5), missing(q("q.x", 5))}, {append(base, foreign), q("q.x", 5), missing(q("q.x", 5))}, {append(base, next("p.x", "r.x", 258)), q("q.x", 5), missing(q("q.x", 5))}, {append(base, foreign, proof), q("q.x", 5), secure(wild, proof)}, {append(base, proof, proof), q("q.x", 5), secure(wild, proof)},
+		{append(base, proof), q("s.x", 5), missing(q("s.x", 5))}, {append(base, by(next("p.x", "a.q.x", 258), "x", 2)), q("b.q.x", 5), missing(q("b.q.x", 5))}, {append(base, by(next("p.x", "x", 258), "x", 2)), q("b.q.x", 5), secure(wild, by(next("p.x", "x", 258), "x", 2))},
+		{append(base, deep, cut), q("q.c.x", 5), missing(q("q.c.x", 5))}, {append(base, deep, apex), q("q.c.x", 5), secure(deep, apex)}, {append(base, cut), q("cc.x", 5), secure(wild, cut)},
+		{append(base, alias), q("l.x", 8), missing(q("l.x", 8))}, {append(base, alias), q("l.x", 3), secure(alias)}, {append(base, alias), q("l.x", 1), missing(q("m.x", 1))}, {append(base, alias, m), q("l.x", 1), secure(alias, m)}, {append(base, alias, m), q("m.x", 3), secure(m)},
+	} {
+		if v, e := validate.Judge(c.known, anchor, c.x, 50, 5); e != api.OK || !reflect.DeepEqual(v, c.want) {
+			t.Errorf("%d: %v %v", i, v, e)
+		}
+	}
+}
+
+// P30.1: the edges of times, and arguments.
+func TestEdges(t *testing.T) {
+	s := signed(".", 7, 5, nums(1, 1))
+	g, _ := sign.Sign(s.Set, ".", api.Key{N: 1, Alg: 1}, 0, 20000000)
+	s.Sigs = []api.Sig{g}
+	x := q(".", 7)
+	for _, c := range []struct {
+		at, drift int
+		e         api.Errno
+		kind      int
+	}{{0, 0, api.OK, 1}, {10000000, 1000, api.OK, 1}, {10000001, 0, api.ErrArg, 0}, {-1, 0, api.ErrArg, 0}, {5, 1001, api.ErrArg, 0}, {5, -1, api.ErrArg, 0}, {5, 6, api.OK, 2}} {
+		if v, e := validate.Judge([]api.Signed{s}, anchor, x, c.at, c.drift); e != c.e || v.Kind != c.kind {
+			t.Error(c, v, e)
+		}
+	}
+	for n, want := range map[int]api.Errno{400: api.OK, 401: api.ErrArg} {
+		if _, e := validate.Judge(slices.Repeat([]api.Signed{s}, n), anchor, x, 5, 0); e != want {
+			t.Error(n, e)
+		}
+	}
+	for i, a := range []api.Set{{Name: ".", Type: 6}, signed("x", 6, 5, nums(1, 1)).Set, signed(".", 7, 5, nums(1, 1)).Set} {
+		if _, e := validate.Judge([]api.Signed{s}, a, x, 5, 0); e != api.ErrArg {
+			t.Error(i, e)
+		}
+	}
+	for typ, want := range map[int]api.Errno{0: api.ErrArg, 1: api.OK, 8: api.OK, 9: api.ErrArg} {
+		_, e := validate.Judge([]api.Signed{s}, anchor, q("x", typ), 5, 0)
+		_, f := validate.Filter("x", q("x", typ), api.Answer{Kind: 7})
+		if e != want || f != want {
+			t.Error(typ, e, f)
+		}
+	}
+	if _, e := validate.Judge(nil, anchor, q("X", 1), 5, 0); e != api.ErrArg {
+		t.Error(e)
+	}
+	v, _ := validate.Judge([]api.Signed{s}, anchor, x, 5, 0)
+	l, _ := validate.Filter(".", x, api.Answer{Kind: 1, Sets: []api.Signed{s}})
+	v.Sets[0].Set.Data[0].N, l[0].Set.Data[0].M = 99, 99
+	if s.Set.Data[0] != nums(1, 1) {
+		t.Error("shared memory")
+	}
+}
+
+// P30.1: what may be taken of referrals, wildcards and denials.
+func TestTaken(t *testing.T) {
+	server := func(n string, l ...string) api.Signed {
+		s := signed(n, 2, 5)
+		for _, h := range l {
+			s.Set.Data = append(s.Set.Data, text(h))
+		}
+		return s
+	}
+	addr := func(n string) api.Signed { return signed(n, 1, 5, nums(1)) }
+	for i, c := range []struct {
+		zone string
+		x    api.Question
+		a    api.Answer
+		want []int
+	}{
+		{"w.x", q("t.w.x", 1), api.Answer{Kind: 4, Cut: "x", Sets: []api.Signed{server("x", "h.w.x"), addr("h.w.x")}}, nil},
+		{"w.x", q("t.w.x", 1), api.Answer{Kind: 4, Cut: "w.x", Sets: []api.Signed{server("w.x", "h.w.x"), addr("h.w.x"), signed("w.x", 8, 1, api.Datum{Text: "w.x", N: 2})}}, nil},
+		{".", q("t.w.x", 1), api.Answer{Kind: 4, Cut: "w.x", Sets: []api.Signed{server("x", "i.w.x"), server("w.x", "h.w.x", "o"), server("w.x", "i.w.x"), addr("h.w.x"), addr("o"), addr("i.w.x"), signed("h.w.x", 5, 1, text("t")), server("h.w.x", "o"), addr("w.x")}}, []int{1, 2, 3}},
+		{".", q("t.w.x", 1), api.Answer{Kind: 4, Cut: "w.x", Sets: []api.Signed{addr("h.w.x"), server("w.x", "h.w.x"), signed("w.x", 6, 1, nums(1, 1)), signed("w.x", 5, 1, text("t"))}}, []int{0, 1, 2}},
+		{".", q("t.w.x", 1), api.Answer{Kind: 4, Cut: "w.x", Sets: []api.Signed{addr("h.w.x")}}, nil},
+		{".", q("w.x", 5), api.Answer{Kind: 2, Sets: []api.Signed{signed("*.x", 1, 1, nums(1)), signed("*.w.x", 5, 1, text("t")), signed("*", 5, 1, text("t")), signed("w.x", 5, 1, text("t")), signed("*.y", 5, 1, text("t"))}}, []int{2}},
+		{".", q("w.x", 1), api.Answer{Kind: 5, Sets: []api.Signed{signed("y", 4, 1, nums(1)), signed("w.x", 4, 1, nums(1)), signed("a.w.x", 4, 1, nums(1)), addr("w.x")}}, []int{1}},
+		{"y", q("w.x", 1), api.Answer{Kind: 5, Sets: []api.Signed{signed("y", 8, 1, api.Datum{Text: "y", N: 2})}}, nil},
+		{".", q("w.x", 1), api.Answer{Kind: 3, Sets: []api.Signed{signed("w.x", 3, 1, text("a")), signed("x", 3, 1, text("a")), addr("w.x")}}, []int{0}},
+		{".", q("w.x", 1), api.Answer{Kind: 7, Sets: []api.Signed{addr("w.x"), signed("y", 8, 1, api.Datum{Text: "y", N: 2})}}, nil},
+	} {
+		var want []api.Signed
+		for _, k := range c.want {
+			want = append(want, c.a.Sets[k])
+		}
+		if l, e := validate.Filter(c.zone, c.x, c.a); e != api.OK || !value.SameSigneds(l, want) {
+			t.Error(i, l, e)
+		}
+	}
+}
