@@ -172,3 +172,94 @@ func check(t *testing.T, h api.History, y api.Transcript, after api.Cache) {
 		t.Error(y.Q, "is asked again", x.Result, len(x.Heard))
 	}
 }
+
+// P33.1: picks, and the edges of all arguments.
+func TestEdges(t *testing.T) {
+	h := sample.Tree()
+	for _, c := range []struct {
+		picks []int
+		addr  int
+	}{{nil, 1}, {[]int{0}, 1}, {[]int{1}, 2}, {[]int{2}, 1}, {[]int{1000000}, 1}, {[]int{999999}, 2}} {
+		x, _, e := run.Resolve(h, api.Cache{}, q("w.x", 1), 5, c.picks)
+		if e != api.OK || x.Heard[0].Addr != c.addr || x.Result.Kind != api.Secure {
+			t.Error(c, x.Heard, e)
+		}
+	}
+	x, _, _ := run.Resolve(h, api.Cache{}, q("w.x", 1), 5, []int{0, 0, 1})
+	if x.Heard[0].Addr != 1 || x.Heard[1].Addr != 3 || x.Heard[2].Addr != 2 {
+		t.Error(x.Heard)
+	}
+	for typ, want := range map[int]api.Errno{0: api.ErrArg, 1: api.OK, 8: api.OK, 9: api.ErrArg} {
+		_, _, e := run.Resolve(h, api.Cache{}, q("w.x", typ), 5, nil)
+		_, f := run.Warm(h, []api.Heard{{At: 5, Q: q("w.x", typ)}}, nil)
+		if e != want || f != want {
+			t.Error(typ, e, f)
+		}
+	}
+	for at, want := range map[int]api.Errno{-1: api.ErrArg, 0: api.OK, 99: api.OK, 100: api.ErrArg} {
+		_, _, e := run.Resolve(h, api.Cache{}, q("w.x", 1), at, nil)
+		_, f := run.Warm(h, []api.Heard{{At: at, Q: q("w.x", 1)}}, nil)
+		if e != want || f != want {
+			t.Error(at, e, f)
+		}
+	}
+	for n, want := range map[int]api.Errno{40: api.OK, 41: api.ErrArg} {
+		if _, _, e := run.Resolve(h, api.Cache{}, q("w.x", 1), 5, make([]int, n)); e != want {
+			t.Error(n, e)
+		}
+	}
+	for n, want := range map[int]api.Errno{100: api.OK, 101: api.ErrArg} {
+		if _, e := run.Warm(h, slices.Repeat([]api.Heard{{At: 5, Q: q("w.x", 1)}}, n), nil); e != want {
+			t.Error(n, e)
+		}
+	}
+	_, c, _ := run.Resolve(h, api.Cache{}, q("w.x", 1), 5, nil)
+	y, after, _ := run.Resolve(h, c, q("w.x", 1), 5, nil)
+	y.Cache.List[0].Signed.Set.Life = 77
+	y.Cache.List[0].Signed.Set.Data[0].N = 77
+	if after.List[0].Signed.Set.Life == 77 || c.List[0].Signed.Set.Data[0].N == 77 || after.List[0].Signed.Set.Data[0].N == 77 {
+		t.Error("shared memory")
+	}
+}
+
+// P33.1: after 40 addresses it is dark.
+func TestHops(t *testing.T) {
+	h := api.History{Anchor: sample.Signed(".", 6, 5, sample.Nums(1, 1)).Set, Hints: []int{1}, End: 60}
+	root := sample.Bare(".", 1, "a")
+	for i := range 8 {
+		h.Hosts = append(h.Hosts, api.Host{Name: "a", Addr: i + 1})
+		root = sample.With(root, sample.Signed("a", 1, 10, sample.Nums(1), sample.Nums(2), sample.Nums(3), sample.Nums(4), sample.Nums(5), sample.Nums(6), sample.Nums(7), sample.Nums(8)))
+	}
+	long := sample.Sealed(root, 0, 900, 1)
+	for host := range 8 {
+		h.Copies = append(h.Copies, api.Copy{Host: host, Until: 60, Zone: long})
+	}
+	names := []string{"h", "g", "f", "e", "d", "c", "b", "a"}
+	n := ""
+	var zones []string
+	for _, l := range names[:7] {
+		n = sample.Below(l, map[bool]string{true: ".", false: n}[n == ""])
+		zones = append(zones, n)
+	}
+	for i := len(zones) - 1; i >= 0; i-- {
+		z := sample.Bare(zones[i], 1, "a")
+		if i+1 < len(zones) {
+			z = sample.With(z, sample.Signed(zones[i+1], 2, 10, sample.Text("a")), sample.Signed(zones[i+1], 6, 10, sample.Nums(i+3, 1)))
+		} else {
+			z = sample.With(z, sample.Signed("t."+zones[i], 5, 10, sample.Text("t")))
+		}
+		h.Copies = append(h.Copies, api.Copy{Host: i % 8, Until: 60, Zone: sample.Sealed(z, 0, 900, i+2)})
+	}
+	root = sample.With(root, sample.Signed(zones[0], 2, 10, sample.Text("a")), sample.Signed(zones[0], 6, 10, sample.Nums(2, 1)))
+	for host := range 8 {
+		h.Copies[host].Zone = sample.Sealed(root, 0, 900, 1)
+	}
+	picks := slices.Repeat([]int{7, 6, 5, 4}, 10)
+	x, _, e := run.Resolve(h, api.Cache{}, q("t."+zones[6], 5), 5, picks)
+	if e != api.OK || len(x.Heard) > 40 || x.Result.Kind == api.Bogus || x.Result.Kind == api.Missing && len(x.Heard) != 40 {
+		t.Error(x.Result, len(x.Heard), e)
+	}
+	if v, e := transcript.Replay(x, h.Anchor, h.Hints, h.Drift); e != api.OK || v.Kind != x.Result.Kind {
+		t.Error(v, e)
+	}
+}

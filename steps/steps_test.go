@@ -187,3 +187,72 @@ func same(a, b api.World) bool {
 	}
 	return len(a.Zones) == len(b.Zones)
 }
+
+// P35.1: just as many Puts, copies and zones as there may be, and memory of its own.
+func TestEdges(t *testing.T) {
+	h := example()
+	name := func(i int) string { return "z" + string([]byte{byte('a' + i/26), byte('a' + i%26)}) }
+	var puts, stops []api.Placed
+	for i := range 501 {
+		puts = append(puts, put(1, sample.Bare(name(i), 1, "h")))
+		stops = append(stops, stop(1, name(i)))
+	}
+	w, _ := history.At(h, 0)
+	for n, want := range map[int]api.Errno{499: api.OK, 500: api.ErrLimit, 501: api.ErrArg} {
+		_, e := steps.Apply(h, []api.Step{step(5, puts[:n]...)})
+		_, f := steps.World(w, api.Stage{Puts: puts[:n]})
+		if e != want || f != want {
+			t.Error(n, e, f)
+		}
+	}
+	for n, want := range map[int]api.Errno{500: api.OK, 501: api.ErrArg} {
+		_, e := steps.Apply(h, []api.Step{step(5, stops[:n]...)})
+		_, f := steps.World(w, api.Stage{Puts: stops[:n]})
+		_, g := steps.Owners(h, step(5, stops[:n]...))
+		if e != want || f != want || g != want {
+			t.Error(n, e, f, g)
+		}
+	}
+	wide := w
+	wide.Hosts = slices.Clone(w.Hosts)
+	for i := range 5 {
+		wide.Hosts = append(wide.Hosts, api.Host{Name: "c", Addr: 50 + i})
+	}
+	wide.Zones = nil
+	for host := range 8 {
+		for i := range 499 {
+			wide.Zones = append(wide.Zones, api.Placed{Host: host, Zone: puts[i].Zone})
+		}
+	}
+	for n, want := range map[int]api.Errno{8: api.OK, 9: api.ErrLimit} {
+		var l []api.Placed
+		for i := range n {
+			l = append(l, put(8, puts[i].Zone))
+		}
+		if _, e := steps.World(wide, api.Stage{Puts: l}); e != want {
+			t.Error(n, e)
+		}
+	}
+	long := example()
+	long.Hosts, long.Copies = wide.Hosts, nil
+	for _, p := range wide.Zones {
+		long.Copies = append(long.Copies, api.Copy{Host: p.Host, Until: 100, Zone: p.Zone})
+	}
+	for n, want := range map[int]api.Errno{8: api.OK, 9: api.ErrLimit} {
+		var l []api.Placed
+		for i := range n {
+			l = append(l, put(8, puts[i].Zone))
+		}
+		if _, e := steps.Apply(long, []api.Step{step(5, l...)}); e != want {
+			t.Error(n, e)
+		}
+	}
+	x, _ := steps.Apply(h, []api.Step{step(40, puts[0])})
+	y, _ := steps.World(w, api.Stage{Puts: puts[:1]})
+	x.Hosts[0].Owner, x.Hints[0], x.Anchor.Data[0].N = 9, 9, 9
+	x.Copies[0].Zone.Sets[0].Set.Data[0].Text, x.Copies[1].Zone.Sets[0].Set.Data[0].Text = "q", "q"
+	y.Hosts[0].Owner, y.Hints[0], y.Anchor.Data[0].N = 9, 9, 9
+	if h.Hosts[0].Owner == 9 || h.Hints[0] == 9 || h.Anchor.Data[0].N == 9 || h.Copies[0].Zone.Sets[0].Set.Data[0].Text == "q" || puts[0].Zone.Sets[0].Set.Data[0].Text == "q" || w.Hosts[0].Owner == 9 || w.Hints[0] == 9 || w.Anchor.Data[0].N == 9 || y.Zones[1].Zone.Sets[0].Set.Data[0].Text == "q" {
+		t.Error("shared memory")
+	}
+}

@@ -267,3 +267,151 @@ func TestKept(t *testing.T) {
 		}
 	}
 }
+
+// done returns the world behind all stages of a wish.
+func done(t *testing.T, x api.Wish) api.World {
+	w := tree()
+	l, e := wish.Stages(w, x, 0, 20000000)
+	for _, s := range l {
+		w, e = steps.World(w, s)
+	}
+	if ok, f := wish.Done(w, x); e != api.OK || f != api.OK || !ok {
+		t.Fatal(e, f)
+	}
+	return w
+}
+
+// P34.1: each part of being fulfilled, by itself.
+func TestParts(t *testing.T) {
+	edit := func(w api.World, host int, apex string, f func(z api.Zone) api.Zone) api.World {
+		w.Zones = slices.Clone(w.Zones)
+		for i, p := range w.Zones {
+			if p.Zone.Apex == apex && (host < 0 || p.Host == host) {
+				w.Zones[i].Zone = f(p.Zone)
+			}
+		}
+		return w
+	}
+	add := func(host int) func(w api.World, apex string) api.World {
+		return func(w api.World, apex string) api.World {
+			for _, p := range w.Zones {
+				if p.Zone.Apex == apex {
+					w.Zones = append(slices.Clone(w.Zones), api.Placed{Host: host, Zone: p.Zone})
+					break
+				}
+			}
+			return w
+		}
+	}
+	without := func(w api.World, apex string) api.World {
+		w.Zones = slices.DeleteFunc(slices.Clone(w.Zones), func(p api.Placed) bool { return p.Zone.Apex == apex })
+		return w
+	}
+	put := func(s api.Signed) func(z api.Zone) api.Zone {
+		return func(z api.Zone) api.Zone { return sample.With(z, s) }
+	}
+	m, k, a, s := done(t, move), done(t, keys), done(t, addr), done(t, split)
+	for i, c := range []struct {
+		w api.World
+		x api.Wish
+	}{
+		{add(1)(m, "x"), move}, {edit(m, -1, "x", put(signed("x", 2, 10, text("h.x")))), move}, {edit(m, -1, ".", put(signed("x", 2, 10, text("h.x")))), move}, {without(m, "x"), move}, {without(m, "."), move},
+		{edit(k, 2, "x", put(signed("x", 7, 10, nums(2, 1)))), keys}, {edit(k, 3, "x", put(signed("x", 7, 10, nums(8, 1), nums(9, 1)))), keys}, {edit(k, -1, ".", put(signed("x", 6, 10, nums(2, 1)))), keys}, {without(k, "x"), keys}, {without(k, "."), keys},
+		{edit(a, 0, ".", put(signed("h.x", 1, 10, nums(3)))), addr}, {edit(a, -1, "x", put(signed("h.x", 1, 10, nums(3), nums(5)))), addr}, {without(without(a, "."), "x"), addr},
+		{add(1)(s, "w.x"), split}, {edit(s, -1, "w.x", put(signed("w.x", 7, 10, nums(9, 1)))), split}, {edit(s, -1, "x", put(signed("w.x", 2, 10, text("h.y")))), split}, {edit(s, -1, "x", put(signed("w.x", 6, 10, nums(9, 1)))), split}, {without(s, "w.x"), split}, {without(s, "x"), split},
+	} {
+		if !world.Valid(c.w) {
+			t.Fatal(i, "not valid")
+		}
+		if ok, e := wish.Done(c.w, c.x); ok || e != api.OK {
+			t.Error(i, ok, e)
+		}
+	}
+	for i, x := range []api.Wish{move, keys, addr, split} {
+		if ok, e := wish.Done(api.World{}, x); ok || e != api.ErrArg || wish.Valid(api.World{}, x) {
+			t.Error(i, ok, e)
+		}
+		x.Kind += 4
+		if ok, e := wish.Done(tree(), x); x.Kind > 4 && (ok || e != api.ErrArg) {
+			t.Error(i, ok, e)
+		}
+	}
+	turned := move
+	turned.Hosts = []int{2, 0}
+	if ok, e := wish.Done(m, turned); !ok || e != api.OK {
+		t.Error(ok, e)
+	}
+}
+
+// P34.1: the numbers of hosts, undelegated zones, and addresses of several hosts.
+func TestEdges(t *testing.T) {
+	w := tree()
+	for i := range 6 {
+		w.Hosts = append(w.Hosts, api.Host{Name: "n" + string([]byte{byte('a' + i)}), Addr: 20 + i})
+	}
+	all := []int{0, 1, 2, 3, 4, 5, 6, 7, 8, 9}
+	for n, good := range map[int]bool{0: false, 1: true, 8: true, 9: false} {
+		x := move
+		x.Hosts = all[:n]
+		_, e := wish.Done(w, x)
+		if wish.Valid(w, x) != good || (e == api.OK) != good {
+			t.Error(n, e)
+		}
+	}
+	two := addr
+	two.Hosts = []int{0, 1}
+	if wish.Valid(w, two) {
+		t.Error("two hosts")
+	}
+	lone := w
+	lone.Zones = append(slices.Clone(w.Zones), api.Placed{Host: 0, Zone: sample.Bare("q.x", 1, "a.ns")})
+	x := split
+	x.Name = "q.x"
+	if wish.Valid(lone, x) || !wish.Valid(w, x) {
+		t.Error("a name that is an apex")
+	}
+	last := w
+	last.Hosts = slices.Clone(w.Hosts)
+	last.Hosts[9].Name = "a.ns"
+	x = move
+	x.Hosts = []int{0, 9}
+	if wish.Valid(last, x) || !wish.Valid(w, x) {
+		t.Error("two hosts with one name")
+	}
+	// the host h.x has two addresses, that of host 2 and that of host 3; the new host serves x already
+	both := tree()
+	for i, p := range both.Zones {
+		both.Zones[i].Zone = sample.With(p.Zone)
+		if s, ok, _ := zone.Find(p.Zone, q("h.x", 1)); ok {
+			s.Sigs = nil
+			s.Set.Data = []api.Datum{nums(3), nums(4), nums(5)}
+			both.Zones[i].Zone = sample.With(p.Zone, s)
+		}
+	}
+	l, e := wish.Stages(both, api.Wish{Kind: 3, Zone: "x", Name: "h.x", Hosts: []int{4}}, 0, 5)
+	if e != api.OK || len(l) != 3 || !reflect.DeepEqual(brief(l[0]), []put{{4, "x", false}}) || !reflect.DeepEqual(brief(l[2]), []put{{2, "x", true}, {3, "x", true}}) {
+		t.Error(l, e)
+	}
+	l, e = wish.Stages(both, api.Wish{Kind: 3, Zone: "x", Name: "h.x", Hosts: []int{3}}, 0, 5)
+	if e != api.OK || len(l) != 3 || !reflect.DeepEqual(brief(l[0]), []put{{3, "y.x", false}}) || !reflect.DeepEqual(brief(l[2]), []put{{2, "x", true}, {4, "y.x", true}}) {
+		t.Error(len(l), e)
+	}
+	for until, want := range map[int]api.Errno{-1: api.ErrArg, 0: api.OK, 20000000: api.OK, 20000001: api.ErrArg} {
+		if _, e := wish.Stages(w, move, 0, until); e != want {
+			t.Error(until, e)
+		}
+	}
+	if _, e := wish.Stages(w, move, 5, 5); e != api.OK {
+		t.Error(e)
+	}
+	low := keys
+	low.Key = key(1)
+	l, e = wish.Stages(w, low, 0, 5)
+	if e != api.OK || !slices.Equal(find(t, l[0].Puts[0].Zone, q("x", 7)).Set.Data, []api.Datum{nums(1, 1), nums(2, 1)}) {
+		t.Error(e)
+	}
+	l[0].Puts[0].Zone.Sets[0].Set.Data[0].N = 99
+	if l[0].Puts[1].Zone.Sets[0].Set.Data[0].N == 99 || w.Zones[4].Zone.Sets[0].Set.Data[0].N == 99 {
+		t.Error("shared memory")
+	}
+}
