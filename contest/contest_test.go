@@ -13,6 +13,7 @@ import (
 	"nameplan/sample"
 	"nameplan/steps"
 	"nameplan/value"
+	"nameplan/waits"
 )
 
 func put(host int, apex string) api.Placed {
@@ -199,5 +200,75 @@ func TestOrder(t *testing.T) {
 	}
 	if n, ok, e := contest.Order(h, a, b, asked, d-1); ok || n != 0 || e != api.OK {
 		t.Error(n, ok, e)
+	}
+}
+
+// P41.1, P41.6: the least delay, by a reference, and the edges of the limit.
+func TestReference(t *testing.T) {
+	h := sample.Plain()
+	asked := []api.Question{{Name: "w.x", Type: 1}, {Name: "w.y", Type: 1}}
+	a, e := plan.Plan(h, api.Wish{Kind: 2, Zone: "x", Key: api.Key{N: 8, Alg: 1}}, asked, 5, 90)
+	if e != api.OK {
+		t.Fatal(e)
+	}
+	last := a[2].Stage.Puts[0].Zone
+	first, _ := steps.Apply(h, a)
+	moments, _ := waits.Moments(first)
+	for i, b := range [][]api.Step{
+		{step(6, api.Placed{Host: 2, Zone: last})}, {step(2, api.Placed{Host: 3, Zone: h.Copies[2].Zone}), step(9, api.Placed{Host: 2, Zone: last})}, {step(30, api.Placed{Host: 2, Zone: last})}, {step(150, api.Placed{Host: 2, Zone: h.Copies[1].Zone})}, {step(0, api.Placed{Host: 2, Zone: h.Copies[2].Zone})}, nil, {step(6, api.Placed{Host: 2, Zone: last}), step(180, api.Placed{Host: 2, Zone: api.Zone{Apex: "x"}})}, {step(6, api.Placed{Host: 2, Zone: last}), step(160, api.Placed{Host: 2, Zone: api.Zone{Apex: "x"}})},
+	} {
+		safe := func(d int) bool {
+			var late []api.Step
+			for _, s := range b {
+				late = append(late, step(s.At+d, s.Stage.Puts...))
+			}
+			m, _ := contest.Merge(h, a, late)
+			next, _ := steps.Apply(h, m)
+			_, ok, _ := prove.Prove(next, asked, m[0].At, h.End)
+			return ok
+		}
+		want, found := 0, false
+		for d := 0; d <= 200 && !found; d++ {
+			looked := d == 0
+			for _, s := range b {
+				for _, m := range moments {
+					looked = looked || d == m-s.At || d == m+1-s.At
+				}
+			}
+			if looked && (d == 0 || b[len(b)-1].At+d < h.End) && safe(d) {
+				want, found = d, true
+			}
+		}
+		d, ok, e := contest.Order(h, a, b, asked, 200)
+		if e != api.OK || ok != found || d != want {
+			t.Error(i, d, ok, want, found, e)
+		}
+		if found {
+			if d, ok, e := contest.Order(h, a, b, asked, want); e != api.OK || !ok || d != want {
+				t.Error(i, d, ok, e)
+			}
+		}
+	}
+	for limit, want := range map[int]api.Errno{-1: api.ErrArg, 0: api.OK, 200: api.OK, 201: api.ErrArg} {
+		if _, _, e := contest.Order(h, a, nil, asked, limit); e != want {
+			t.Error(limit, e)
+		}
+	}
+	if d, ok, e := contest.Order(h, nil, nil, asked, 5); e != api.OK || ok || d != 0 {
+		t.Error("the window at 0", d, ok, e)
+	}
+	calm := h
+	calm.Drift = 0
+	if d, ok, e := contest.Order(calm, nil, nil, asked, 5); e != api.OK || !ok || d != 0 {
+		t.Error(d, ok, e)
+	}
+	m, _ := contest.Merge(h, a, []api.Step{step(a[0].At, put(3, "y"))})
+	m[0].Stage.Puts[0].Zone.Sets[0].Set.Data[0].N = 99
+	m[0].Stage.Puts[len(m[0].Stage.Puts)-1].Zone.Sets[0].Set.Data[0].N = 99
+	if a[0].Stage.Puts[0].Zone.Sets[0].Set.Data[0].N == 99 {
+		t.Error("shared memory")
+	}
+	if _, _, e := contest.Order(h, a, nil, []api.Question{{Name: "w.x", Type: 9}}, 5); e != api.ErrArg {
+		t.Error(e)
 	}
 }

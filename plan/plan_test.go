@@ -124,3 +124,37 @@ func TestErrors(t *testing.T) {
 		}
 	}
 }
+
+// P39.1: the edges of times and questions, and which error comes first.
+func TestEdges(t *testing.T) {
+	h := sample.Plain()
+	none := api.Wish{Kind: 3, Zone: "x", Name: "q.x", Hosts: []int{1}}
+	fifty := slices.Repeat(asked, 25)
+	for i, c := range []struct {
+		x           api.Wish
+		l           []api.Question
+		from, limit int
+		e           api.Errno
+	}{
+		{none, asked, 5, 50, api.ErrNone}, {none, asked, 0, 0, api.ErrNone}, {none, asked, 5, 5, api.ErrNone}, {none, asked, 5, 199, api.ErrNone}, {none, asked, 5, 200, api.ErrArg}, {none, asked, 5, 4, api.ErrArg}, {none, asked, -1, 4, api.ErrArg}, {none, fifty, 5, 50, api.ErrNone}, {none, append(fifty, asked[0]), 5, 50, api.ErrArg},
+		{none, []api.Question{q("x", 0)}, 5, 50, api.ErrArg}, {none, []api.Question{q("x", 9)}, 5, 50, api.ErrArg}, {none, []api.Question{q("x", 8)}, 5, 50, api.ErrNone}, {none, []api.Question{asked[0], q("X", 1)}, 5, 50, api.ErrArg},
+	} {
+		l, e := plan.Plan(h, c.x, c.l, c.from, c.limit)
+		n, x, f := plan.Refuse(h, c.x, c.l, c.from, c.limit)
+		if e != c.e || f != c.e || len(l) > 0 || n != 0 || x.Kind != 0 {
+			t.Error(i, e, f)
+		}
+	}
+	// the last stage at just the limit, and one before it
+	x := wishes[1]
+	l, _ := plan.Plan(h, x, asked, 5, 180)
+	if again, e := plan.Plan(h, x, asked, 5, l[2].At); e != api.OK || !reflect.DeepEqual(again, l) {
+		t.Error(e)
+	}
+	if n, c, e := plan.Refuse(h, x, asked, 5, l[2].At-1); e != api.OK || n != 2 || c.Kind == 0 || c.Span.From != l[1].At+1 {
+		t.Error(n, c, e)
+	}
+	if n, c, e := plan.Refuse(h, x, asked, 5, l[1].At); e != api.OK || n != 2 || c.Kind != 0 {
+		t.Error(n, c, e)
+	}
+}

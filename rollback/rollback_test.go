@@ -161,3 +161,40 @@ func TestErrors(t *testing.T) {
 		}
 	}
 }
+
+// P40.1: the edges of times and questions, and stages that cannot be taken back.
+func TestEdges(t *testing.T) {
+	h := sample.Plain()
+	l, _ := plan.Plan(h, api.Wish{Kind: 2, Zone: "x", Key: api.Key{N: 8, Alg: 1}}, asked, 5, 80)
+	fifty := slices.Repeat(asked, 25)
+	for i, c := range []struct {
+		done, from, limit int
+		asked             []api.Question
+		e                 api.Errno
+	}{
+		{0, 0, 0, nil, api.OK}, {0, 0, 199, nil, api.OK}, {0, 0, 200, nil, api.ErrArg}, {0, 5, 4, nil, api.ErrArg}, {0, -1, 4, nil, api.ErrArg}, {0, 0, 9, fifty, api.OK}, {0, 0, 9, append(fifty, asked[0]), api.ErrArg}, {0, 0, 9, []api.Question{q("x", 8)}, api.OK}, {0, 0, 9, []api.Question{q("x", 9)}, api.ErrArg}, {0, 0, 9, []api.Question{q("x", 0)}, api.ErrArg}, {0, 0, 9, []api.Question{asked[0], q("X", 1)}, api.ErrArg},
+		{1, l[0].At, 199, asked, api.ErrArg}, {1, l[0].At + 1, 199, asked, api.OK}, {1, l[0].At + 1, l[0].At + 1, asked, api.OK}, {3, l[2].At + 1, 199, asked, api.OK},
+	} {
+		b, e := rollback.Back(h, l, c.done, c.from, c.limit, c.asked)
+		if e != c.e || e == api.OK && len(b) != c.done {
+			t.Error(i, len(b), e)
+		}
+	}
+	b, _ := rollback.Back(h, l, 3, l[2].At+1, 199, asked)
+	if again, e := rollback.Back(h, l, 3, l[2].At+1, b[2].At, asked); e != api.OK || !reflect.DeepEqual(again, b) {
+		t.Error(e)
+	}
+	for _, limit := range []int{b[2].At - 1, b[1].At, b[1].At - 1, b[0].At} {
+		if again, e := rollback.Back(h, l, 3, l[2].At+1, limit, asked); limit > l[2].At && (e != api.ErrLate || len(again) > 0) {
+			t.Error(limit, e)
+		}
+	}
+	// a name that the schedule made, and is protected, cannot be taken back
+	made := []api.Step{{At: 10, Stage: api.Stage{Puts: []api.Placed{{Host: 1, Zone: sample.Sealed(sample.Numbered(sample.With(h.Copies[1].Zone, sample.Signed("n.x", 1, 10, sample.Nums(1))), 2), 0, 20000000, 2)}}}}}
+	if b, e := rollback.Back(h, made, 1, 30, 190, []api.Question{q("n.x", 1)}); e != api.ErrLate || len(b) > 0 {
+		t.Error(e)
+	}
+	if b, e := rollback.Back(h, made, 1, 30, 190, asked); e != api.OK || len(b) != 1 || b[0].At != 30 {
+		t.Error(b, e)
+	}
+}

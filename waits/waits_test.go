@@ -174,3 +174,79 @@ func TestEarliest(t *testing.T) {
 		}
 	}
 }
+
+// P38.1: moments beyond the end, and the times that are looked at, by a reference.
+func TestReference(t *testing.T) {
+	z := sample.With(sample.Bare("x", 1, "h"), sample.Signed("w.x", 1, 10, sample.Nums(7)))
+	z.Sets[2].Sigs = []api.Sig{{Zone: "x", Key: 1, Alg: 1, From: 3, Until: 43}}
+	h := api.History{Hosts: sample.Hosts(), Copies: []api.Copy{{From: 1, Until: 45, Zone: z}}, Anchor: sample.Signed(".", 6, 5, sample.Nums(1, 1)).Set, Hints: []int{1}, Drift: 4, End: 48}
+	if l, e := waits.Moments(h); e != api.OK || !slices.Equal(l, []int{1, 7, 40, 45, 48}) {
+		t.Error(l, e)
+	}
+	plain := sample.Plain()
+	asked := []api.Question{q("w.x", 1), q("w.y", 1)}
+	for i, x := range []api.Wish{{Kind: 2, Zone: "x", Key: api.Key{N: 8, Alg: 1}}, {Kind: 1, Zone: "y", Hosts: []int{2}}, {Kind: 4, Zone: "x", Name: "w.x", Hosts: []int{2}, Key: api.Key{N: 9, Alg: 1}}} {
+		h := plain
+		stages := stagesOf(t, h, x)
+		for k := range stages {
+			for _, from := range []int{0, 3, 30, 190} {
+				compare(t, h, stages[k], asked, from, i, k)
+			}
+			h, _ = steps.Apply(h, []api.Step{{At: 20 + 13*k, Stage: stages[k]}})
+		}
+	}
+}
+
+// compare compares Earliest with all times that are looked at.
+func compare(t *testing.T, h api.History, s api.Stage, asked []api.Question, from, i, k int) {
+	now, _ := waits.Moments(h)
+	next, _ := steps.Apply(h, []api.Step{{At: from, Stage: s}})
+	then, _ := waits.Moments(next)
+	want, found := 0, false
+	for at := from; at < h.End && !found; at++ {
+		looked := at == from
+		for _, m := range slices.Concat(now, then) {
+			looked = looked || at == m || at == m+1
+		}
+		if !looked {
+			continue
+		}
+		made, _ := steps.Apply(h, []api.Step{{At: at, Stage: s}})
+		if _, ok, _ := prove.Prove(made, asked, at, h.End); ok {
+			want, found = at, true
+		}
+	}
+	got, ok, e := waits.Earliest(h, s, asked, from, h.End-1)
+	if e != api.OK || ok != found || got != want {
+		t.Error(i, k, from, got, ok, want, found, e)
+	}
+	if found {
+		got, ok, e = waits.Earliest(h, s, asked, from, want)
+		if e != api.OK || !ok || got != want {
+			t.Error(i, k, from, got, e)
+		}
+		if want > from {
+			if got, ok, e := waits.Earliest(h, s, asked, from, want-1); e != api.OK || ok || got != 0 {
+				t.Error(i, k, from, got, e)
+			}
+		}
+	}
+}
+
+// P38.1: too many sets, and questions that are wrong only for the proof.
+func TestLimits(t *testing.T) {
+	h := sample.Plain()
+	for k := range 3 {
+		z := sample.Bare("q", k+2, "s")
+		for i := range 6700 {
+			z.Sets = append(z.Sets, sample.Signed("n"+string([]byte{'a' + byte(i/676), 'a' + byte(i/26%26), 'a' + byte(i%26)})+".q", 1, k, sample.Nums(1)))
+		}
+		h.Copies = append(h.Copies, api.Copy{Host: k, Until: 20, Zone: z})
+	}
+	_, e := waits.Moments(h)
+	n, f := waits.Longest(h, "q", 5)
+	_, ok, g := waits.Earliest(h, api.Stage{}, nil, 5, 9)
+	if e != api.ErrLimit || f != api.ErrLimit || n != 0 || g != api.ErrLimit || ok {
+		t.Error(e, f, g)
+	}
+}
