@@ -9,6 +9,7 @@ import (
 	"nameplan/court"
 	"nameplan/evidence"
 	"nameplan/plan"
+	"nameplan/prove"
 	"nameplan/run"
 	"nameplan/sample"
 )
@@ -206,4 +207,94 @@ func TestErrors(t *testing.T) {
 	if j, err := court.Judge(many, asked); err != api.ErrLimit || j.Kind != 0 {
 		t.Error(err)
 	}
+}
+
+// P44.1: the order of departures, what is shown, and the edges of questions.
+func TestMore(t *testing.T) {
+	h := sample.Plain()
+	h.Drift = 0
+	z := func(apex string, n int) api.Zone { return sample.Bare(apex, n, "s") }
+	s := []api.Step{{At: 20, Stage: api.Stage{Puts: []api.Placed{{Host: 3, Zone: z("q", 1)}, {Host: 2, Zone: z("v", 1)}, {Host: 2, Zone: z("q", 1)}}}}, {At: 40, Stage: api.Stage{Puts: []api.Placed{{Host: 3, Zone: z("v", 1)}}}}}
+	claim := func(host, at int, x api.Zone) api.Claim { return api.Claim{Host: host, At: at, Zone: x} }
+	full := claims(s)
+	for i, c := range []struct {
+		l    []api.Claim
+		want api.Judgement
+		apex string
+		n    int
+	}{
+		{full, api.Judgement{}, "", 0},
+		{full[1:], api.Judgement{Kind: 1, Who: 3, Step: 0, At: 20}, "q", 1}, {nil, api.Judgement{Kind: 1, Who: 2, Step: 0, At: 20}, "q", 1}, {full[:3], api.Judgement{Kind: 1, Who: 3, Step: 1, At: 40}, "v", 1},
+		{[]api.Claim{full[0], claim(2, 20, z("v", 9)), full[2], full[3]}, api.Judgement{Kind: 1, Who: 2, Step: 0, At: 20}, "v", 1},
+		{[]api.Claim{claim(0, 20, z("v", 9)), full[0], full[1], full[2], full[3]}, api.Judgement{Kind: 1, Who: 0, Step: 0, At: 20}, "v", 9},
+		{[]api.Claim{full[0], full[1], full[2], claim(1, 30, z("k", 4)), full[3]}, api.Judgement{Kind: 1, Who: 1, Step: 1, At: 30}, "k", 4},
+		{[]api.Claim{full[0], full[1], full[2], claim(1, 30, api.Zone{Apex: "k"}), full[3]}, api.Judgement{Kind: 1, Who: 1, Step: 1, At: 30}, "", 0},
+		{[]api.Claim{claim(1, 3, z("k", 4)), full[0], full[1], full[2], full[3]}, api.Judgement{Kind: 1, Who: 1, Step: 0, At: 3}, "k", 4},
+		{[]api.Claim{full[0], full[1], claim(2, 21, z("q", 1)), full[3]}, api.Judgement{Kind: 1, Who: 2, Step: 0, At: 20}, "q", 1},
+	} {
+		e := api.Evidence{Before: h, Steps: s, Claims: c.l}
+		j, err := court.Judge(e, nil)
+		show := j.Show
+		j.Show = api.Signed{}
+		if err != api.OK || !reflect.DeepEqual(j, c.want) || show.Set.Name != c.apex || c.apex != "" && (show.Set.Type != 4 || show.Set.Data[0].N != c.n) {
+			t.Error(i, j, show, err)
+		}
+	}
+	e := api.Evidence{Before: h, Steps: s, Claims: full}
+	fifty := slices.Repeat(asked, 25)
+	for i, c := range []struct {
+		l    []api.Question
+		want api.Errno
+	}{{fifty, api.OK}, {append(fifty, asked[0]), api.ErrArg}, {[]api.Question{q("w.x", 0)}, api.ErrArg}, {[]api.Question{q("w.x", 9)}, api.ErrArg}, {[]api.Question{q("x", 8)}, api.OK}, {[]api.Question{asked[0], q("X", 1)}, api.ErrArg}} {
+		if _, err := court.Judge(e, c.l); err != c.want {
+			t.Error(i, err)
+		}
+	}
+	crowd := e
+	crowd.Before.End, crowd.Claims = 1000, nil
+	for i := range 401 {
+		crowd.Claims = append(crowd.Claims, claim(0, i, api.Zone{Apex: "q"}))
+	}
+	if _, err := court.Judge(crowd, []api.Question{q("w.x", 9)}); err != api.ErrArg {
+		t.Error(err)
+	}
+	if _, err := court.Judge(crowd, append(fifty, asked[0])); err != api.ErrArg {
+		t.Error(err)
+	}
+}
+
+// P44.1: what a schedule that is not safe shows, from the first step on, or from 0.
+func TestShow(t *testing.T) {
+	h := sample.Plain()
+	j, err := court.Judge(api.Evidence{Before: h}, asked)
+	if err != api.OK || j.Kind != api.GuiltPlan || j.At != 0 || len(j.Show.Set.Data) == 0 || len(j.Show.Sigs) == 0 {
+		t.Error(j, err)
+	}
+	later := api.Evidence{Before: h, Steps: []api.Step{{At: 7}}}
+	if j, err := court.Judge(later, asked); err != api.OK || j.Kind != api.GuiltNone {
+		t.Error(j, err)
+	}
+	stop := api.Evidence{Before: h, Steps: []api.Step{{At: 7, Stage: api.Stage{Puts: []api.Placed{{Host: 1, Zone: api.Zone{Apex: "x"}}}}}}}
+	x, _, e := prove.Prove(planned(t, stop), asked, 7, h.End)
+	j, err = court.Judge(stop, asked)
+	if e != api.OK || err != api.OK || j.Kind != api.GuiltPlan || j.At != x.Span.From || len(x.Two.Set.Data) > 0 || j.Show.Set.Name != x.One.Set.Name || j.Show.Set.Type != x.One.Set.Type {
+		t.Error(j, x, err)
+	}
+	rolled := api.Evidence{Before: sample.Rolled()}
+	j, err = court.Judge(rolled, []api.Question{q("x", 4)})
+	if err != api.OK || j.Kind != api.GuiltPlan || j.At != 50 || j.Show.Set.Type != 7 || j.Show.Set.Data[0].N != 4 {
+		t.Error(j, err)
+	}
+	j.Show.Set.Data[0].N = 99
+	if again, _ := court.Judge(rolled, []api.Question{q("x", 4)}); again.Show.Set.Data[0].N != 4 {
+		t.Error("shared memory")
+	}
+}
+
+func planned(t *testing.T, e api.Evidence) api.History {
+	h, err := evidence.Planned(e)
+	if err != api.OK {
+		t.Fatal(err)
+	}
+	return h
 }

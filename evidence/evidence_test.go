@@ -183,3 +183,96 @@ func TestHeard(t *testing.T) {
 		}
 	}
 }
+
+// P43.1: the edges of claims, transcripts and what was heard.
+func TestEdges(t *testing.T) {
+	e := example()
+	fine := api.Transcript{Q: q("x", 1), Result: api.Verdict{Kind: 2}}
+	for n, want := range map[int]bool{100: true, 101: false} {
+		e.Transcripts = slices.Repeat([]api.Transcript{fine}, n)
+		if evidence.Valid(e) != want {
+			t.Error(n)
+		}
+	}
+	e.Transcripts = nil
+	for n, want := range map[int]bool{4000: true, 4001: false} {
+		e.Claims = nil
+		for i := range n {
+			e.Claims = append(e.Claims, api.Claim{Host: i % 4, At: i / 100, Zone: api.Zone{Apex: "z" + string([]byte{byte('a' + i%100/4)})}})
+		}
+		if evidence.Valid(e) != want {
+			t.Error(n)
+		}
+	}
+	for n, want := range map[int]api.Errno{500: api.OK, 501: api.ErrLimit} {
+		e.Claims = nil
+		for i := range n {
+			e.Claims = append(e.Claims, api.Claim{Host: 0, At: 5, Zone: api.Zone{Apex: "z" + string([]byte{byte('a' + i/26), byte('a' + i%26)})}})
+		}
+		if _, f := evidence.Claimed(e); f != want {
+			t.Error(n, f)
+		}
+	}
+	for at, want := range map[int]bool{-1: false, 0: true, 199: true, 200: false} {
+		e.Claims = []api.Claim{{Host: 3, At: at, Zone: api.Zone{Apex: "z"}}}
+		if evidence.Valid(e) != want {
+			t.Error(at)
+		}
+	}
+	for i, z := range []api.Zone{{}, {Apex: "*.z"}, {Apex: "z", Sets: sample.Bare("z", 1, "s").Sets[:1]}} {
+		e.Claims = []api.Claim{{Host: 3, At: 5, Zone: z}}
+		if evidence.Valid(e) {
+			t.Error(i)
+		}
+	}
+	h := example().Before
+	for addr, want := range map[int]api.Errno{0: api.ErrArg, 1: api.OK, 1000000: api.OK, 1000001: api.ErrArg} {
+		if _, f := evidence.Heard(h, api.Heard{At: 5, Addr: addr, Q: q("x", 1), Answer: api.Answer{Kind: 7}}); f != want {
+			t.Error(addr, f)
+		}
+	}
+	for at, want := range map[int]api.Errno{-1: api.ErrArg, 0: api.OK, 10000000: api.OK, 10000001: api.ErrArg} {
+		if _, f := evidence.Heard(h, api.Heard{At: at, Addr: 1, Q: q("x", 1)}); f != want {
+			t.Error(at, f)
+		}
+	}
+	for i, a := range []api.Answer{{Sets: []api.Signed{sample.Signed("x", 1, 5, sample.Nums(1))}}, {Cut: "x"}, {Kind: 8}} {
+		if _, f := evidence.Heard(h, api.Heard{At: 5, Addr: 1, Q: q("x", 1), Answer: a}); f != api.ErrArg {
+			t.Error(i, f)
+		}
+	}
+	refused := api.Heard{At: 5, Addr: 1, Q: q("x", 1), Answer: api.Answer{Kind: 7}}
+	if l, f := evidence.Heard(h, refused); f != api.OK || !slices.Equal(l, []int{2, 3}) {
+		t.Error(l, f)
+	}
+}
+
+// P43.5: who could have said something just at the ends of the time.
+func TestDrift(t *testing.T) {
+	h := sample.Plain()
+	h.Drift = 4
+	h.Copies[1].From, h.Copies[1].Until = 20, 30
+	x := api.Heard{Addr: 2, Q: q("w.x", 1), Answer: answer(h, 1, 25, q("w.x", 1))}
+	for at, want := range map[int]bool{15: false, 16: true, 20: true, 29: true, 33: true, 34: false, 0: false, 199: false} {
+		x.At = at
+		if l, f := evidence.Heard(h, x); f != api.OK || (len(l) == 1) != want {
+			t.Error(at, l, f)
+		}
+	}
+	h.Copies[1].From, h.Copies[1].Until = 0, 1
+	x.Answer = answer(h, 1, 0, q("w.x", 1))
+	for at, want := range map[int]bool{0: true, 4: true, 5: false} {
+		x.At = at
+		if l, f := evidence.Heard(h, x); f != api.OK || (len(l) == 1) != want {
+			t.Error(at, l, f)
+		}
+	}
+	h.Copies[1].From, h.Copies[1].Until = 199, 200
+	x.Answer = answer(h, 1, 199, q("w.x", 1))
+	for at, want := range map[int]bool{194: false, 195: true, 199: true, 203: true, 204: false, 10000000: false} {
+		x.At = at
+		if l, f := evidence.Heard(h, x); f != api.OK || (len(l) == 1) != want {
+			t.Error(at, l, f)
+		}
+	}
+}

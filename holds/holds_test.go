@@ -3,6 +3,7 @@ package holds_test
 import (
 	"reflect"
 	"slices"
+	"strconv"
 	"testing"
 
 	"nameplan/api"
@@ -148,5 +149,75 @@ func TestLaws(t *testing.T) {
 				t.Error("a cache of possible sets")
 			}
 		}
+	}
+}
+
+// P23.1: the edges of times and sets, sets of two zones, and what is over.
+func TestEdges(t *testing.T) {
+	h := example(10)
+	for at, want := range map[int]api.Errno{-1: api.ErrArg, 0: api.OK, 20000000: api.OK, 20000001: api.ErrArg} {
+		_, e := holds.Possible(h, q("w.x", 1), at)
+		_, f := holds.Allowed(h, api.Cache{}, at)
+		if e != want || f != want {
+			t.Error(at, e, f)
+		}
+	}
+	for typ, want := range map[int]api.Errno{0: api.ErrArg, 1: api.OK, 8: api.OK, 9: api.ErrArg} {
+		if _, e := holds.Possible(h, q("w.x", typ), 5); e != want {
+			t.Error(typ, e)
+		}
+	}
+	if _, e := holds.Possible(h, q("W", 1), 5); e != api.ErrArg {
+		t.Error(e)
+	}
+	if _, e := holds.Possible(api.History{}, q("x", 1), 5); e != api.ErrArg {
+		t.Error(e)
+	}
+	if _, e := holds.Allowed(api.History{}, api.Cache{}, 5); e != api.ErrArg {
+		t.Error(e)
+	}
+	// the same set, published by the root and by x: it is possible once
+	twin := sample.With(sample.Bare(".", 1, "h"), signed("x", 2, 9, sample.Text("h")), signed("w.x", 1, 10, nums(7)))
+	h.Copies = append(h.Copies, api.Copy{Host: 1, Until: 20, Zone: twin})
+	l, e := holds.Possible(h, q("w.x", 1), 5)
+	all, f := holds.All(h)
+	both := slices.DeleteFunc(all, func(x api.Held) bool { return x.Signed.Set.Name != "w.x" })
+	if e != api.OK || f != api.OK || len(l) != 1 || len(both) != 2 || both[0].Zone != "." || both[1].Zone != "x" {
+		t.Error(l, both)
+	}
+	for _, c := range []struct {
+		e    api.Entry
+		t    int
+		want bool
+	}{
+		{api.Entry{Signed: signed("w.x", 1, 10, nums(7)), Zone: "x", Until: 50}, 32, true}, {api.Entry{Signed: signed("w.x", 1, 10, nums(7)), Zone: "x", Until: 50}, 33, false}, {api.Entry{Signed: signed("w.x", 1, 10, nums(7)), Zone: "x", Until: 40}, 40, true}, {api.Entry{Signed: signed("w.x", 1, 10, nums(7)), Zone: "x", Until: 41}, 40, false}, {api.Entry{Signed: signed("w.x", 1, 10, nums(7)), Zone: ".", Until: 50}, 32, true}, {api.Entry{Signed: signed("w.x", 1, 11, nums(7)), Zone: "x", Until: 50}, 5, false}, {api.Entry{Signed: signed("d.x", 1, 11), Zone: "x", Until: 50}, 5, true},
+	} {
+		if ok, e := holds.Allowed(h, api.Cache{List: []api.Entry{c.e}}, c.t); ok != c.want || e != api.OK {
+			t.Error(c, ok, e)
+		}
+	}
+	l[0].Set.Data[0].N, all[0].Spans[0].From, all[0].Signed.Set.Life = 99, 99, 99
+	if again, _ := holds.Possible(h, q("w.x", 1), 5); again[0].Set.Data[0].N == 99 {
+		t.Error("shared memory")
+	}
+}
+
+// P23.1: just 20000 sets of several zones.
+func TestMost(t *testing.T) {
+	h := example(10)
+	h.Copies = nil
+	for _, apex := range []string{"x", "y"} {
+		z := sample.Bare(apex, 1, "h")
+		for i := range 9998 {
+			z.Sets = append(z.Sets, signed("n"+strconv.Itoa(10000+i)+"."+apex, 1, 5, nums(1)))
+		}
+		h.Copies = append(h.Copies, api.Copy{Until: 20, Zone: z})
+	}
+	if l, e := holds.All(h); e != api.OK || len(l) != 20000 {
+		t.Error(len(l), e)
+	}
+	h.Copies = append(h.Copies, api.Copy{Until: 20, Zone: sample.Bare("z", 1, "h")})
+	if l, e := holds.All(h); e != api.ErrLimit || len(l) > 0 {
+		t.Error(len(l), e)
 	}
 }

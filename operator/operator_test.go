@@ -174,3 +174,67 @@ func TestLaws(t *testing.T) {
 		}
 	}
 }
+
+// P42.1: the edges of all fields, and memory of its own.
+func TestEdges(t *testing.T) {
+	h, p := begin(t, 10, 30, 60)
+	for at, want := range map[int]api.Errno{-1: api.ErrArg, 0: api.OK, 199: api.OK, 200: api.ErrArg} {
+		if _, e := operator.Take(h, p, api.Report{Kind: 3, At: at}); e != want {
+			t.Error(at, e)
+		}
+	}
+	one, _ := operator.Begin(h, plan(10))
+	for at, want := range map[int]api.Errno{9: api.ErrTime, 10: api.OK, 199: api.OK, 200: api.ErrArg} {
+		if x, e := operator.Take(h, one, api.Report{Kind: 1, At: at}); e != want || e == api.OK && x.Done[0] != at {
+			t.Error(at, e)
+		}
+	}
+	for by, want := range map[int]api.Errno{0: api.ErrArg, 1: api.OK, 189: api.OK, 190: api.ErrLate, 10000000: api.ErrLate, 10000001: api.ErrArg} {
+		if _, e := operator.Take(h, one, api.Report{Kind: 2, At: 5, By: by}); e != want {
+			t.Error(by, e)
+		}
+		if _, e := operator.Take(h, one, api.Report{Kind: 4, At: 10, By: by}); e != want {
+			t.Error(by, e)
+		}
+	}
+	long := api.Progress{Steps: make([]api.Step, 400)}
+	if _, e := operator.Pause(long); e != api.OK {
+		t.Error(e)
+	}
+	if _, e := operator.Pause(api.Progress{Done: []int{}, Steps: nil}); e != api.OK {
+		t.Error(e)
+	}
+	if _, e := operator.Pause(api.Progress{Steps: plan(5), Done: []int{5}}); e != api.OK {
+		t.Error(e)
+	}
+	empty := api.Progress{Paused: true}
+	for by, want := range map[int]api.Errno{-1: api.ErrArg, 0: api.OK, 10000000: api.OK, 10000001: api.ErrArg} {
+		if _, e := operator.Resume(empty, by); e != want {
+			t.Error(by, e)
+		}
+	}
+	for i, c := range []struct {
+		done []int
+		good bool
+	}{{[]int{10}, true}, {[]int{29}, true}, {[]int{30}, false}, {[]int{9}, false}, {[]int{10, 30, 60}, true}, {[]int{10, 30, 199}, true}, {[]int{10, 30, 200}, false}, {[]int{29, 30, 60}, true}, {[]int{30, 30, 60}, false}, {[]int{40, 50, 60}, true}, {[]int{40, 60}, false}} {
+		x := api.Progress{Steps: p.Steps, Done: c.done}
+		if _, e := operator.Real(h, x); (e == api.OK) != c.good {
+			t.Error(i, e)
+		}
+	}
+	bad := api.Progress{Steps: []api.Step{{At: 5}, {At: 4}}}
+	if _, e := operator.Take(h, bad, api.Report{Kind: 3, At: 9}); e != api.ErrArg {
+		t.Error(e)
+	}
+	if _, e := operator.Real(api.History{}, api.Progress{}); e != api.ErrArg {
+		t.Error(e)
+	}
+	done, _ := operator.Take(h, p, api.Report{Kind: 1, At: 10})
+	more, _ := operator.Take(h, done, api.Report{Step: 1, Kind: 2, At: 20, By: 1})
+	paused, _ := operator.Pause(done)
+	more.Done[0], paused.Done[0] = 99, 98
+	more.Steps[0].Stage.Puts[0].Zone.Sets[0].Set.Data[0].Text = "q"
+	if done.Done[0] != 10 || done.Steps[0].Stage.Puts[0].Zone.Sets[0].Set.Data[0].Text == "q" {
+		t.Error("shared memory")
+	}
+}
