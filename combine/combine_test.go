@@ -242,3 +242,64 @@ func ordered(t *testing.T, l []api.Clash, apart bool) {
 		}
 	}
 }
+
+// many returns a history in which hosts refer to a zone that is served at every second time: a clash for each host and each gap.
+func many(hosts, gaps int) api.History {
+	h := api.History{Anchor: sample.Signed(".", 6, 5, sample.Nums(1, 1)).Set, Hints: []int{1}, End: 2 * gaps}
+	root := sample.Sealed(sample.With(sample.Bare(".", 1, "a"), sample.Signed("x", 2, 1, sample.Text("a"))), 0, 9000, 1)
+	x := sample.Bare("x", 1, "a")
+	for i := range hosts {
+		h.Hosts = append(h.Hosts, api.Host{Name: "a", Addr: i + 1})
+		h.Copies = append(h.Copies, api.Copy{Host: i, Until: h.End, Zone: root})
+	}
+	h.Hosts = append(h.Hosts, api.Host{Name: "a", Addr: 90}, api.Host{Name: "a", Addr: 91})
+	for i := range gaps {
+		h.Copies = append(h.Copies, api.Copy{Host: hosts, From: 2*i + 1, Until: 2*i + 2, Zone: x})
+	}
+	return h
+}
+
+// P36.1: just 20000 clashes of data, and one more.
+func TestMost(t *testing.T) {
+	h := many(40, 500)
+	for i := range h.Copies {
+		if h.Copies[i].Zone.Apex == "x" {
+			h.Copies[i].Zone = sample.With(h.Copies[i].Zone, sample.Signed("w.x", 1, 1, sample.Nums(1)))
+		}
+	}
+	if l, e := combine.Data(h, q("w.x", 1)); e != api.OK || len(l) != 20000 {
+		t.Error(len(l), e)
+	}
+	h.Copies = append(h.Copies, api.Copy{Host: 41, Until: 1, Zone: h.Copies[0].Zone})
+	if l, e := combine.Data(h, q("w.x", 1)); e != api.ErrLimit || len(l) > 0 {
+		t.Error(len(l), e)
+	}
+	for typ, want := range map[int]api.Errno{0: api.ErrArg, 1: api.OK, 8: api.OK, 9: api.ErrArg} {
+		if _, e := combine.Data(sample.Rolled(), q("x", typ)); e != want {
+			t.Error(typ, e)
+		}
+	}
+	if _, e := combine.Data(sample.Rolled(), q("X", 1)); e != api.ErrArg {
+		t.Error(e)
+	}
+}
+
+// P36.1: too many clashes of keys.
+func TestTooMany(t *testing.T) {
+	h := api.History{Hosts: sample.Hosts(), Anchor: sample.Signed(".", 6, 5, sample.Nums(1, 1)).Set, Hints: []int{1}, End: 200}
+	z := sample.Bare("x", 1, "a")
+	for i := range 200 {
+		z.Sets = append(z.Sets, sample.Signed("n"+string([]byte{byte('a' + i/26), byte('a' + i%26)})+".x", 5, 500, sample.Text("t")))
+	}
+	for i := range 120 {
+		v := sample.With(z, sample.Signed("x", 7, 500, sample.Nums(i+1, 1)))
+		h.Copies = append(h.Copies, api.Copy{From: i, Until: i + 1, Zone: v})
+	}
+	if l, e := combine.Clashes(h); e != api.ErrLimit || len(l) > 0 {
+		t.Error(len(l), e)
+	}
+	h.Copies = h.Copies[:90]
+	if l, e := combine.Clashes(h); e != api.OK || len(l) < 90*200 {
+		t.Error(len(l), e)
+	}
+}

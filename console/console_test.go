@@ -226,3 +226,27 @@ func TestPlans(t *testing.T) {
 		}
 	}
 }
+
+// P45.1: numbers, sizes, the end at first, and all words that are written.
+func TestEdges(t *testing.T) {
+	expect(t, "end 10000000\nend 0\ndrift 99999999", "")
+	fails(t, "end 00", api.ErrSyntax, 1)
+	fails(t, "end 100000000", api.ErrSyntax, 1)
+	expect(t, strings.Repeat(" ", 8000), "")
+	fails(t, strings.Repeat(" ", 8001), api.ErrLimit, 0)
+	free := "host r 1 0\nhost s 2 1\nhint 1\nanchor 1 1\nserve 0 . 0 1000\nserve 1 x 5 1000\n"
+	expect(t, free+"truth 999 w.x addr\ntruth 4 w.x addr\ntruth 0 . key", "truth data w.x/addr\ntruth dark\ntruth data ./key\n")
+	fails(t, free+"truth 1000 w.x addr", api.ErrArg, 7)
+	expect(t, free+"protect w.x addr\nprove 0 1000\nprove 5 1000\nplan 5 900 keys x 2 1", "prove keys x 0 5\nprove accepted\nplan 5 6 7\n")
+	wrong := strings.Replace(free, "anchor 1 1", "anchor 7 1", 1)
+	expect(t, wrong+"protect w.x addr\nplan 5 900 keys x 8 1\nask 5 w.x addr\ncarry", "plan refused 0 anchor .\nask bogus 4\ncarry 2\n")
+	expect(t, strings.Replace(free, "hint 1", "hint 9", 1)+"ask 5 w.x addr", "ask dark 1\n")
+	expect(t, free+"ask 5 w.x addr\ncarry\njudge\nserve 1 plain 0 9\njudge\nfindings 5", "ask secure 5 w.x/addr\ncarry 2\njudge none 0 0 0\njudge none 0 0 0\nfindings sides:plain:plain\n")
+	for _, line := range []string{"plan", "plan 5", "plan 5 6", "plan 5 6 keys", "plan 5 6 keys x 1 1 1", "plan 5 6 addr x y 1 1", "plan 5 6 split x y 1 1", "plan 5 6 split x y 1", "plan 5 6 move x 1 y", "plan a 6 move x 1", "plan 5 06 move x 1"} {
+		fails(t, line, api.ErrSyntax, 1)
+	}
+	fails(t, free+"plan 5 1000 move x 1", api.ErrArg, 7)
+	fails(t, free+"prove 0 1001", api.ErrArg, 7)
+	fails(t, free+"protect w.x addr\nprotect X addr\nprove 5 9", api.ErrArg, 9)
+	fails(t, free+"plan 5 9 split x w.x 1 1 7", api.ErrArg, 7)
+}

@@ -118,6 +118,12 @@ func crafted(d *sample.Dice) []api.History {
 	out = append(out, lasting)
 	split := put(signed("c.x", 2, 10, text("u")), signed("c.x", 6, 10, nums(9, 1)))
 	out = append(out, edited(edited(plain, 1, "x", 30, split), 3, "x", 30, split))
+	out = append(out, apart()...)
+	texted := put(signed("w.x", 5, 10, text("t")))
+	out = append(out, edited(edited(plain, 1, "x", 40, texted), 3, "x", 40, texted))
+	unanchored := drop(q("y", 6))
+	anchored := put(signed("y", 6, 10, nums(3, 1)))
+	out = append(out, edited(edited(edited(edited(plain, 0, ".", 0, unanchored), 2, ".", 0, unanchored), 0, ".", 40, anchored), 2, ".", 40, anchored))
 	for i := range 12 {
 		h := d.Shaken()
 		if i%3 == 0 {
@@ -126,4 +132,56 @@ func crafted(d *sample.Dice) []api.History {
 		out = append(out, h)
 	}
 	return out
+}
+
+// apart returns histories in which a zone c is served, and its host is named, but it is not delegated; and some in which servers are named in their zones, or in others.
+func apart() []api.History {
+	text, nums, signed := sample.Text, sample.Nums, sample.Signed
+	var out []api.History
+	for i := range 5 {
+		h := twice()
+		h.Hints = []int{1}
+		h.Copies = h.Copies[:3]
+		root := sample.With(h.Copies[0].Zone, signed("y", 2, 10, text("h.c")), signed("h.c", 1, 10, nums(2)))
+		c := sample.With(sample.Bare("c", 1, "h.c"), signed("h.c", 1, 10, nums(2)))
+		host := 3
+		switch i {
+		case 1:
+			h.Hints = []int{1, 4}
+		case 2:
+			h.Copies = append(h.Copies, api.Copy{Host: 3, Until: 100})
+		case 3:
+			root = sample.With(root, signed("r", 1, 10, nums(1), nums(4)))
+		case 4:
+			host = 1
+			h.Copies = append(h.Copies, api.Copy{Host: 1, Until: 100})
+		}
+		h.Copies[0].Zone = sample.Sealed(sample.Numbered(root, 2), 0, 20000000, 1)
+		for k, x := range h.Copies {
+			if x.Zone.Apex == "" {
+				h.Copies[k].Zone = h.Copies[0].Zone
+			}
+		}
+		h.Copies[2].Zone = sample.Sealed(sample.With(h.Copies[2].Zone, signed("y", 2, 10, text("h.c"))), 0, 20000000, 3)
+		c = sample.With(c, signed("c", 2, 10, text(h.Hosts[host].Name)))
+		h.Copies = append(h.Copies, api.Copy{Host: host, Until: 100, Zone: sample.Sealed(c, 0, 20000000, 7)})
+		out = append(out, h)
+	}
+	// x is served by a host that is named in y alone
+	other := twice()
+	other.Copies = other.Copies[:3]
+	other.Hints = []int{1}
+	other.Copies[0].Zone = sample.Sealed(sample.With(other.Copies[0].Zone, signed("x", 2, 10, text("h.y"))), 0, 20000000, 1)
+	other.Copies[1].Zone = sample.Sealed(sample.With(other.Copies[1].Zone, signed("x", 2, 10, text("h.y"))), 0, 20000000, 2)
+	other.Copies[2].Zone = sample.Sealed(sample.With(other.Copies[2].Zone, signed("h.y", 1, 10, nums(2))), 0, 20000000, 3)
+	// x is served by a host with its own name, with and without glue
+	own := twice()
+	own.Copies = own.Copies[:3]
+	own.Hints = []int{1}
+	own.Copies[0].Zone = sample.Sealed(sample.With(own.Copies[0].Zone, signed("x", 2, 10, text("x"))), 0, 20000000, 1)
+	own.Copies[1].Zone = sample.Sealed(sample.With(own.Copies[1].Zone, signed("x", 2, 10, text("x")), signed("x", 1, 10, nums(2))), 0, 20000000, 2)
+	glued := own
+	glued.Copies = slices.Clone(own.Copies)
+	glued.Copies[0].Zone = sample.Sealed(sample.With(own.Copies[0].Zone, signed("x", 1, 10, nums(2))), 0, 20000000, 1)
+	return append(out, other, own, glued)
 }

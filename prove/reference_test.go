@@ -316,7 +316,7 @@ func TestReference(t *testing.T) {
 	d := sample.New(61)
 	wins := map[int]int{}
 	for i, h := range crafted(d) {
-		for _, asked := range [][]api.Question{{q("w.x", 1)}, {q("t.y.x", 5), q("b.ns", 1)}, {q("n.x", 1), q("x", 8)}, {q("h.u", 1)}, {q("n.x", 1)}, {q("w.y", 1)}, {q("w.y", 1), q("y", 6)}, {q("l.x", 5), q("c.x", 6)}} {
+		for _, asked := range [][]api.Question{{q("w.x", 1)}, {q("t.y.x", 5), q("b.ns", 1)}, {q("n.x", 1), q("x", 8)}, {q("h.u", 1)}, {q("n.x", 1)}, {q("w.y", 1)}, {q("w.y", 1), q("y", 6)}, {q("w.x", 5)}, {q("y", 6)}, {q("l.x", 5), q("c.x", 6)}, {q("l.x", 3), q("l.x", 8)}} {
 			r := newReference(h, asked)
 			parts := append(r.first(), r.last()...)
 			for k := range 16 {
@@ -329,6 +329,15 @@ func TestReference(t *testing.T) {
 				}
 				wins[part]++
 			}
+		}
+	}
+	if x, ok, e := prove.Prove(sample.Tree(), []api.Question{q("l.x", 3), q("l.x", 8), q("y.x", 8)}, 0, 100); e != api.OK || !ok {
+		t.Error("an alias does not mislead about itself", x, e)
+	}
+	for i, h := range apart() {
+		x, ok, e := prove.Prove(h, []api.Question{q([]string{"w.y", "w.x"}[i/5], 1)}, 0, 100)
+		if want := i == 0 || i == 5 || i == 7; e != api.OK || ok != want || !want && i < 5 && x.Q != q("c", 6) {
+			t.Error(i, x, ok, e)
 		}
 	}
 	for part := range 11 {
@@ -352,4 +361,47 @@ func same(a, b api.Clash) bool {
 		empty(&x.Two)
 	}
 	return reflect.DeepEqual(a, b)
+}
+
+// P37.1: just as many questions as there may be.
+func TestQuestions(t *testing.T) {
+	for n, want := range map[int]api.Errno{50: api.OK, 51: api.ErrArg} {
+		if _, _, e := prove.Prove(sample.Tree(), slices.Repeat([]api.Question{q("w.x", 1)}, n), 5, 9); e != want {
+			t.Error(n, e)
+		}
+	}
+	for typ, want := range map[int]api.Errno{0: api.ErrArg, 1: api.OK, 8: api.OK, 9: api.ErrArg} {
+		if _, _, e := prove.Prove(sample.Tree(), []api.Question{q("w.x", typ)}, 5, 9); e != want {
+			t.Error(typ, e)
+		}
+	}
+	if _, _, e := prove.Prove(sample.Tree(), nil, 100, 100); e != api.OK {
+		t.Error(e)
+	}
+	if _, _, e := prove.Prove(sample.Tree(), nil, 0, 101); e != api.ErrArg {
+		t.Error(e)
+	}
+}
+
+// P37.1: too many clashes of data are an error, whatever else is found before.
+func TestTooMany(t *testing.T) {
+	h := api.History{Anchor: sample.Signed(".", 6, 5, sample.Nums(1, 1)).Set, Hints: []int{1}, End: 1000}
+	root := sample.Sealed(sample.With(sample.Bare(".", 1, "a"), sample.Signed("x", 2, 1, sample.Text("a"))), 0, 9000, 1)
+	x := sample.With(sample.Bare("x", 1, "a"), sample.Signed("w.x", 1, 1, sample.Nums(1)))
+	for i := range 41 {
+		h.Hosts = append(h.Hosts, api.Host{Name: "a", Addr: i + 1})
+		h.Copies = append(h.Copies, api.Copy{Host: i, Until: 1000, Zone: root})
+	}
+	for i := range 499 {
+		h.Copies = append(h.Copies, api.Copy{Host: 0, From: 2*i + 1, Until: 2*i + 2, Zone: x})
+	}
+	if l, e := combine.Data(h, q("w.x", 1)); e != api.ErrLimit {
+		t.Fatal(len(l), e)
+	}
+	if c, ok, e := prove.Prove(h, []api.Question{q("w.x", 1)}, 0, 1000); e != api.ErrLimit || ok || c.Kind != 0 {
+		t.Error(c.Kind, ok, e)
+	}
+	if c, ok, e := prove.Prove(h, []api.Question{q("x", 2)}, 0, 1000); e == api.OK && (ok || c.Kind == 0) {
+		t.Error(c.Kind, ok, e)
+	}
 }
