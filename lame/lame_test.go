@@ -195,3 +195,20 @@ func TestMore(t *testing.T) {
 	w.Zones = []api.Placed{{Host: 1, Zone: sample.Bare("q.x", 1, "a")}, {Host: 0, Zone: sample.With(root, signed("q.x", 2, 9, text("a")), signed("x", 5, 1, text("t")))}}
 	check(find(4, "q.x", "q.x"))
 }
+
+// P18.1: of two copies with one serial number that of the lesser host counts.
+func TestTwins(t *testing.T) {
+	hosts := []api.Host{{Name: "a", Addr: 1}, {Name: "b", Addr: 2}, {Name: "c", Addr: 3}}
+	root := sample.With(sample.Bare(".", 1, "a"), signed("a", 1, 9, nums(1)), signed("b", 1, 9, nums(2)), signed("x", 2, 9, text("b")))
+	good, bad := sample.Bare("x", 1, "b"), sample.Bare("x", 1, "a")
+	for i, order := range [][]api.Placed{{{Host: 1, Zone: good}, {Host: 2, Zone: bad}}, {{Host: 2, Zone: bad}, {Host: 1, Zone: good}}} {
+		w := api.World{Hosts: hosts, Anchor: signed(".", 6, 5, nums(1, 1)).Set, Hints: []int{1}, Zones: append([]api.Placed{{Host: 0, Zone: root}}, order...)}
+		if l, e := lame.Findings(w); e != api.OK || len(l) > 0 {
+			t.Error(i, l, e)
+		}
+		w.Zones[1].Zone, w.Zones[2].Zone = w.Zones[2].Zone, w.Zones[1].Zone
+		if l, e := lame.Findings(w); e != api.OK || !slices.Equal(l, []api.Finding{find(4, "x", "x")}) {
+			t.Error(i, l, e)
+		}
+	}
+}

@@ -327,3 +327,21 @@ func TestSize(t *testing.T) {
 		t.Error(e)
 	}
 }
+
+// P31.3: each part of the result counts.
+func TestResult(t *testing.T) {
+	good, _ := resolve(t, api.Cache{}, q("l.x", 5), 0)
+	check(t, good, true)
+	less, other := good, good
+	less.Result.Sets = good.Result.Sets[:1]
+	other.Result.Sets = slices.Clone(good.Result.Sets)
+	other.Result.Sets[0].Set.Life++
+	check(t, less, false)
+	check(t, other, false)
+	dark := api.Transcript{Q: q("t.x", 5), At: 5, Heard: []api.Heard{{At: 5, Addr: 1, Q: q("t.x", 5)}, {At: 5, Addr: 2, Q: q("t.x", 5)}}, Result: api.Verdict{Kind: 3, Q: q("t.x", 5)}}
+	check(t, dark, true)
+	dark.Result.Q.Type = 1
+	check(t, dark, false)
+	dark.Result = api.Verdict{Kind: 2}
+	check(t, dark, false)
+}

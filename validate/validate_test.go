@@ -358,3 +358,14 @@ func TestTaken(t *testing.T) {
 		}
 	}
 }
+
+// P30.1: the wildcard of the root.
+func TestRootWildcard(t *testing.T) {
+	rootKeys := by(signed(".", 7, 5, nums(1, 1)), ".", 1)
+	wild := by(signed("*", 5, 5, text("w")), ".", 1)
+	proof := by(signed("p", 8, 5, api.Datum{Text: "r", N: 258}), ".", 1)
+	v, e := validate.Judge([]api.Signed{rootKeys, wild, proof}, anchor, q("q", 5), 50, 5)
+	if want := (api.Verdict{Kind: api.Secure, Sets: []api.Signed{wild, proof}}); e != api.OK || !reflect.DeepEqual(v, want) {
+		t.Error(v, e)
+	}
+}

@@ -250,3 +250,13 @@ func TestLimits(t *testing.T) {
 		t.Error(e, f, g)
 	}
 }
+
+// P38.1: the moments of signatures that end before their set does.
+func TestSignatures(t *testing.T) {
+	z := sample.With(sample.Bare("x", 1, "h"), sample.Signed("w.x", 1, 10, sample.Nums(7)))
+	z.Sets[2].Sigs = []api.Sig{{Zone: "x", Key: 1, Alg: 1, From: 3, Until: 25}}
+	h := api.History{Hosts: sample.Hosts(), Copies: []api.Copy{{Until: 60, Zone: z}}, Anchor: sample.Signed(".", 6, 5, sample.Nums(1, 1)).Set, Hints: []int{1}, Drift: 2, End: 100}
+	if l, e := waits.Moments(h); e != api.OK || !slices.Equal(l, []int{0, 5, 24, 28, 60, 73}) {
+		t.Error(l, e)
+	}
+}

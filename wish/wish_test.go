@@ -336,6 +336,11 @@ func TestParts(t *testing.T) {
 			t.Error(i, ok, e)
 		}
 	}
+	for _, kind := range []int{-1, 0, 5, 1 << 40} {
+		if ok, e := wish.Done(m, api.Wish{Kind: kind, Zone: "x", Name: "w.x", Hosts: []int{2, 0}}); ok || e != api.ErrArg {
+			t.Error(kind, ok, e)
+		}
+	}
 	turned := move
 	turned.Hosts = []int{2, 0}
 	if ok, e := wish.Done(m, turned); !ok || e != api.OK {
