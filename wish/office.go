@@ -29,6 +29,31 @@ type office struct {
 	got         map[string][]int // the hosts that got a copy of an apex in an earlier stage
 }
 
+// stages returns the stages of the wish that have Puts.
+func (o *office) stages() (out []api.Stage, e api.Errno) {
+	defer func() {
+		if r := recover(); r != nil {
+			f, is := r.(fault)
+			if !is {
+				panic(r)
+			}
+			out, e = nil, f.e
+		}
+	}()
+	switch o.wish.Kind {
+	case api.WishMove:
+		out = o.move()
+	case api.WishKeys:
+		out = o.keys()
+	case api.WishAddr:
+		out = o.addr()
+	default:
+		out = o.split()
+	}
+	return slices.DeleteFunc(out, func(s api.Stage) bool { return len(s.Puts) == 0 }), api.OK
+}
+
+// need leaves the stages with an error, unless something is so.
 func (o *office) need(ok bool, e api.Errno) {
 	if !ok {
 		panic(fault{e})
