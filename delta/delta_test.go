@@ -150,7 +150,11 @@ func TestLaws(t *testing.T) {
 // P11.1: zones that are not valid, and limits.
 func TestLimits(t *testing.T) {
 	z := sample.Bare("x", 1, "h")
-	for i, c := range [][2]api.Zone{{{}, z}, {z, {}}, {z, sample.Bare("y", 2, "h")}} {
+	none := api.Zone{Apex: "x"}
+	if out, e := delta.Apply(none, api.Delta{Apex: "x", From: 1, To: 2}); e != api.ErrArg || out.Apex != "" {
+		t.Error(e)
+	}
+	for i, c := range [][2]api.Zone{{{}, z}, {z, {}}, {none, z}, {z, none}, {none, none}, {z, sample.Bare("y", 2, "h")}} {
 		if d, e := delta.Diff(c[0], c[1]); e != api.ErrArg || d.Apex != "" {
 			t.Error(i, e)
 		}
@@ -184,7 +188,7 @@ func TestLimits(t *testing.T) {
 		want api.Errno
 	}{
 		{with(put[:19999], nil), next, api.OK}, {with(put[:19999], nil), more, api.ErrLimit}, {with(put[:19998], nil), more, api.OK}, {with(nil, drop[:20000]), next, api.OK}, {with(nil, drop[:20000]), long, api.ErrLimit}, {with(nil, drop[:19999]), long, api.OK},
-		{api.Delta{}, next, api.ErrArg}, {with(nil, nil), api.Delta{Apex: "y", From: 2, To: 3}, api.ErrArg}, {with(nil, nil), api.Delta{Apex: "x", From: 2, To: 2}, api.ErrArg}, {api.Delta{Apex: "*.x", From: 1, To: 2}, api.Delta{Apex: "*.x", From: 2, To: 3}, api.ErrArg}, {api.Delta{Apex: "x", From: 1, To: 65536}, next, api.ErrArg}, {api.Delta{Apex: "x", From: -1, To: 2}, next, api.ErrArg},
+		{api.Delta{}, next, api.ErrArg}, {with(nil, nil), api.Delta{Apex: "y", From: 2, To: 3}, api.ErrArg}, {with(nil, nil), api.Delta{Apex: "x", From: 2, To: 2}, api.ErrArg}, {api.Delta{Apex: "*.x", From: 1, To: 2}, api.Delta{Apex: "*.x", From: 2, To: 3}, api.ErrArg}, {api.Delta{Apex: "x", From: 1, To: 65536}, next, api.ErrArg}, {api.Delta{Apex: "x", From: 1, To: 65538}, api.Delta{Apex: "x", From: 65538, To: 65539}, api.ErrArg}, {api.Delta{From: 1, To: 2}, api.Delta{From: 2, To: 3}, api.ErrArg}, {api.Delta{Apex: "X", From: 1, To: 2}, api.Delta{Apex: "X", From: 2, To: 3}, api.ErrArg}, {api.Delta{Apex: "x", From: -1, To: 2}, next, api.ErrArg},
 	} {
 		if out, e := delta.Join(c.d, c.e); e != c.want || (e == api.OK) != (out.Apex != "") {
 			t.Error(i, e)

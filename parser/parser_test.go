@@ -88,7 +88,7 @@ func TestErrors(t *testing.T) {
 func TestEdges(t *testing.T) {
 	for entry, e := range map[string]api.Errno{
 		"addr 1": 0, "addr 1000000": 0, "addr 0": 3, "addr 1000001": 3, "start 0 0": 0, "start 65535 100000": 0, "start 65536 1": 3, "start 1 100001": 3, "anchor 1 1": 0, "anchor 1000000 3": 0, "anchor 0 1": 3, "anchor 1000001 1": 3, "anchor 1 0": 3, "anchor 1 4": 3,
-		"key 1 1": 0, "key 1000000 3": 0, "key 0 1": 3, "key 1000001 1": 3, "key 1 0": 3, "key 1 4": 3, "addr life 100000 1": 0, "addr life 100001 1": 3, "addr life 0 1": 0, `text "0123456789012345678901234567890123456789"`: 0, `text "a-b"`: 3, `text "a "`: 3, "server *.x": 11, "alias *": 11, "server .": 0, "key 1 2, 1 1": 0,
+		"key 1 1": 0, "key 1000000 3": 0, "key 0 1": 3, "key 1000001 1": 3, "key 1 0": 3, "key 1 4": 3, "addr life 100000 1": 0, "addr life 100001 1": 3, "addr life 0 1": 0, `text "0123456789012345678901234567890123456789"`: 0, `text "a-b"`: 3, `text "a "`: 3, "server *.x": 11, "alias *": 11, "server .": 0, "key 1 2, 1 1": 0, "alias life": 0, "alias life 5 life": 0, "server life": 0, "server life, b": 0, "server life 5 life, b": 0,
 	} {
 		z, l := parser.Parse("zone x { a.x " + entry + "; }")
 		if e == 0 && (len(l) > 0 || len(z) != 1 || !record.Valid(z[0].Sets[0].Set)) || e != 0 && (len(l) != 1 || l[0].Err != e) {

@@ -261,6 +261,11 @@ func TestClosest(t *testing.T) {
 		if e != api.OK || f != e || g != e || h != e || a.Kind != api.AnsData || b.Kind != api.AnsData || c.Kind != api.AnsData || d.Kind != api.AnsNoData || d.Sets[0].Set.Name != "y.x" {
 			t.Error(order, a, b, c, d)
 		}
+		for s, want := range map[string]string{"t.y.x": "y.x", "y.x": "y.x", "b.x": "x", "y": "."} {
+			if h, e := world.Home(w, s); h != want || e != api.OK {
+				t.Error(order, s, h, e)
+			}
+		}
 		w.Zones = slices.DeleteFunc(w.Zones, func(p api.Placed) bool { return p.Zone.Apex == "x" })
 		if a, _ := world.Ask(w, 2, q("y.x", 6)); a.Kind != api.AnsRefer || a.Cut != "x" {
 			t.Error(order, a)
