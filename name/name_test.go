@@ -42,7 +42,7 @@ func TestRefused(t *testing.T) {
 // P1.1: names at the limits, and just behind them.
 func TestLimits(t *testing.T) {
 	long := strings.Repeat("abcdefghij.", 5) + "abcde"
-	for s, want := range map[string]bool{"abcdefghijkl": true, "abcdefghijklm": false, long: true, long + "f": false, "a.b.c.d.e.f.g.h": true, "a.b.c.d.e.f.g.h.i": false, "*.b.c.d.e.f.g.h": true, "a--b": true, "0-0": true} {
+	for s, want := range map[string]bool{"abcdefghijkl": true, "abcdefghijklm": false, long: true, long + "f": false, "a.b.c.d.e.f.g.h": true, "a.b.c.d.e.f.g.h.i": false, "*.b.c.d.e.f.g.h": true, "a--b": true, "0-0": true, "9": true, "z.9a": true, "a.z9": true} {
 		l, e := name.Labels(s)
 		if name.Valid(s) != want || (e == api.OK) != want || want != (len(l) > 0) {
 			t.Errorf("%q: %v %v", s, l, e)
