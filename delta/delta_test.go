@@ -66,7 +66,7 @@ func TestExample(t *testing.T) {
 		t.Error(d, e)
 	}
 	f := d
-	f.From, f.To, f.Drop, f.Put = 2, 3, []api.Question{{Name: "v.x", Type: 1}, {Name: "w.x", Type: 1}, {Name: "v.x", Type: 1}}, []api.Signed{signed("x", 4, 1, nums(3))}
+	f.From, f.To, f.Drop, f.Put = 2, 3, []api.Question{{Name: "v.x", Type: 1}, {Name: "w.x", Type: 1}}, []api.Signed{signed("x", 4, 1, nums(3))}
 	j, e := delta.Join(d, f)
 	if e != api.OK || !reflect.DeepEqual(j, api.Delta{Apex: "x", From: 1, To: 3, Drop: []api.Question{{Name: "v.x", Type: 1}, {Name: "w.x", Type: 1}}, Put: f.Put}) {
 		t.Error(j, e)
@@ -112,6 +112,52 @@ func TestErrors(t *testing.T) {
 	}
 }
 
+// P11.1: the questions of Drop come each one before the next one, by names, and then by types.
+func TestDrop(t *testing.T) {
+	z := sample.With(sample.Bare("x", 2, "h"), signed("w.x", 1, 5, nums(7)))
+	asks := func(name string, typ int) api.Question { return api.Question{Name: name, Type: typ} }
+	start := func(n int) api.Delta {
+		return api.Delta{Apex: "x", From: n - 1, To: n, Put: []api.Signed{signed("x", 4, 1, nums(n))}}
+	}
+	for i, c := range []struct {
+		drop []api.Question
+		e    api.Errno
+	}{
+		{nil, api.OK}, {[]api.Question{asks("w.x", 1)}, api.OK},
+		{[]api.Question{asks("x", 1), asks("w.x", 1), asks("w.x", 5)}, api.OK},
+		{[]api.Question{asks("w.x", 1), asks("w.x", 1)}, api.ErrArg},
+		{[]api.Question{asks("w.x", 1), asks("x", 1)}, api.ErrArg},
+		{[]api.Question{asks("w.x", 5), asks("w.x", 1)}, api.ErrArg},
+		{[]api.Question{asks("v.x", 5), asks("w.x", 1)}, api.OK},
+		{[]api.Question{asks("w.x", 1), asks("v.x", 5)}, api.ErrArg},
+		{[]api.Question{asks("w.x", 1), asks("w.x", 5), asks("w.x", 1)}, api.ErrArg},
+		{[]api.Question{asks("v.x", 1), asks("w.x", 1), asks("x", 1)}, api.ErrArg},
+		{[]api.Question{asks(".", 8), asks("v.x", 1), asks("a.v.x", 1), asks("w.x", 1), asks("y", 1)}, api.OK},
+		{[]api.Question{asks("a.v.x", 1), asks("v.x", 1)}, api.ErrArg},
+		{[]api.Question{asks("v.x", 1), asks("w.x", 9)}, api.ErrArg},
+		{[]api.Question{asks("v.x", 1), asks("W.x", 1)}, api.ErrArg},
+		{[]api.Question{asks("", 1), asks("w.x", 1)}, api.ErrArg},
+	} {
+		d := start(3)
+		d.Drop = c.drop
+		if out, e := delta.Apply(z, d); e != c.e || (e == api.OK) != (len(out.Sets) > 0) || (e == api.OK) != (out.Apex == "x") {
+			t.Error(i, e, out)
+		}
+		for _, both := range [][2]api.Delta{{d, start(4)}, {start(2), d}} {
+			j, e := delta.Join(both[0], both[1])
+			if e != c.e || e != api.OK && !reflect.DeepEqual(j, api.Delta{}) || e == api.OK && !slices.Equal(j.Drop, c.drop) {
+				t.Error(i, e, j)
+			}
+		}
+	}
+}
+
+// inForm reports whether a difference is in form: it cannot follow itself, but for no other reason.
+func inForm(d api.Delta) bool {
+	_, e := delta.Join(d, d)
+	return e == api.ErrOld
+}
+
 // P11.3 to P11.7: differences of arbitrary versions.
 func TestLaws(t *testing.T) {
 	d := sample.New(15)
@@ -123,6 +169,9 @@ func TestLaws(t *testing.T) {
 		j, e3 := delta.Join(x, y)
 		if e1 != api.OK || e2 != api.OK || e3 != api.OK {
 			t.Fatal(e1, e2, e3)
+		}
+		if !inForm(x) || !inForm(y) || !inForm(j) {
+			t.Error("not in form", x, y, j)
 		}
 		ab, e := delta.Apply(a, x)
 		if e != api.OK || !value.SameZone(ab, b) || !zone.Valid(ab) {
@@ -173,7 +222,7 @@ func TestLimits(t *testing.T) {
 	for i, c := range []struct {
 		d api.Delta
 		e api.Errno
-	}{{with(put[:19998], nil), api.OK}, {with(put[:19999], nil), api.ErrLimit}, {with(put[:20000], nil), api.ErrArg}, {with(nil, drop[:20000]), api.OK}, {with(nil, drop), api.ErrArg}, {with(nil, []api.Question{{Name: "x", Type: 8}, {Name: "x", Type: 1}}), api.OK}, {with(nil, []api.Question{{Name: "X", Type: 8}}), api.ErrArg}, {with(nil, []api.Question{{Name: "x", Type: 0}}), api.ErrArg}} {
+	}{{with(put[:19998], nil), api.OK}, {with(put[:19999], nil), api.ErrLimit}, {with(put[:20000], nil), api.ErrArg}, {with(nil, drop[:20000]), api.OK}, {with(nil, drop), api.ErrArg}, {with(nil, []api.Question{{Name: "x", Type: 1}, {Name: "x", Type: 8}}), api.OK}, {with(nil, []api.Question{{Name: "X", Type: 8}}), api.ErrArg}, {with(nil, []api.Question{{Name: "x", Type: 0}}), api.ErrArg}} {
 		if out, e := delta.Apply(z, c.d); e != c.e || (e == api.OK) != (out.Apex != "") {
 			t.Error(i, e)
 		}

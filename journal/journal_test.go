@@ -330,3 +330,43 @@ func TestFull(t *testing.T) {
 		t.Error(e)
 	}
 }
+
+// P13.1: differences that are not in form, as the questions of Drop are not in order, are neither appended nor read.
+func TestForm(t *testing.T) {
+	old, now := sample.Bare("x", 0, "a"), sample.Bare("x", 1, "a")
+	x, _ := delta.Diff(old, now)
+	x.Drop = []api.Question{{Name: "v.x", Type: 1}, {Name: "w.x", Type: 1}}
+	begun, _ := journal.Begin(old)
+	d, e := journal.Append(begun, x)
+	if e != api.OK {
+		t.Fatal(e)
+	}
+	whole, _ := journal.Sync(d)
+	load(t, whole, now, true)
+	good := d.Pending[1][13 : len(d.Pending[1])-8]
+	asked := []byte("\x03v.x\x01\x03w.x\x01")
+	for i, drop := range [][]api.Question{
+		{{Name: "w.x", Type: 1}, {Name: "w.x", Type: 1}},
+		{{Name: "w.x", Type: 1}, {Name: "v.x", Type: 1}},
+		{{Name: "w.x", Type: 5}, {Name: "w.x", Type: 1}},
+	} {
+		y := x
+		y.Drop = drop
+		for _, d := range []api.Disk{begun, {Safe: begun.Pending[0]}, {}} {
+			if out, e := journal.Append(d, y); e != api.ErrArg || len(out.Safe)+len(out.Pending) > 0 {
+				t.Error(i, e)
+			}
+		}
+		var w []byte
+		for _, q := range drop {
+			w = slices.Concat(w, []byte{byte(len(q.Name))}, []byte(q.Name), []byte{byte(q.Type)})
+		}
+		frame := framed(2, bytes.Replace(good, asked, w, 1))
+		load(t, api.Disk{Safe: slices.Concat(begun.Pending[0], frame)}, old, true)
+		for _, d := range []api.Disk{{Pending: [][]byte{begun.Pending[0], frame}}, {Safe: begun.Pending[0], Pending: [][]byte{frame}}} {
+			if out, e := journal.Sync(d); e != api.ErrArg || len(out.Safe) > 0 {
+				t.Error(i, e)
+			}
+		}
+	}
+}

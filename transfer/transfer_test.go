@@ -190,3 +190,35 @@ func TestLimits(t *testing.T) {
 		t.Error(is, e)
 	}
 }
+
+// P14.1: an offer is not valid if a difference of it is not in form, as the questions of Drop are not in order.
+func TestForm(t *testing.T) {
+	l := []api.Zone{sample.Bare("x", 1, "a"), sample.Bare("x", 2, "a"), sample.Bare("x", 3, "a")}
+	for i, c := range []struct {
+		drop []api.Question
+		e    api.Errno
+	}{
+		{[]api.Question{{Name: "x", Type: 1}, {Name: "w.x", Type: 1}, {Name: "w.x", Type: 5}}, api.OK},
+		{[]api.Question{{Name: "w.x", Type: 1}, {Name: "w.x", Type: 1}}, api.ErrArg},
+		{[]api.Question{{Name: "w.x", Type: 1}, {Name: "x", Type: 1}}, api.ErrArg},
+		{[]api.Question{{Name: "w.x", Type: 5}, {Name: "w.x", Type: 1}}, api.ErrArg},
+	} {
+		for k := range 2 {
+			o, _ := transfer.Serve(l, true, 1)
+			o.Deltas[k].Drop = c.drop
+			if s, e := transfer.Take(with(l[0], 0), o, 5); e != c.e || s.Has != (e == api.OK) || e == api.OK && !reflect.DeepEqual(s, with(l[2], 5)) {
+				t.Error(i, k, e)
+			}
+			without := c.e
+			if without == api.OK {
+				without = api.ErrState
+			}
+			if s, e := transfer.Take(api.Secondary{}, o, 5); e != without || s.Has {
+				t.Error(i, k, e)
+			}
+			if s, e := transfer.Take(with(l[2], 0), o, 5); (c.e == api.ErrArg) != (e == api.ErrArg) || s.Has {
+				t.Error(i, k, e)
+			}
+		}
+	}
+}
